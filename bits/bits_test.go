@@ -10,16 +10,8 @@ import (
 
 	"parquetry/api"
 	"parquetry/bits"
+	"parquetry/samples"
 )
-
-// vector answers the vector whose Text is s.
-func vector(s string) *bits.Vec {
-	v := bits.New()
-	for _, r := range s {
-		v.Add(int(r - '0'))
-	}
-	return v
-}
 
 // lowest is the text of the lowest k bits of x, the lowest first.
 func lowest(x uint64, k int) string {
@@ -95,7 +87,7 @@ func TestP1_1Num(t *testing.T) {
 	for _, ahead := range texts() {
 		for _, k := range []int{math.MinInt, -1, 0, 1, 2, 7, 8, 31, 32, 33, 63, 64, 65, 128, math.MaxInt} {
 			for _, y := range []uint64{x, math.MaxUint64, 0} {
-				v := vector(ahead)
+				v := samples.Vec(ahead)
 				v.Num(y, k)
 				v.Num(1, 2)
 				check(t, v, ahead+lowest(y, k)+"10")
@@ -107,14 +99,14 @@ func TestP1_1Num(t *testing.T) {
 func TestP1_1Join(t *testing.T) {
 	for _, a := range texts() {
 		for _, b := range texts() {
-			v, w := vector(a), vector(b)
+			v, w := samples.Vec(a), samples.Vec(b)
 			v.Join(w)
 			check(t, v, a+b)
 			check(t, w, b)
 			w.Add(1)
 			check(t, v, a+b)
 		}
-		v := vector(a)
+		v := samples.Vec(a)
 		v.Join(v)
 		v.Join(v)
 		check(t, v, a+a+a+a)
@@ -125,7 +117,7 @@ func TestP1_1Join(t *testing.T) {
 
 func TestP1_1Cut(t *testing.T) {
 	for _, s := range texts() {
-		v := vector(s)
+		v := samples.Vec(s)
 		for _, from := range []int{0, 1, 5, 63, 64, 65, 100, len(s)} {
 			for _, to := range []int{0, 1, 6, 63, 64, 65, 128, 129, 150, len(s)} {
 				c, e := v.Cut(from, to)
@@ -148,7 +140,7 @@ func TestP1_1Cut(t *testing.T) {
 }
 
 func TestP1_1CutWrong(t *testing.T) {
-	v := vector("0110101")
+	v := samples.Vec("0110101")
 	for _, x := range [][2]int{
 		{-1, 0}, {-1, 2}, {-1, -1}, {3, 2}, {7, 6}, {0, 8}, {7, 8}, {8, 8}, {8, 7},
 		{math.MinInt, 3}, {0, math.MaxInt}, {math.MaxInt, math.MaxInt}, {math.MaxInt, math.MinInt},
@@ -204,7 +196,7 @@ func TestP1_1Mixed(t *testing.T) {
 
 func TestP1_2Bytes(t *testing.T) {
 	for _, s := range texts() {
-		v := vector(s)
+		v := samples.Vec(s)
 		p := v.Bytes()
 		u, e := bits.Of(p, len(s))
 		if e != api.OK || !bits.Same(u, v) {
@@ -268,14 +260,14 @@ func TestP1_2Same(t *testing.T) {
 	all := texts()
 	for i, a := range all {
 		for j, b := range all {
-			if got := bits.Same(vector(a), vector(b)); got != (a == b) {
+			if got := bits.Same(samples.Vec(a), samples.Vec(b)); got != (a == b) {
 				t.Fatalf("Same of the texts %d and %d: %v", i, j, got)
 			}
 		}
-		if got := bits.Same(vector(a), nil); got != (a == "") {
+		if got := bits.Same(samples.Vec(a), nil); got != (a == "") {
 			t.Fatalf("Same of %q and nil: %v", a, got)
 		}
-		if got := bits.Same(nil, vector(a)); got != (a == "") {
+		if got := bits.Same(nil, samples.Vec(a)); got != (a == "") {
 			t.Fatalf("Same of nil and %q: %v", a, got)
 		}
 	}
@@ -284,7 +276,7 @@ func TestP1_2Same(t *testing.T) {
 	}
 	// Of one length, and different in just one place.
 	for n := 1; n <= 130; n++ {
-		v, w := vector(strings.Repeat("0", n)), vector(strings.Repeat("0", n-1)+"1")
+		v, w := samples.Vec(strings.Repeat("0", n)), samples.Vec(strings.Repeat("0", n-1)+"1")
 		if bits.Same(v, w) || bits.Same(w, v) {
 			t.Fatal(n)
 		}
@@ -292,9 +284,9 @@ func TestP1_2Same(t *testing.T) {
 	// The same bits, told in other ways.
 	v := bits.New()
 	v.Num(math.MaxUint64, 3)
-	w, _ := vector("0111000").Cut(1, 4)
+	w, _ := samples.Vec("0111000").Cut(1, 4)
 	u, _ := bits.Of([]byte{7}, 3)
-	if !bits.Same(v, w) || !bits.Same(w, u) || !bits.Same(v, vector("111")) {
+	if !bits.Same(v, w) || !bits.Same(w, u) || !bits.Same(v, samples.Vec("111")) {
 		t.Fatal(v.Text(), w.Text(), u.Text())
 	}
 }
@@ -303,7 +295,7 @@ func TestP1_3Reader(t *testing.T) {
 	rnd := rand.New(rand.NewPCG(5, 6))
 	for _, s := range texts() {
 		for range 20 {
-			r := bits.Read(vector(s))
+			r := bits.Read(samples.Vec(s))
 			at := 0
 			for range 40 {
 				if r.Left() != len(s)-at {
@@ -328,7 +320,7 @@ func TestP1_3Reader(t *testing.T) {
 }
 
 func TestP1_3Edges(t *testing.T) {
-	v := vector(strings.Repeat("1", 70))
+	v := samples.Vec(strings.Repeat("1", 70))
 	r := bits.Read(v)
 	for _, k := range []int{math.MinInt, -1, 0} {
 		if x, e := r.Num(k); x != 0 || e != api.OK || r.Left() != 70 {
@@ -356,7 +348,7 @@ func TestP1_3Edges(t *testing.T) {
 
 func TestP1_3AddedBehind(t *testing.T) {
 	for _, s := range texts() {
-		v := vector(s)
+		v := samples.Vec(s)
 		r, other := bits.Read(v), bits.Read(v)
 		v.Num(math.MaxUint64, 64)
 		v.Join(v)
@@ -382,7 +374,7 @@ func TestP1Nil(t *testing.T) {
 	var v *bits.Vec
 	v.Add(1)
 	v.Num(3, 2)
-	v.Join(vector("1"))
+	v.Join(samples.Vec("1"))
 	v.Join(v)
 	if v.Len() != 0 || v.Ones() != 0 || len(v.Bytes()) != 0 || v.Text() != "" {
 		t.Fatal(v.Len(), v.Ones(), v.Bytes(), v.Text())

@@ -9,6 +9,7 @@ import (
 	"parquetry/canon"
 	"parquetry/dart"
 	"parquetry/euler"
+	"parquetry/samples"
 )
 
 // shapeModel is how many darts of m there are such that m with that root is
@@ -21,7 +22,7 @@ func shapeModel(t *testing.T, m *dart.Map) int {
 	want := canonOf(t, m)
 	n := 0
 	for d := range m.Darts() {
-		if dart.Same(canonOf(t, rooted(t, m, d)), want) {
+		if dart.Same(canonOf(t, samples.Rooted(t, m, d)), want) {
 			n++
 		}
 	}
@@ -33,7 +34,7 @@ func checkShape(t *testing.T, m *dart.Map) {
 	t.Helper()
 	want := shapeModel(t, m)
 	for d := range m.Darts() {
-		if got := canon.Shape(rooted(t, m, d)); got != want {
+		if got := canon.Shape(samples.Rooted(t, m, d)); got != want {
 			t.Fatalf("Shape of %v, %d, %d: %d, want %d", m.List(), d, m.Lone(), got, want)
 		}
 	}
@@ -41,9 +42,9 @@ func checkShape(t *testing.T, m *dart.Map) {
 
 func TestP11_2ShapeAllSmall(t *testing.T) {
 	for n := 2; n <= 6; n += 2 {
-		for _, sigma := range perms(n) {
-			checkShape(t, made(t, sigma, 0, 0))
-			checkShape(t, made(t, sigma, n-1, 1))
+		for _, sigma := range samples.Perms(n) {
+			checkShape(t, samples.Map(t, sigma, 0, 0))
+			checkShape(t, samples.Map(t, sigma, n-1, 1))
 		}
 	}
 }
@@ -52,8 +53,8 @@ func TestP11_2ShapeRandom(t *testing.T) {
 	r := rand.New(rand.NewPCG(71, 72))
 	for _, n := range []int{8, 10, 12, 20} {
 		for range 60 {
-			checkShape(t, made(t, r.Perm(n), 0, 0))
-			checkShape(t, made(t, split(r, n), 0, 0))
+			checkShape(t, samples.Map(t, r.Perm(n), 0, 0))
+			checkShape(t, samples.Map(t, samples.Split(r.IntN, n), 0, 0))
 		}
 	}
 }
@@ -66,7 +67,7 @@ func chords(t *testing.T, places []int) *dart.Map {
 	for i, d := range places {
 		sigma[d] = places[(i+1)%len(places)]
 	}
-	return made(t, sigma, 0, 0)
+	return samples.Map(t, sigma, 0, 0)
 }
 
 // repeated answers places whose chords repeat each other so many times, but
@@ -116,7 +117,7 @@ func sheets(t *testing.T, a, b []int) *dart.Map {
 			sigma[d] = around[(i+1)%len(around)]
 		}
 	}
-	return made(t, sigma, 0, 0)
+	return samples.Map(t, sigma, 0, 0)
 }
 
 // TestP11_2ShapeSheets asks for maps whose darts look alike as far as Sigma
@@ -156,30 +157,6 @@ func allAlike(m *dart.Map) bool {
 	return true
 }
 
-// faced answers the simple map whose faces go along these vertices, each the
-// darts from one to the next.
-func faced(t *testing.T, faces ...[]int) *dart.Map {
-	t.Helper()
-	darts := map[[2]int]int{}
-	for _, face := range faces {
-		for i, u := range face {
-			v := face[(i+1)%len(face)]
-			if _, ok := darts[[2]int{u, v}]; !ok {
-				n := len(darts)
-				darts[[2]int{u, v}], darts[[2]int{v, u}] = n, n+1
-			}
-		}
-	}
-	sigma := make([]int, len(darts))
-	for _, face := range faces {
-		for i, u := range face {
-			v, w := face[(i+1)%len(face)], face[(i+2)%len(face)]
-			sigma[darts[[2]int{v, u}]] = darts[[2]int{v, w}]
-		}
-	}
-	return made(t, sigma, 0, 0)
-}
-
 // grid answers the map of squares on a torus, w wide and h high; what goes up
 // out of it comes in again twist further to the right.
 func grid(t *testing.T, w, h, twist int) *dart.Map {
@@ -196,34 +173,27 @@ func grid(t *testing.T, w, h, twist int) *dart.Map {
 			sigma[right], sigma[up], sigma[left], sigma[down] = up, left, down, right
 		}
 	}
-	return made(t, sigma, 0, 0)
+	return samples.Map(t, sigma, 0, 0)
 }
 
 // solids are maps of which it is known how often they turn into themselves.
 func solids(t *testing.T) map[int]*dart.Map {
-	var octahedron, icosahedron, seven [][]int
-	for i := range 4 {
-		j := (i + 1) % 4
-		octahedron = append(octahedron, []int{i, j, 4}, []int{j, i, 5})
-	}
+	var icosahedron [][]int
 	for i := range 5 {
 		j := (i + 1) % 5
 		icosahedron = append(icosahedron, []int{i, j, 10}, []int{j, i, 5 + i}, []int{5 + i, 5 + j, j}, []int{5 + j, 5 + i, 11})
 	}
-	for i := range 7 {
-		seven = append(seven, []int{i, (i + 1) % 7, (i + 3) % 7}, []int{i, (i + 3) % 7, (i + 2) % 7})
-	}
 	return map[int]*dart.Map{
-		6:  faced(t, []int{0, 1, 2}, []int{2, 1, 0}),
-		12: faced(t, []int{0, 1, 2}, []int{0, 3, 1}, []int{1, 3, 2}, []int{2, 3, 0}),
-		24: faced(t, octahedron...),
-		60: faced(t, icosahedron...),
-		42: faced(t, seven...),
+		6:  samples.Faced(t, []int{0, 1, 2}, []int{2, 1, 0}),
+		12: samples.Faced(t, []int{0, 1, 2}, []int{0, 3, 1}, []int{1, 3, 2}, []int{2, 3, 0}),
+		24: samples.Faced(t, samples.Wheel(6)...),
+		60: samples.Faced(t, icosahedron...),
+		42: samples.Faced(t, samples.Torus()...),
 		20: grid(t, 5, 1, 2),
 		36: grid(t, 3, 3, 0),
 		16: grid(t, 4, 2, 0),
 		10: grid(t, 5, 1, 0),
-		1:  turned(t, 0, 0, []int{0}, []int{1, 2, 4}, []int{3}, []int{5, 6}, []int{7}),
+		1:  samples.Turned(t, 0, 0, []int{0}, []int{1, 2, 4}, []int{3}, []int{5, 6}, []int{7}),
 	}
 }
 
@@ -242,7 +212,7 @@ func TestP11_2ShapeCounts(t *testing.T) {
 	for want, m := range solids(t) {
 		met := map[string]int{}
 		for d := range m.Darts() {
-			met[string(runesOf(canonOf(t, rooted(t, m, d)).List()))]++
+			met[string(runesOf(canonOf(t, samples.Rooted(t, m, d)).List()))]++
 		}
 		for _, n := range met {
 			if n != want || len(met)*n != m.Darts() {
@@ -263,10 +233,10 @@ func runesOf(l []int) []rune {
 
 func TestP11_2ShapeOfParts(t *testing.T) {
 	for _, m := range []*dart.Map{
-		made(t, nil, -1, 0), made(t, nil, -1, 1), made(t, nil, -1, 7),
-		turned(t, 0, 1, []int{0}, []int{1}),
-		turned(t, 0, 0, []int{0}, []int{1}, []int{2}, []int{3}),
-		turned(t, 3, 2, []int{0, 1}, []int{2, 3}),
+		samples.Map(t, nil, -1, 0), samples.Map(t, nil, -1, 1), samples.Map(t, nil, -1, 7),
+		samples.Turned(t, 0, 1, []int{0}, []int{1}),
+		samples.Turned(t, 0, 0, []int{0}, []int{1}, []int{2}, []int{3}),
+		samples.Turned(t, 3, 2, []int{0, 1}, []int{2, 3}),
 	} {
 		if got := canon.Shape(m); got != 0 {
 			t.Errorf("Shape of %v, %d: %d", m.List(), m.Lone(), got)
@@ -277,7 +247,7 @@ func TestP11_2ShapeOfParts(t *testing.T) {
 // TestP11_2ShapeLarge asks for the turns of what is as large as can be.
 func TestP11_2ShapeLarge(t *testing.T) {
 	n := 2 * api.MaxEdges
-	hung := large(n, func(d int) int { return along(d, n) })
+	hung := samples.Path(n)
 	// A dart more at one vertex of a path, its edge's other end at another.
 	hung[1], hung[n-1] = n-1, 2
 	for _, x := range []struct {
@@ -285,19 +255,19 @@ func TestP11_2ShapeLarge(t *testing.T) {
 		sigma []int
 		want  int
 	}{
-		{"a path", large(n, func(d int) int { return along(d, n) }), 2},
+		{"a path", samples.Path(n), 2},
 		{"a path that bites itself", hung, 1},
-		{"a round", large(n, func(d int) int { return []int{(d + n - 1) % n, (d + 1) % n}[d%2] }), n},
-		{"a star", large(n, func(d int) int { return []int{(d + 2) % n, d}[d%2] }), n / 2},
-		{"loops side by side", large(n, func(d int) int { return (d + 1) % n }), n / 2},
-		{"edges side by side", large(n, func(d int) int { return []int{(d + 2) % n, (d + n - 2) % n}[d%2] }), n},
-		{"edges side by side, crossed", large(n, func(d int) int { return (d + 2) % n }), n},
+		{"a round", samples.Each(n, func(d int) int { return []int{(d + n - 1) % n, (d + 1) % n}[d%2] }), n},
+		{"a star", samples.Each(n, func(d int) int { return []int{(d + 2) % n, d}[d%2] }), n / 2},
+		{"loops side by side", samples.Each(n, func(d int) int { return (d + 1) % n }), n / 2},
+		{"edges side by side", samples.Each(n, func(d int) int { return []int{(d + 2) % n, (d + n - 2) % n}[d%2] }), n},
+		{"edges side by side, crossed", samples.Each(n, func(d int) int { return (d + 2) % n }), n},
 		{"squares on a torus", grid(t, 256, 128, 0).List(), n / 2},
 		{"squares on a torus, twisted", grid(t, 128, 256, 17).List(), n / 2},
 		{"as many as squares on a torus", grid(t, 181, 181, 0).List(), 4 * 181 * 181},
 	} {
 		for _, root := range []int{0, len(x.sigma)/2 + 1} {
-			if got := canon.Shape(made(t, x.sigma, root, 0)); got != x.want {
+			if got := canon.Shape(samples.Map(t, x.sigma, root, 0)); got != x.want {
 				t.Errorf("%s, from %d: Shape %d, want %d", x.name, root, got, x.want)
 			}
 		}

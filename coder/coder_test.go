@@ -10,37 +10,8 @@ import (
 	"parquetry/api"
 	"parquetry/bits"
 	"parquetry/coder"
+	"parquetry/samples"
 )
-
-// vec answers the vector whose Text s is.
-func vec(s string) *bits.Vec {
-	v := bits.New()
-	for _, sign := range s {
-		v.Add(int(sign - '0'))
-	}
-	return v
-}
-
-// short is a text as it is told of a fault.
-func short(s string) string {
-	if len(s) > 80 {
-		return s[:80] + ".."
-	}
-	return s
-}
-
-// texts answers all texts of n bits.
-func texts(n int) []string {
-	all := []string{""}
-	for range n {
-		var longer []string
-		for _, s := range all {
-			longer = append(longer, s+"0", s+"1")
-		}
-		all = longer
-	}
-	return all
-}
 
 // model is the code as the document tells it, with texts for bits, and a
 // context told by the text of the bits ahead.
@@ -135,18 +106,18 @@ func modelCode(s string, k int) string {
 // check holds Encode and Decode of s against the code that it should have.
 func check(t *testing.T, s string, k int, want string) {
 	t.Helper()
-	code, e := coder.Encode(vec(s), k)
+	code, e := coder.Encode(samples.Vec(s), k)
 	if e != api.OK || code.Text() != want {
-		t.Fatalf("Encode of %s, %d: %s, %v, want %s", short(s), k, short(code.Text()), e, short(want))
+		t.Fatalf("Encode of %s, %d: %s, %v, want %s", samples.Short(s), k, samples.Short(code.Text()), e, samples.Short(want))
 	}
 	if v, e := coder.Decode(code, len(s), k); e != api.OK || v.Text() != s {
-		t.Fatalf("Decode of %s, %d, %d: %s, %v, want %s", short(want), len(s), k, short(v.Text()), e, short(s))
+		t.Fatalf("Decode of %s, %d, %d: %s, %v, want %s", samples.Short(want), len(s), k, samples.Short(v.Text()), e, samples.Short(s))
 	}
 }
 
 func TestP18_1AllShort(t *testing.T) {
 	for n := range 10 {
-		for _, s := range texts(n) {
+		for _, s := range samples.Texts("01", n) {
 			for k := range coder.MaxOrder + 1 {
 				check(t, s, k, modelCode(s, k))
 			}
@@ -282,7 +253,7 @@ var pinnedLong = []struct {
 func TestP18_1PinnedLong(t *testing.T) {
 	for _, x := range pinnedLong {
 		s := mixedUp(x.n, x.mask)
-		code, e := coder.Encode(vec(s), x.k)
+		code, e := coder.Encode(samples.Vec(s), x.k)
 		if e != api.OK || code.Len() != x.bits || crc32.ChecksumIEEE(code.Bytes()) != x.sum {
 			t.Errorf("Encode of %d, %d, %d: %d bits, %v", x.n, x.mask, x.k, code.Len(), e)
 		}
@@ -334,7 +305,7 @@ func TestP18_1Waiting(t *testing.T) {
 
 func TestP18_2EncodeOption(t *testing.T) {
 	for _, k := range []int{math.MinInt, -2, -1, coder.MaxOrder + 1, coder.MaxOrder + 2, 64, math.MaxInt} {
-		for _, v := range []*bits.Vec{nil, bits.New(), vec("0110")} {
+		for _, v := range []*bits.Vec{nil, bits.New(), samples.Vec("0110")} {
 			if code, e := coder.Encode(v, k); code != nil || e != api.ErrOption {
 				t.Errorf("Encode of %s, %d: %v", v.Text(), k, e)
 			}
@@ -349,7 +320,7 @@ func TestP18_2EncodeOption(t *testing.T) {
 
 func TestP18_2DecodeRange(t *testing.T) {
 	for _, n := range []int{math.MinInt, -2, -1, 1<<24 + 1, 1<<24 + 2, math.MaxInt} {
-		for _, v := range []*bits.Vec{nil, bits.New(), vec("01"), vec("11")} {
+		for _, v := range []*bits.Vec{nil, bits.New(), samples.Vec("01"), samples.Vec("11")} {
 			if w, e := coder.Decode(v, n, 2); w != nil || e != api.ErrRange {
 				t.Errorf("Decode of %s, %d: %v", v.Text(), n, e)
 			}
@@ -367,7 +338,7 @@ func TestP18_2DecodeRange(t *testing.T) {
 		if w, e := coder.Decode(code, 1<<24, k); e != api.OK || !bits.Same(w, most) {
 			t.Fatal(k, e)
 		}
-		if w, e := coder.Decode(vec("01"), 1<<24, k); w != nil || e != api.ErrCanon {
+		if w, e := coder.Decode(samples.Vec("01"), 1<<24, k); w != nil || e != api.ErrCanon {
 			t.Fatal(k, e)
 		}
 	}
@@ -377,12 +348,12 @@ func TestP18_2DecodeRange(t *testing.T) {
 func TestP18_2DecodeAll(t *testing.T) {
 	var all []string
 	for n := range 11 {
-		all = append(all, texts(n)...)
+		all = append(all, samples.Texts("01", n)...)
 	}
 	for k := range coder.MaxOrder + 1 {
 		for n := range 6 {
 			codes := map[string]string{}
-			for _, s := range texts(n) {
+			for _, s := range samples.Texts("01", n) {
 				codes[modelCode(s, k)] = s
 			}
 			if len(codes) != 1<<n {
@@ -390,7 +361,7 @@ func TestP18_2DecodeAll(t *testing.T) {
 			}
 			for _, code := range all {
 				want, is := codes[code]
-				w, e := coder.Decode(vec(code), n, k)
+				w, e := coder.Decode(samples.Vec(code), n, k)
 				if is && (e != api.OK || w.Text() != want) || !is && (w != nil || e != api.ErrCanon) {
 					t.Fatalf("Decode of %s, %d, %d: %s, %v, want %s", code, n, k, w.Text(), e, want)
 				}
@@ -413,7 +384,7 @@ func TestP18_2DecodeOther(t *testing.T) {
 				checkOther(t, code[:i], len(s), k)
 			}
 			for _, behind := range []string{"0", "1", "00", "01", strings.Repeat("0", 64), strings.Repeat("1", 64)} {
-				if w, e := coder.Decode(vec(code+behind), len(s), k); w != nil || e != api.ErrCanon {
+				if w, e := coder.Decode(samples.Vec(code+behind), len(s), k); w != nil || e != api.ErrCanon {
 					t.Fatalf("Decode of a code of order %d, and %s: %v", k, behind, e)
 				}
 			}
@@ -428,12 +399,12 @@ func TestP18_2DecodeOther(t *testing.T) {
 // checkOther holds Decode against what its answer's code is.
 func checkOther(t *testing.T, code string, n, k int) {
 	t.Helper()
-	w, e := coder.Decode(vec(code), n, k)
+	w, e := coder.Decode(samples.Vec(code), n, k)
 	switch {
 	case e == api.ErrCanon && w == nil:
 	case e == api.OK && w.Len() == n && modelCode(w.Text(), k) == code:
 	default:
-		t.Fatalf("Decode of %s, %d, %d: %s, %v", short(code), n, k, short(w.Text()), e)
+		t.Fatalf("Decode of %s, %d, %d: %s, %v", samples.Short(code), n, k, samples.Short(w.Text()), e)
 	}
 }
 
@@ -457,8 +428,8 @@ func TestP18_2Least(t *testing.T) {
 			}
 		}
 		found[order]++
-		if k, code := coder.Least(vec(s)); k != order || code.Text() != least {
-			t.Fatalf("Least of %s: %d, %s, want %d, %s", short(s), k, short(code.Text()), order, short(least))
+		if k, code := coder.Least(samples.Vec(s)); k != order || code.Text() != least {
+			t.Fatalf("Least of %s: %d, %s, want %d, %s", samples.Short(s), k, samples.Short(code.Text()), order, samples.Short(least))
 		}
 	}
 	if found[0] == 0 || found[1] == 0 || found[3] == 0 || found[coder.MaxOrder] == 0 {
@@ -467,7 +438,7 @@ func TestP18_2Least(t *testing.T) {
 }
 
 func TestP18_2Memory(t *testing.T) {
-	v := vec("0110100110010110")
+	v := samples.Vec("0110100110010110")
 	want := modelCode(v.Text(), 2)
 	for range 2 {
 		code, _ := coder.Encode(v, 2)
@@ -490,7 +461,7 @@ func TestP18_2Nil(t *testing.T) {
 		if code, e := coder.Encode(nil, k); e != api.OK || code.Text() != "01" {
 			t.Fatal(k, e)
 		}
-		if w, e := coder.Decode(vec("01"), 0, k); e != api.OK || w == nil || w.Len() != 0 {
+		if w, e := coder.Decode(samples.Vec("01"), 0, k); e != api.OK || w == nil || w.Len() != 0 {
 			t.Fatal(k, e)
 		}
 		for n := range 3 {
@@ -510,7 +481,7 @@ func TestExamples(t *testing.T) {
 	if coder.MaxOrder != 8 {
 		t.Fatal(coder.MaxOrder)
 	}
-	if code, e := coder.Encode(vec(strings.Repeat("0", 16)), 0); e != api.OK || code.Text() != "000001" {
+	if code, e := coder.Encode(samples.Vec(strings.Repeat("0", 16)), 0); e != api.OK || code.Text() != "000001" {
 		t.Fatal(code.Text(), e)
 	}
 }

@@ -10,37 +10,14 @@ import (
 	"parquetry/api"
 	"parquetry/dart"
 	"parquetry/perm"
+	"parquetry/samples"
 )
-
-// made answers the map of sigma, root and lone, that are right.
-func made(t *testing.T, sigma []int, root, lone int) *dart.Map {
-	t.Helper()
-	m, e := dart.New(sigma, root, lone)
-	if e != api.OK || m == nil {
-		t.Fatalf("New(%v, %d, %d): %v", sigma, root, lone, e)
-	}
-	return m
-}
-
-// perms answers all permutations of 0 to n - 1, as lists.
-func perms(n int) [][]int {
-	if n == 0 {
-		return [][]int{{}}
-	}
-	var all [][]int
-	for _, l := range perms(n - 1) {
-		for at := range n {
-			all = append(all, slices.Insert(slices.Clone(l), at, n-1))
-		}
-	}
-	return all
-}
 
 // sigmas answers all of up to six darts, and some of more.
 func sigmas() [][]int {
 	var all [][]int
 	for n := 0; n <= 6; n += 2 {
-		all = append(all, perms(n)...)
+		all = append(all, samples.Perms(n)...)
 	}
 	r := rand.New(rand.NewPCG(5, 6))
 	for _, n := range []int{8, 10, 30, 100} {
@@ -88,14 +65,14 @@ func check(t *testing.T, m *dart.Map, sigma []int, root, lone int) {
 	}
 	phi := make([]int, n)
 	for d := range phi {
-		phi[d] = sigma[mateOf(d)]
+		phi[d] = sigma[samples.Mate(d)]
 	}
 	vertices, faces := orbits(sigma), orbits(phi)
 	if m.Vertices() != len(vertices)+lone || m.Borders() != len(faces) {
 		t.Fatalf("of %v and %d: Vertices %d, Borders %d", sigma, lone, m.Vertices(), m.Borders())
 	}
 	for d := range n {
-		if m.Sigma(d) != sigma[d] || m.Back(sigma[d]) != d || m.Mate(d) != mateOf(d) || m.Phi(d) != phi[d] {
+		if m.Sigma(d) != sigma[d] || m.Back(sigma[d]) != d || m.Mate(d) != samples.Mate(d) || m.Phi(d) != phi[d] {
 			t.Fatalf("of %v: %d has Sigma %d, Mate %d, Phi %d; %d has Back %d", sigma, d, m.Sigma(d), m.Mate(d), m.Phi(d), sigma[d], m.Back(sigma[d]))
 		}
 		if m.Vertex(d) != place(vertices, d) || m.Face(d) != place(faces, d) {
@@ -107,14 +84,6 @@ func check(t *testing.T, m *dart.Map, sigma []int, root, lone int) {
 	}
 	checkDegrees(t, m, vertices, lone)
 	checkNone(t, m, n)
-}
-
-// mateOf is the other one of 2e and 2e + 1.
-func mateOf(d int) int {
-	if d%2 == 0 {
-		return d + 1
-	}
-	return d - 1
 }
 
 // checkDegrees holds Degree against the vertices with darts, and lone ones.
@@ -159,10 +128,10 @@ func TestP6_1And3(t *testing.T) {
 		if len(sigma) > 0 {
 			root = i % len(sigma)
 		}
-		check(t, made(t, sigma, root, lone), sigma, root, lone)
+		check(t, samples.Map(t, sigma, root, lone), sigma, root, lone)
 	}
 	for _, lone := range []int{0, 1, 5} {
-		check(t, made(t, nil, -1, lone), nil, -1, lone)
+		check(t, samples.Map(t, nil, -1, lone), nil, -1, lone)
 	}
 }
 
@@ -174,7 +143,7 @@ func TestP6_2Right(t *testing.T) {
 		}
 		for _, root := range roots {
 			for _, lone := range []int{0, 1, api.MaxLone} {
-				m := made(t, sigma, root, lone)
+				m := samples.Map(t, sigma, root, lone)
 				if m.Root() != root || m.Lone() != lone || !slices.Equal(m.List(), sigma) {
 					t.Fatalf("of %v, %d, %d: %v, %d, %d", sigma, root, lone, m.List(), m.Root(), m.Lone())
 				}
@@ -238,7 +207,7 @@ func TestP6_2Large(t *testing.T) {
 	const n = 2 * api.MaxEdges
 	r := rand.New(rand.NewPCG(7, 8))
 	sigma := r.Perm(n)
-	m := made(t, sigma, 5, 3)
+	m := samples.Map(t, sigma, 5, 3)
 	p, e := perm.Of(sigma)
 	if e != api.OK {
 		t.Fatal(e)
@@ -247,7 +216,7 @@ func TestP6_2Large(t *testing.T) {
 		t.Fatal(m.Darts(), m.Edges(), m.Vertices())
 	}
 	for d, name := range p.Names() {
-		if m.Vertex(d) != name || m.Phi(d) != sigma[mateOf(d)] || m.Face(m.Phi(d)) != m.Face(d) {
+		if m.Vertex(d) != name || m.Phi(d) != sigma[samples.Mate(d)] || m.Face(m.Phi(d)) != m.Face(d) {
 			t.Fatal(d, m.Vertex(d), name)
 		}
 	}
@@ -256,7 +225,7 @@ func TestP6_2Large(t *testing.T) {
 func TestP6_2Memory(t *testing.T) {
 	wide := []int{1, 2, 3, 0, 77}
 	sigma := wide[:4]
-	m := made(t, sigma, 2, 1)
+	m := samples.Map(t, sigma, 2, 1)
 	if !slices.Equal(wide, []int{1, 2, 3, 0, 77}) {
 		t.Fatal(wide)
 	}
@@ -282,7 +251,7 @@ func TestP6_3Rooted(t *testing.T) {
 			continue
 		}
 		root, lone := i%len(sigma), i%3
-		m := made(t, sigma, root, lone)
+		m := samples.Map(t, sigma, root, lone)
 		for _, d := range []int{0, root, len(sigma) - 1} {
 			r, e := m.Rooted(d)
 			if e != api.OK {
@@ -301,7 +270,7 @@ func TestP6_3Rooted(t *testing.T) {
 		}
 	}
 	for _, d := range none(0) {
-		if r, e := made(t, nil, -1, 2).Rooted(d); r != nil || e != api.ErrRoot {
+		if r, e := samples.Map(t, nil, -1, 2).Rooted(d); r != nil || e != api.ErrRoot {
 			t.Fatalf("without darts: Rooted(%d): %v", d, e)
 		}
 	}
@@ -310,15 +279,15 @@ func TestP6_3Rooted(t *testing.T) {
 func TestP6_3Same(t *testing.T) {
 	maps := []*dart.Map{
 		nil,
-		made(t, nil, -1, 0),
-		made(t, nil, -1, 1),
-		made(t, []int{0, 1}, 0, 0),
-		made(t, []int{0, 1}, 1, 0),
-		made(t, []int{0, 1}, 0, 1),
-		made(t, []int{1, 0}, 0, 0),
-		made(t, []int{1, 0, 2, 3}, 0, 0),
-		made(t, []int{1, 2, 3, 0}, 0, 0),
-		made(t, []int{3, 0, 1, 2}, 0, 0),
+		samples.Map(t, nil, -1, 0),
+		samples.Map(t, nil, -1, 1),
+		samples.Map(t, []int{0, 1}, 0, 0),
+		samples.Map(t, []int{0, 1}, 1, 0),
+		samples.Map(t, []int{0, 1}, 0, 1),
+		samples.Map(t, []int{1, 0}, 0, 0),
+		samples.Map(t, []int{1, 0, 2, 3}, 0, 0),
+		samples.Map(t, []int{1, 2, 3, 0}, 0, 0),
+		samples.Map(t, []int{3, 0, 1, 2}, 0, 0),
 	}
 	for i, a := range maps {
 		for j, b := range maps {
@@ -326,7 +295,7 @@ func TestP6_3Same(t *testing.T) {
 				t.Fatalf("%d and %d: %v", i, j, dart.Same(a, b))
 			}
 		}
-		if a != nil && !dart.Same(a, made(t, a.List(), a.Root(), a.Lone())) {
+		if a != nil && !dart.Same(a, samples.Map(t, a.List(), a.Root(), a.Lone())) {
 			t.Fatalf("%d and the same again", i)
 		}
 	}
@@ -350,7 +319,7 @@ func TestP6_3Nil(t *testing.T) {
 
 func TestP6_3Several(t *testing.T) {
 	sigma := []int{2, 1, 4, 3, 0, 5}
-	m := made(t, sigma, 0, 1)
+	m := samples.Map(t, sigma, 0, 1)
 	const workers = 8
 	wrongs := [workers]int{}
 	var all sync.WaitGroup
@@ -374,11 +343,11 @@ func TestP6_3Several(t *testing.T) {
 }
 
 func TestExamples(t *testing.T) {
-	edge := made(t, []int{0, 1}, 0, 0)
+	edge := samples.Map(t, []int{0, 1}, 0, 0)
 	if edge.Vertices() != 2 || edge.Borders() != 1 {
 		t.Fatal(edge.Vertices(), edge.Borders())
 	}
-	loop := made(t, []int{1, 0}, 0, 0)
+	loop := samples.Map(t, []int{1, 0}, 0, 0)
 	if loop.Vertices() != 1 || loop.Borders() != 2 {
 		t.Fatal(loop.Vertices(), loop.Borders())
 	}

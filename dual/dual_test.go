@@ -10,82 +10,24 @@ import (
 	"parquetry/dart"
 	"parquetry/dual"
 	"parquetry/perm"
+	"parquetry/samples"
 )
-
-// made answers the map of sigma, root and lone, that are right.
-func made(t *testing.T, sigma []int, root, lone int) *dart.Map {
-	t.Helper()
-	m, e := dart.New(sigma, root, lone)
-	if e != api.OK || m == nil {
-		t.Fatalf("New of %d darts, %d, %d: %v", len(sigma), root, lone, e)
-	}
-	return m
-}
-
-// turned answers the map whose vertices' darts are these, counter-clockwise.
-func turned(t *testing.T, root, lone int, vertices ...[]int) *dart.Map {
-	t.Helper()
-	return made(t, sigmaOf(vertices), root, lone)
-}
-
-// sigmaOf answers where Sigma goes, by the darts of each vertex.
-func sigmaOf(vertices [][]int) []int {
-	sigma := make([]int, len(slices.Concat(vertices...)))
-	for _, darts := range vertices {
-		for i, d := range darts {
-			sigma[d] = darts[(i+1)%len(darts)]
-		}
-	}
-	return sigma
-}
-
-// permOf answers the permutation l, that is one.
-func permOf(t *testing.T, l []int) *perm.Perm {
-	t.Helper()
-	p, e := perm.Of(l)
-	if e != api.OK {
-		t.Fatalf("Of %d numbers: %v", len(l), e)
-	}
-	return p
-}
-
-// perms answers all permutations of 0 to n - 1, as lists.
-func perms(n int) [][]int {
-	if n == 0 {
-		return [][]int{{}}
-	}
-	var all [][]int
-	for _, l := range perms(n - 1) {
-		for at := range n {
-			all = append(all, slices.Insert(slices.Clone(l), at, n-1))
-		}
-	}
-	return all
-}
 
 // maps answers all of up to six darts, and some of more, each with some root.
 func maps(t *testing.T) []*dart.Map {
-	all := []*dart.Map{made(t, nil, -1, 0), made(t, nil, -1, 4)}
+	all := []*dart.Map{samples.Map(t, nil, -1, 0), samples.Map(t, nil, -1, 4)}
 	for n := 2; n <= 6; n += 2 {
-		for i, sigma := range perms(n) {
-			all = append(all, made(t, sigma, i%n, i%3))
+		for i, sigma := range samples.Perms(n) {
+			all = append(all, samples.Map(t, sigma, i%n, i%3))
 		}
 	}
 	r := rand.New(rand.NewPCG(51, 52))
 	for _, n := range []int{8, 10, 30, 100} {
 		for range 5 {
-			all = append(all, made(t, r.Perm(n), r.IntN(n), r.IntN(4)))
+			all = append(all, samples.Map(t, r.Perm(n), r.IntN(n), r.IntN(4)))
 		}
 	}
 	return all
-}
-
-// mateOf is the other one of 2e and 2e + 1.
-func mateOf(d int) int {
-	if d%2 == 0 {
-		return d + 1
-	}
-	return d - 1
 }
 
 func TestP10_1Dual(t *testing.T) {
@@ -93,10 +35,10 @@ func TestP10_1Dual(t *testing.T) {
 		sigma := m.List()
 		var phi []int
 		for d := range sigma {
-			phi = append(phi, sigma[mateOf(d)])
+			phi = append(phi, sigma[samples.Mate(d)])
 		}
 		got := dual.Dual(m)
-		if !dart.Same(got, made(t, phi, m.Root(), m.Lone())) {
+		if !dart.Same(got, samples.Map(t, phi, m.Root(), m.Lone())) {
 			t.Fatalf("Dual of %v: %v, %d, %d", sigma, got.List(), got.Root(), got.Lone())
 		}
 		if got.Borders() != m.Vertices()-m.Lone() || got.Vertices() != m.Borders()+m.Lone() || !dart.Same(dual.Dual(got), m) {
@@ -116,32 +58,16 @@ func TestP10_1Mirror(t *testing.T) {
 			back[next] = d
 		}
 		got := dual.Mirror(m)
-		if !dart.Same(got, made(t, back, m.Root(), m.Lone())) || !dart.Same(dual.Mirror(got), m) {
+		if !dart.Same(got, samples.Map(t, back, m.Root(), m.Lone())) || !dart.Same(dual.Mirror(got), m) {
 			t.Fatalf("Mirror of %v: %v, %d, %d", sigma, got.List(), got.Root(), got.Lone())
 		}
 	}
 }
 
-// renamings answers all permutations of six darts that take mates to mates.
-func renamings() [][]int {
-	var all [][]int
-	for _, edges := range perms(3) {
-		for turns := range 8 {
-			l := make([]int, 6)
-			for e, to := range edges {
-				turn := turns >> e & 1
-				l[2*e], l[2*e+1] = 2*to+turn, 2*to+1-turn
-			}
-			all = append(all, l)
-		}
-	}
-	return all
-}
-
 // checkRelabel holds Relabel against what the darts are called.
 func checkRelabel(t *testing.T, m *dart.Map, l []int) {
 	t.Helper()
-	p := permOf(t, l)
+	p := samples.Perm(t, l)
 	got, e := dual.Relabel(m, p)
 	if e != api.OK || got.Root() != l[m.Root()] || got.Lone() != m.Lone() || got.Darts() != m.Darts() {
 		t.Fatalf("Relabel of %v by %v: %v", m.List(), l, e)
@@ -158,39 +84,39 @@ func checkRelabel(t *testing.T, m *dart.Map, l []int) {
 }
 
 func TestP10_1Relabel(t *testing.T) {
-	all := renamings()
-	for i, sigma := range perms(6) {
-		m := made(t, sigma, i%6, i%2)
+	all := samples.AllNames(3)
+	for i, sigma := range samples.Perms(6) {
+		m := samples.Map(t, sigma, i%6, i%2)
 		checkRelabel(t, m, all[i%len(all)])
 		checkRelabel(t, m, all[(i/7)%len(all)])
 	}
 	for _, l := range all {
-		checkRelabel(t, turned(t, 4, 2, []int{0, 3, 1}, []int{2, 5, 4}), l)
+		checkRelabel(t, samples.Turned(t, 4, 2, []int{0, 3, 1}, []int{2, 5, 4}), l)
 	}
-	bare := made(t, nil, -1, 2)
+	bare := samples.Map(t, nil, -1, 2)
 	if got, e := dual.Relabel(bare, perm.One(0)); e != api.OK || !dart.Same(got, bare) {
 		t.Fatal(e)
 	}
 }
 
 func TestP10_1RelabelErrors(t *testing.T) {
-	m := turned(t, 0, 1, []int{0, 5}, []int{1, 2}, []int{3, 4})
-	all := renamings()
-	for _, l := range perms(6) {
+	m := samples.Turned(t, 0, 1, []int{0, 5}, []int{1, 2}, []int{3, 4})
+	all := samples.AllNames(3)
+	for _, l := range samples.Perms(6) {
 		want := api.ErrPerm
 		if slices.ContainsFunc(all, func(right []int) bool { return slices.Equal(l, right) }) {
 			want = api.OK
 		}
-		if got, e := dual.Relabel(m, permOf(t, l)); e != want || (got == nil) != (e != api.OK) {
+		if got, e := dual.Relabel(m, samples.Perm(t, l)); e != want || (got == nil) != (e != api.OK) {
 			t.Fatalf("Relabel by %v: %v, want %v", l, e, want)
 		}
 	}
 	for _, l := range [][]int{{}, {1, 2, 3, 0}, {1, 0, 3, 2}, {4, 3, 2, 1, 0}, {1, 0, 3, 2, 5, 4, 7, 6}, {7, 1, 2, 3, 4, 5, 6, 0}} {
-		if got, e := dual.Relabel(m, permOf(t, l)); got != nil || e != api.ErrRange {
+		if got, e := dual.Relabel(m, samples.Perm(t, l)); got != nil || e != api.ErrRange {
 			t.Fatalf("Relabel by %v: %v", l, e)
 		}
 	}
-	if got, e := dual.Relabel(made(t, nil, -1, 1), perm.One(2)); got != nil || e != api.ErrRange {
+	if got, e := dual.Relabel(samples.Map(t, nil, -1, 1), perm.One(2)); got != nil || e != api.ErrRange {
 		t.Fatal(e)
 	}
 }
@@ -219,7 +145,7 @@ func modelCut(t *testing.T, m *dart.Map, e int) *dart.Map {
 		}
 		left = append(left, renamed(darts, e))
 	}
-	return turned(t, modelRoot(m, e), lone, left...)
+	return samples.Turned(t, modelRoot(m, e), lone, left...)
 }
 
 // modelShrink answers m with e's vertices as one: the other vertex's darts,
@@ -239,7 +165,7 @@ func modelShrink(t *testing.T, m *dart.Map, e int) *dart.Map {
 	} else {
 		left = append(left, renamed(one, e))
 	}
-	return turned(t, modelRoot(m, e), lone, left...)
+	return samples.Turned(t, modelRoot(m, e), lone, left...)
 }
 
 // renamed answers darts by what they are called without e.
@@ -305,13 +231,13 @@ func checkEdge(t *testing.T, m *dart.Map, e int) {
 
 func TestP10_2AllSmall(t *testing.T) {
 	for n := 2; n <= 6; n += 2 {
-		for i, sigma := range perms(n) {
+		for i, sigma := range samples.Perms(n) {
 			for root := range n {
-				m := made(t, sigma, root, i%3)
+				m := samples.Map(t, sigma, root, i%3)
 				for e := range n / 2 {
 					checkEdge(t, m, e)
 				}
-				if !dart.Same(m, made(t, sigma, root, i%3)) {
+				if !dart.Same(m, samples.Map(t, sigma, root, i%3)) {
 					t.Fatalf("%v was changed", sigma)
 				}
 			}
@@ -341,16 +267,16 @@ func TestP10_2Roots(t *testing.T) {
 		e           int
 		cut, shrunk int
 	}{
-		{"it stays", turned(t, 1, 0, []int{0, 5}, []int{1, 2}, []int{3, 4}), 1, 1, 1},
-		{"it stays, and is called lower", turned(t, 5, 0, []int{0, 5}, []int{1, 2}, []int{3, 4}), 1, 3, 3},
-		{"it goes", turned(t, 0, 0, []int{0, 4, 2}, []int{1}, []int{3}, []int{5}), 0, 0, 0},
-		{"it goes, the other way around", turned(t, 0, 0, []int{0, 2, 4}, []int{1}, []int{3}, []int{5}), 0, 2, 2},
-		{"it goes, and no other dart is at its vertex", turned(t, 5, 0, []int{1, 2}, []int{0, 4}, []int{3}, []int{5}), 2, 0, 0},
-		{"the odd one goes", turned(t, 3, 0, []int{0}, []int{1, 2}, []int{3, 4}, []int{5}), 1, 2, 2},
-		{"a loop, with its other dart ahead", turned(t, 2, 0, []int{0, 4, 3, 2}, []int{1}, []int{5}), 1, 2, -1},
-		{"a loop, alone at its vertex", turned(t, 3, 0, []int{0}, []int{1}, []int{2, 3}), 1, 0, -1},
-		{"the last edge", turned(t, 1, 0, []int{0}, []int{1}), 0, -1, -1},
-		{"the last edge, a loop", turned(t, 1, 0, []int{0, 1}), 0, -1, -1},
+		{"it stays", samples.Turned(t, 1, 0, []int{0, 5}, []int{1, 2}, []int{3, 4}), 1, 1, 1},
+		{"it stays, and is called lower", samples.Turned(t, 5, 0, []int{0, 5}, []int{1, 2}, []int{3, 4}), 1, 3, 3},
+		{"it goes", samples.Turned(t, 0, 0, []int{0, 4, 2}, []int{1}, []int{3}, []int{5}), 0, 0, 0},
+		{"it goes, the other way around", samples.Turned(t, 0, 0, []int{0, 2, 4}, []int{1}, []int{3}, []int{5}), 0, 2, 2},
+		{"it goes, and no other dart is at its vertex", samples.Turned(t, 5, 0, []int{1, 2}, []int{0, 4}, []int{3}, []int{5}), 2, 0, 0},
+		{"the odd one goes", samples.Turned(t, 3, 0, []int{0}, []int{1, 2}, []int{3, 4}, []int{5}), 1, 2, 2},
+		{"a loop, with its other dart ahead", samples.Turned(t, 2, 0, []int{0, 4, 3, 2}, []int{1}, []int{5}), 1, 2, -1},
+		{"a loop, alone at its vertex", samples.Turned(t, 3, 0, []int{0}, []int{1}, []int{2, 3}), 1, 0, -1},
+		{"the last edge", samples.Turned(t, 1, 0, []int{0}, []int{1}), 0, -1, -1},
+		{"the last edge, a loop", samples.Turned(t, 1, 0, []int{0, 1}), 0, -1, -1},
 	} {
 		if cut, e := dual.Cut(x.m, x.e); e != api.OK || cut.Root() != x.cut {
 			t.Errorf("%s: Cut has the root %d, want %d", x.name, cut.Root(), x.cut)
@@ -394,7 +320,7 @@ func TestP10_2Large(t *testing.T) {
 		{"a leaf", leaf, most - 1, api.OK, api.OK, most, most - 1},
 		{"a leaf, and no room", leaf, most, api.ErrLarge, api.OK, 0, most},
 	} {
-		m := made(t, x.sigma, 0, x.lone)
+		m := samples.Map(t, x.sigma, 0, x.lone)
 		if got, e := dual.Cut(m, 0); e != x.cut || (got == nil) != (e != api.OK) || got.Lone() != x.after {
 			t.Errorf("%s: Cut %v, %d lone", x.name, e, got.Lone())
 		}
@@ -418,7 +344,7 @@ func TestP10_LargeMaps(t *testing.T) {
 		fan[d] = (d + 1) % n
 	}
 	for _, sigma := range [][]int{fan, r.Perm(n)} {
-		m := made(t, sigma, n-1, api.MaxLone)
+		m := samples.Map(t, sigma, n-1, api.MaxLone)
 		if !dart.Same(dual.Dual(dual.Dual(m)), m) || !dart.Same(dual.Mirror(dual.Mirror(m)), m) {
 			t.Fatal("not the same again")
 		}
@@ -426,14 +352,14 @@ func TestP10_LargeMaps(t *testing.T) {
 		for d := range turn {
 			turn[d] = (d + 1) % n
 		}
-		got, e := dual.Relabel(m, permOf(t, turn))
+		got, e := dual.Relabel(m, samples.Perm(t, turn))
 		if e != api.ErrPerm || got != nil {
 			t.Fatal(e)
 		}
 		for d := range turn {
 			turn[d] = n - 1 - d
 		}
-		got, e = dual.Relabel(m, permOf(t, turn))
+		got, e = dual.Relabel(m, samples.Perm(t, turn))
 		if e != api.OK || got.Root() != 0 || got.Sigma(n-1) != n-1-sigma[0] {
 			t.Fatal(e)
 		}
@@ -443,7 +369,7 @@ func TestP10_LargeMaps(t *testing.T) {
 		}
 	}
 	for _, e := range []int{0, n / 4, n/2 - 1} {
-		m := made(t, fan, n-1, api.MaxLone)
+		m := samples.Map(t, fan, n-1, api.MaxLone)
 		if got, fault := dual.Cut(m, e); fault != api.OK || got.Edges() != n/2-1 || got.Root() != n-3 || got.Vertices() != m.Vertices() {
 			t.Fatal(e, fault)
 		}
@@ -454,11 +380,11 @@ func TestP10_Nil(t *testing.T) {
 	if dual.Dual(nil) != nil || dual.Mirror(nil) != nil {
 		t.Fatal("of nil something")
 	}
-	edge := turned(t, 0, 0, []int{0}, []int{1})
+	edge := samples.Turned(t, 0, 0, []int{0}, []int{1})
 	for _, x := range []struct {
 		m *dart.Map
 		p *perm.Perm
-	}{{nil, nil}, {nil, perm.One(0)}, {nil, perm.One(2)}, {edge, nil}, {made(t, nil, -1, 1), nil}} {
+	}{{nil, nil}, {nil, perm.One(0)}, {nil, perm.One(2)}, {edge, nil}, {samples.Map(t, nil, -1, 1), nil}} {
 		if m, e := dual.Relabel(x.m, x.p); m != nil || e != api.ErrNone {
 			t.Fatal(e)
 		}
@@ -474,14 +400,14 @@ func TestP10_Nil(t *testing.T) {
 }
 
 func TestExamples(t *testing.T) {
-	edge, loop := turned(t, 0, 0, []int{0}, []int{1}), turned(t, 0, 0, []int{0, 1})
+	edge, loop := samples.Turned(t, 0, 0, []int{0}, []int{1}), samples.Turned(t, 0, 0, []int{0, 1})
 	if !dart.Same(dual.Dual(edge), loop) || !dart.Same(dual.Dual(loop), edge) {
 		t.Fatal(dual.Dual(edge).List())
 	}
-	if cut, e := dual.Cut(edge, 0); e != api.OK || !dart.Same(cut, made(t, nil, -1, 2)) {
+	if cut, e := dual.Cut(edge, 0); e != api.OK || !dart.Same(cut, samples.Map(t, nil, -1, 2)) {
 		t.Fatal(e)
 	}
-	if one, e := dual.Shrink(edge, 0); e != api.OK || !dart.Same(one, made(t, nil, -1, 1)) {
+	if one, e := dual.Shrink(edge, 0); e != api.OK || !dart.Same(one, samples.Map(t, nil, -1, 1)) {
 		t.Fatal(e)
 	}
 }

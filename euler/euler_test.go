@@ -8,28 +8,14 @@ import (
 	"parquetry/api"
 	"parquetry/dart"
 	"parquetry/euler"
+	"parquetry/samples"
 )
-
-// made answers the map of sigma, root and lone, that are right.
-func made(t *testing.T, sigma []int, root, lone int) *dart.Map {
-	t.Helper()
-	m, e := dart.New(sigma, root, lone)
-	if e != api.OK || m == nil {
-		t.Fatalf("New of %d darts, %d, %d: %v", len(sigma), root, lone, e)
-	}
-	return m
-}
 
 // turned answers the map whose vertices' darts are these, counter-clockwise.
 func turned(t *testing.T, lone int, vertices ...[]int) *dart.Map {
 	t.Helper()
-	sigma := make([]int, len(slices.Concat(vertices...)))
-	for _, darts := range vertices {
-		for i, d := range darts {
-			sigma[d] = darts[(i+1)%len(darts)]
-		}
-	}
-	return made(t, sigma, rootOf(sigma), lone)
+	sigma := samples.Sigma(vertices...)
+	return samples.Map(t, sigma, rootOf(sigma), lone)
 }
 
 // rootOf is a root of a map of these darts.
@@ -40,30 +26,6 @@ func rootOf(sigma []int) int {
 	return len(sigma) / 2
 }
 
-// faced answers the simple map whose faces go along these vertices, each the
-// darts from one to the next.
-func faced(t *testing.T, faces ...[]int) *dart.Map {
-	t.Helper()
-	darts := map[[2]int]int{}
-	for _, face := range faces {
-		for i, u := range face {
-			v := face[(i+1)%len(face)]
-			if _, ok := darts[[2]int{u, v}]; !ok {
-				n := len(darts)
-				darts[[2]int{u, v}], darts[[2]int{v, u}] = n, n+1
-			}
-		}
-	}
-	sigma := make([]int, len(darts))
-	for _, face := range faces {
-		for i, u := range face {
-			v, w := face[(i+1)%len(face)], face[(i+2)%len(face)]
-			sigma[darts[[2]int{v, u}]] = darts[[2]int{v, w}]
-		}
-	}
-	return made(t, sigma, rootOf(sigma), 0)
-}
-
 // beside answers both maps' parts in one, a's darts ahead.
 func beside(t *testing.T, a, b *dart.Map) *dart.Map {
 	t.Helper()
@@ -71,7 +33,7 @@ func beside(t *testing.T, a, b *dart.Map) *dart.Map {
 	for _, d := range b.List() {
 		sigma = append(sigma, d+a.Darts())
 	}
-	return made(t, sigma, rootOf(sigma), a.Lone()+b.Lone())
+	return samples.Map(t, sigma, rootOf(sigma), a.Lone()+b.Lone())
 }
 
 // orbits answers of each number the least one of its orbit.
@@ -197,39 +159,11 @@ func check(t *testing.T, m *dart.Map) {
 	}
 }
 
-// perms answers all permutations of 0 to n - 1, as lists.
-func perms(n int) [][]int {
-	if n == 0 {
-		return [][]int{{}}
-	}
-	var all [][]int
-	for _, l := range perms(n - 1) {
-		for at := range n {
-			all = append(all, slices.Insert(slices.Clone(l), at, n-1))
-		}
-	}
-	return all
-}
-
-// split answers turns of n darts in many small orbits, so that a map of them
-// has several parts.
-func split(r *rand.Rand, n int) []int {
-	sigma := make([]int, n)
-	for d := range sigma {
-		sigma[d] = d
-	}
-	for range n / 2 {
-		i, j := r.IntN(n), r.IntN(n)
-		sigma[i], sigma[j] = sigma[j], sigma[i]
-	}
-	return sigma
-}
-
 func TestP8_AllSmall(t *testing.T) {
 	for n := 0; n <= 6; n += 2 {
-		for _, sigma := range perms(n) {
-			check(t, made(t, sigma, rootOf(sigma), 0))
-			check(t, made(t, sigma, rootOf(sigma), 2))
+		for _, sigma := range samples.Perms(n) {
+			check(t, samples.Map(t, sigma, rootOf(sigma), 0))
+			check(t, samples.Map(t, sigma, rootOf(sigma), 2))
 		}
 	}
 }
@@ -238,9 +172,9 @@ func TestP8_Random(t *testing.T) {
 	r := rand.New(rand.NewPCG(31, 32))
 	for _, n := range []int{8, 10, 16, 50, 200} {
 		for range 20 {
-			for _, sigma := range [][]int{r.Perm(n), split(r, n)} {
+			for _, sigma := range [][]int{r.Perm(n), samples.Split(r.IntN, n)} {
 				for lone := range 3 {
-					check(t, made(t, sigma, r.IntN(n), lone))
+					check(t, samples.Map(t, sigma, r.IntN(n), lone))
 				}
 			}
 		}
@@ -265,12 +199,12 @@ func plain(t *testing.T) []thing {
 		{name: "three lone vertices", m: turned(t, 3), parts: 3},
 		{name: "an edge", m: turned(t, 0, []int{0}, []int{1}), parts: 1},
 		{name: "a path of two edges", m: turned(t, 0, []int{0}, []int{1, 2}, []int{3}), parts: 1},
-		{name: "a triangle", m: faced(t, []int{0, 1, 2}, []int{0, 2, 1}), parts: 1, isTriangulation: true},
-		{name: "a square", m: faced(t, []int{0, 1, 2, 3}, []int{3, 2, 1, 0}), parts: 1},
-		{name: "a square with a chord", m: faced(t, []int{0, 1, 2}, []int{0, 2, 3}, []int{3, 2, 1, 0}), parts: 1},
-		{name: "a square with a chord, its outside first", m: faced(t, []int{3, 2, 1, 0}, []int{0, 1, 2}, []int{0, 2, 3}), parts: 1},
+		{name: "a triangle", m: samples.Faced(t, []int{0, 1, 2}, []int{0, 2, 1}), parts: 1, isTriangulation: true},
+		{name: "a square", m: samples.Faced(t, []int{0, 1, 2, 3}, []int{3, 2, 1, 0}), parts: 1},
+		{name: "a square with a chord", m: samples.Faced(t, []int{0, 1, 2}, []int{0, 2, 3}, []int{3, 2, 1, 0}), parts: 1},
+		{name: "a square with a chord, its outside first", m: samples.Faced(t, []int{3, 2, 1, 0}, []int{0, 1, 2}, []int{0, 2, 3}), parts: 1},
 		{name: "a tetrahedron", m: tetrahedron(t), parts: 1, isTriangulation: true},
-		{name: "an octahedron", m: octahedron(t), parts: 1, isTriangulation: true},
+		{name: "an octahedron", m: samples.Faced(t, samples.Wheel(6)...), parts: 1, isTriangulation: true},
 		{name: "a triangle and a lone vertex", m: turned(t, 1, []int{0, 5}, []int{1, 2}, []int{3, 4}), parts: 2},
 		{name: "two triangles", m: turned(t, 0, []int{0, 5}, []int{1, 2}, []int{3, 4}, []int{6, 11}, []int{7, 8}, []int{9, 10}), parts: 2},
 		{name: "two tetrahedra, one of them alone", m: beside(t, tetrahedron(t), tetrahedron(t)), parts: 2},
@@ -284,7 +218,7 @@ func other(t *testing.T) []thing {
 		{name: "a loop within a loop", m: turned(t, 0, []int{0, 1, 2, 3}), parts: 1, loops: 2},
 		{name: "two loops crossed", m: turned(t, 0, []int{0, 2, 1, 3}), parts: 1, genus: 1, loops: 2},
 		{name: "two times two loops crossed", m: turned(t, 2, []int{0, 2, 1, 3}, []int{4, 6, 5, 7}), parts: 4, genus: 2, loops: 4},
-		{name: "two loops crossed, and a triangle", m: beside(t, turned(t, 0, []int{0, 2, 1, 3}), faced(t, []int{0, 1, 2}, []int{0, 2, 1})), parts: 2, genus: 1, loops: 2},
+		{name: "two loops crossed, and a triangle", m: beside(t, turned(t, 0, []int{0, 2, 1, 3}), samples.Faced(t, []int{0, 1, 2}, []int{0, 2, 1})), parts: 2, genus: 1, loops: 2},
 		{name: "two edges side by side", m: turned(t, 0, []int{0, 2}, []int{1, 3}), parts: 1, doubles: 1},
 		{name: "two edges side by side, one turned", m: turned(t, 0, []int{0, 3}, []int{1, 2}), parts: 1, doubles: 1},
 		{name: "three edges side by side", m: turned(t, 0, []int{0, 2, 4}, []int{5, 3, 1}), parts: 1, doubles: 2},
@@ -292,39 +226,19 @@ func other(t *testing.T) []thing {
 		{name: "one vertex of triangles on a torus", m: turned(t, 0, []int{0, 2, 4, 1, 3, 5}), parts: 1, genus: 1, loops: 3},
 		{name: "triangles with a loop between", m: turned(t, 0, []int{0, 2, 1, 4}, []int{3}, []int{5}), parts: 1, loops: 1},
 		{name: "triangles with an edge doubled", m: doubled(t), parts: 1, doubles: 1},
-		{name: "seven neighbours of each other on a torus", m: seven(t), parts: 1, genus: 1},
+		{name: "seven neighbours of each other on a torus", m: samples.Faced(t, samples.Torus()...), parts: 1, genus: 1},
 	}
 }
 
 // tetrahedron answers the triangulation of four vertices.
 func tetrahedron(t *testing.T) *dart.Map {
-	return faced(t, []int{0, 1, 2}, []int{0, 3, 1}, []int{1, 3, 2}, []int{2, 3, 0})
-}
-
-// octahedron answers a triangulation whose vertices have four neighbours.
-func octahedron(t *testing.T) *dart.Map {
-	var faces [][]int
-	for i := range 4 {
-		j := (i + 1) % 4
-		faces = append(faces, []int{i, j, 4}, []int{j, i, 5})
-	}
-	return faced(t, faces...)
+	return samples.Faced(t, []int{0, 1, 2}, []int{0, 3, 1}, []int{1, 3, 2}, []int{2, 3, 0})
 }
 
 // doubled answers a planar map of triangles with two edges between the same
 // two vertices: one vertex within them, one without, each with edges to both.
 func doubled(t *testing.T) *dart.Map {
 	return turned(t, 0, []int{0, 4, 2, 8}, []int{1, 10, 3, 6}, []int{5, 7}, []int{9, 11})
-}
-
-// seven answers the simple map of triangles on a torus in which any two of
-// its seven vertices are neighbours.
-func seven(t *testing.T) *dart.Map {
-	var faces [][]int
-	for i := range 7 {
-		faces = append(faces, []int{i, (i + 1) % 7, (i + 3) % 7}, []int{i, (i + 3) % 7, (i + 2) % 7})
-	}
-	return faced(t, faces...)
 }
 
 func TestP8_Known(t *testing.T) {
@@ -349,7 +263,7 @@ func TestP8_Known(t *testing.T) {
 // triangulations: it is not their borders that keep them from it.
 func TestP8_2TrianglesAlone(t *testing.T) {
 	for _, m := range []*dart.Map{
-		beside(t, tetrahedron(t), tetrahedron(t)), seven(t), doubled(t),
+		beside(t, tetrahedron(t), tetrahedron(t)), samples.Faced(t, samples.Torus()...), doubled(t),
 		turned(t, 0, []int{0, 2, 1, 4}, []int{3}, []int{5}), turned(t, 0, []int{0, 2, 4, 1, 3, 5}),
 	} {
 		if !modelOf(m).triangles || euler.Triangulation(m) {
@@ -414,40 +328,19 @@ func TestP8_2Doubles(t *testing.T) {
 	}
 }
 
-// large answers Sigma of n darts, by where it takes each.
-func large(n int, to func(d int) int) []int {
-	sigma := make([]int, n)
-	for d := range sigma {
-		sigma[d] = to(d)
-	}
-	return sigma
-}
-
-// along is Sigma of a path of n darts: of each vertex but the first and the
-// last one the darts are an odd one and the next one.
-func along(d, n int) int {
-	switch {
-	case d == 0 || d == n-1:
-		return d
-	case d%2 == 1:
-		return d + 1
-	}
-	return d - 1
-}
-
 func TestP8_Large(t *testing.T) {
 	n := 2 * api.MaxEdges
 	for _, x := range []struct {
 		sigma                        []int
 		parts, genus, loops, doubles int
 	}{
-		{sigma: large(n, func(d int) int { return (d + 1) % n }), parts: 1, loops: n / 2},
-		{sigma: large(n, func(d int) int { return (d + 2) % n }), parts: 1, genus: (n/2 - 2) / 2, doubles: n/2 - 1},
-		{sigma: large(n, func(d int) int { return d }), parts: n / 2},
-		{sigma: large(n, func(d int) int { return along(d, n) }), parts: 1},
+		{sigma: samples.Each(n, func(d int) int { return (d + 1) % n }), parts: 1, loops: n / 2},
+		{sigma: samples.Each(n, func(d int) int { return (d + 2) % n }), parts: 1, genus: (n/2 - 2) / 2, doubles: n/2 - 1},
+		{sigma: samples.Each(n, func(d int) int { return d }), parts: n / 2},
+		{sigma: samples.Path(n), parts: 1},
 	} {
 		for _, lone := range []int{0, api.MaxLone} {
-			m := made(t, x.sigma, 0, lone)
+			m := samples.Map(t, x.sigma, 0, lone)
 			if n := len(euler.Parts(m)); n != x.parts+lone || euler.Connected(m) != (n == 1) {
 				t.Fatal(n, euler.Connected(m))
 			}
@@ -478,11 +371,11 @@ func TestP8_Nil(t *testing.T) {
 }
 
 func TestExamples(t *testing.T) {
-	loop := made(t, []int{1, 0}, 0, 0)
+	loop := samples.Map(t, []int{1, 0}, 0, 0)
 	if !euler.Planar(loop) || euler.Simple(loop) {
 		t.Fatal(euler.Planar(loop), euler.Simple(loop))
 	}
-	m := made(t, []int{1, 2, 3, 0}, 0, 0)
+	m := samples.Map(t, []int{1, 2, 3, 0}, 0, 0)
 	if got := euler.Parts(m); !slices.Equal(got, []euler.Part{{Root: 0, Vertices: 1, Edges: 2, Borders: 3, Genus: 0}}) {
 		t.Fatal(got)
 	}

@@ -11,31 +11,8 @@ import (
 	"parquetry/dual"
 	"parquetry/euler"
 	"parquetry/grow"
+	"parquetry/samples"
 )
-
-// made answers the map of sigma, root and lone, that are right.
-func made(t *testing.T, sigma []int, root, lone int) *dart.Map {
-	t.Helper()
-	m, e := dart.New(sigma, root, lone)
-	if e != api.OK || m == nil {
-		t.Fatalf("New of %d darts, %d, %d: %v", len(sigma), root, lone, e)
-	}
-	return m
-}
-
-// perms answers all permutations of 0 to n - 1, as lists.
-func perms(n int) [][]int {
-	if n == 0 {
-		return [][]int{{}}
-	}
-	var all [][]int
-	for _, l := range perms(n - 1) {
-		for at := range n {
-			all = append(all, slices.Insert(slices.Clone(l), at, n-1))
-		}
-	}
-	return all
-}
 
 // triangle and tetrahedron are where triangulations begin.
 var (
@@ -46,16 +23,16 @@ var (
 // maps answers all of up to six darts, and some of more, each with some root.
 func maps(t *testing.T) []*dart.Map {
 	t.Helper()
-	all := []*dart.Map{made(t, triangle, 3, 0), made(t, tetrahedron, 7, 2)}
+	all := []*dart.Map{samples.Map(t, triangle, 3, 0), samples.Map(t, tetrahedron, 7, 2)}
 	for n := 2; n <= 6; n += 2 {
-		for i, sigma := range perms(n) {
-			all = append(all, made(t, sigma, i%n, i%3))
+		for i, sigma := range samples.Perms(n) {
+			all = append(all, samples.Map(t, sigma, i%n, i%3))
 		}
 	}
 	r := rand.New(rand.NewPCG(111, 112))
 	for _, n := range []int{8, 10, 24, 60} {
 		for range 5 {
-			all = append(all, made(t, r.Perm(n), r.IntN(n), r.IntN(4)), anyPlanar(t, r, n/2))
+			all = append(all, samples.Map(t, r.Perm(n), r.IntN(n), r.IntN(4)), anyPlanar(t, r, n/2))
 		}
 	}
 	return all
@@ -80,7 +57,7 @@ func anyPlanar(t *testing.T, r *rand.Rand, edges int) *dart.Map {
 		}
 		x = x.chord(d, same[r.IntN(len(same))])
 	}
-	return made(t, x.sigma(), r.IntN(2*edges), 0)
+	return samples.Map(t, x.sigma(), r.IntN(2*edges), 0)
 }
 
 // model is a map as its vertices' darts, counter-clockwise: edges grow by
@@ -121,18 +98,10 @@ func (x model) next(d int) int {
 	return -1
 }
 
-// mateOf is the other one of 2e and 2e + 1.
-func mateOf(d int) int {
-	if d%2 == 0 {
-		return d + 1
-	}
-	return d - 1
-}
-
 // border answers the darts of d's face, from d on.
 func (x model) border(d int) []int {
 	l := []int{d}
-	for at := x.next(mateOf(d)); at != d; at = x.next(mateOf(at)) {
+	for at := x.next(samples.Mate(d)); at != d; at = x.next(samples.Mate(at)) {
 		l = append(l, at)
 	}
 	return l
@@ -177,7 +146,7 @@ func (x model) chord(d, e int) model {
 }
 
 func (x model) split(d int) model {
-	n, mate := x.darts(), mateOf(d)
+	n, mate := x.darts(), samples.Mate(d)
 	return append(x.behind(n+1, mate).without(mate), []int{n, mate})
 }
 
@@ -193,21 +162,21 @@ func (x model) star(d int) model {
 }
 
 func (x model) flip(d int) model {
-	mate := mateOf(d)
+	mate := samples.Mate(d)
 	beyond, other := x.border(d)[2], x.border(mate)[2]
 	return x.without(d).without(mate).ahead(d, beyond).ahead(mate, other)
 }
 
 // mayFlip tells whether d's edge is between two triangles.
 func (x model) mayFlip(d int) bool {
-	one, other := x.border(d), x.border(mateOf(d))
-	return len(one) == 3 && len(other) == 3 && !slices.Contains(one, mateOf(d)) && x.next(d) != d && x.next(mateOf(d)) != mateOf(d)
+	one, other := x.border(d), x.border(samples.Mate(d))
+	return len(one) == 3 && len(other) == 3 && !slices.Contains(one, samples.Mate(d)) && x.next(d) != d && x.next(samples.Mate(d)) != samples.Mate(d)
 }
 
 // checkGrown holds what grew of m against the model, and that m is as it was.
 func checkGrown(t *testing.T, what string, m, got *dart.Map, e api.Errno, want model) {
 	t.Helper()
-	if e != api.OK || !dart.Same(got, made(t, want.sigma(), m.Root(), m.Lone())) {
+	if e != api.OK || !dart.Same(got, samples.Map(t, want.sigma(), m.Root(), m.Lone())) {
 		t.Fatalf("%s of %v, %d, %d: %v, %v, %d, %d, want %v", what, m.List(), m.Root(), m.Lone(), e, got.List(), got.Root(), got.Lone(), want.sigma())
 	}
 	if euler.Genus(got) != euler.Genus(m) || euler.Planar(got) != euler.Planar(m) || len(euler.Parts(got)) != len(euler.Parts(m)) {
@@ -337,14 +306,14 @@ func TestP23_2Flip(t *testing.T) {
 func triangulated(t *testing.T) []*dart.Map {
 	t.Helper()
 	all := []*dart.Map{
-		made(t, []int{2, 4, 1, 3, 0, 5}, 0, 0),
-		made(t, []int{2, 5, 4, 1, 0, 3}, 1, 1),
+		samples.Map(t, []int{2, 4, 1, 3, 0, 5}, 0, 0),
+		samples.Map(t, []int{2, 5, 4, 1, 0, 3}, 1, 1),
 		// One vertex on a torus: three edges, two triangles.
-		made(t, []int{2, 3, 4, 5, 1, 0}, 0, 0),
+		samples.Map(t, []int{2, 3, 4, 5, 1, 0}, 0, 0),
 	}
 	r := rand.New(rand.NewPCG(113, 114))
 	for range 30 {
-		m := made(t, triangle, r.IntN(6), r.IntN(2))
+		m := samples.Map(t, triangle, r.IntN(6), r.IntN(2))
 		for range 6 {
 			m, _ = grow.Star(m, r.IntN(m.Darts()))
 			for range 4 {
@@ -404,7 +373,7 @@ func TestP23_BackAgain(t *testing.T) {
 // TestP23_Known holds what grows of one edge, of a loop and of a triangle against
 // what the words make of them.
 func TestP23_Known(t *testing.T) {
-	loop, tri := made(t, []int{1, 0}, 1, 2), made(t, triangle, 4, 0)
+	loop, tri := samples.Map(t, []int{1, 0}, 1, 2), samples.Map(t, triangle, 4, 0)
 	for _, x := range []struct {
 		what string
 		grow func() (*dart.Map, api.Errno)
@@ -429,7 +398,7 @@ func TestP23_Known(t *testing.T) {
 		if e != api.OK {
 			t.Fatalf("%s: %v", x.what, e)
 		}
-		if !dart.Same(got, made(t, x.want, x.root, x.lone)) {
+		if !dart.Same(got, samples.Map(t, x.want, x.root, x.lone)) {
 			t.Errorf("%s: %v, %d, %d, want %v", x.what, got.List(), got.Root(), got.Lone(), x.want)
 		}
 	}
@@ -453,8 +422,8 @@ func calls() map[string]func(m *dart.Map, d int) (*dart.Map, api.Errno) {
 
 func TestP23_Errors(t *testing.T) {
 	some := []*dart.Map{
-		made(t, nil, -1, 0), made(t, nil, -1, 3), grow.Seed(), made(t, []int{1, 0}, 1, 1),
-		made(t, tetrahedron, 0, 0), largest(t), made(t, nil, -1, api.MaxLone),
+		samples.Map(t, nil, -1, 0), samples.Map(t, nil, -1, 3), grow.Seed(), samples.Map(t, []int{1, 0}, 1, 1),
+		samples.Map(t, tetrahedron, 0, 0), largest(t), samples.Map(t, nil, -1, api.MaxLone),
 	}
 	for what, call := range calls() {
 		for _, d := range []int{math.MinInt, -1, 0, 1, math.MaxInt} {
@@ -478,7 +447,7 @@ func largest(t *testing.T) *dart.Map {
 	for d := range sigma {
 		sigma[d] = (d + 1) % len(sigma)
 	}
-	return made(t, sigma, 5, 2)
+	return samples.Map(t, sigma, 5, 2)
 }
 
 // path answers one of so many edges.
@@ -491,7 +460,7 @@ func path(t *testing.T, edges int) *dart.Map {
 			sigma[d] = d - 1 + 2*(d%2)
 		}
 	}
-	return made(t, sigma, 0, 0)
+	return samples.Map(t, sigma, 0, 0)
 }
 
 func TestP23_Large(t *testing.T) {

@@ -12,53 +12,8 @@ import (
 	"parquetry/bits"
 	"parquetry/label"
 	"parquetry/perm"
+	"parquetry/samples"
 )
-
-// of answers the permutation l, that is one.
-func of(t *testing.T, l []int) *perm.Perm {
-	t.Helper()
-	p, err := perm.Of(l)
-	if err != api.OK {
-		t.Fatalf("Of(%v): %v", l, err)
-	}
-	return p
-}
-
-// vec answers the vector whose Text s is.
-func vec(s string) *bits.Vec {
-	v := bits.New()
-	for _, sign := range s {
-		v.Add(int(sign - '0'))
-	}
-	return v
-}
-
-// texts answers all texts of n bits.
-func texts(n int) []string {
-	all := []string{""}
-	for range n {
-		var longer []string
-		for _, s := range all {
-			longer = append(longer, s+"0", s+"1")
-		}
-		all = longer
-	}
-	return all
-}
-
-// perms answers all permutations of 0 to n - 1, as lists.
-func perms(n int) [][]int {
-	if n == 0 {
-		return [][]int{{}}
-	}
-	var all [][]int
-	for _, l := range perms(n - 1) {
-		for at := range n {
-			all = append(all, slices.Insert(slices.Clone(l), at, n-1))
-		}
-	}
-	return all
-}
 
 // keeps tells whether the darts of each edge go to those of one edge.
 func keeps(l []int) bool {
@@ -95,20 +50,10 @@ func names(l []int) string {
 	return s.String()
 }
 
-// shuffled answers names of the darts of so many edges.
-func shuffled(r *rand.Rand, edges int) []int {
-	var l []int
-	for _, e := range r.Perm(edges) {
-		turned := r.IntN(2)
-		l = append(l, 2*e+turned, 2*e+1-turned)
-	}
-	return l
-}
-
 // check checks that a list's names are told, and read again.
 func check(t *testing.T, l []int) {
 	t.Helper()
-	p, edges := of(t, l), len(l)/2
+	p, edges := samples.Perm(t, l), len(l)/2
 	v, err := label.Encode(p)
 	if err != api.OK || v.Len() != label.Size(edges) {
 		t.Fatalf("Encode of %d edges: %d bits, %v, not %d", edges, v.Len(), err, label.Size(edges))
@@ -156,12 +101,12 @@ func TestP20_1Size(t *testing.T) {
 
 func TestP20_1EncodeOfAllPermutations(t *testing.T) {
 	for n := range 8 {
-		for _, l := range perms(n) {
+		for _, l := range samples.Perms(n) {
 			if keeps(l) {
 				check(t, l)
 				continue
 			}
-			if v, err := label.Encode(of(t, l)); v != nil || err != api.ErrPerm {
+			if v, err := label.Encode(samples.Perm(t, l)); v != nil || err != api.ErrPerm {
 				t.Fatalf("Encode(%v): %v, %v", l, v, err)
 			}
 		}
@@ -171,13 +116,13 @@ func TestP20_1EncodeOfAllPermutations(t *testing.T) {
 func TestP20_1EncodeOfLargeOnes(t *testing.T) {
 	r := rand.New(rand.NewPCG(20, 1))
 	for range 300 {
-		check(t, shuffled(r, r.IntN(400)))
+		check(t, samples.Names(r.IntN, r.IntN(400)))
 	}
 	for _, edges := range []int{1023, 1024, 1025, 30000, api.MaxEdges - 1, api.MaxEdges} {
-		l := shuffled(r, edges)
+		l := samples.Names(r.IntN, edges)
 		check(t, l)
 		l[2*edges-1], l[1] = l[1], l[2*edges-1]
-		if v, err := label.Encode(of(t, l)); v != nil || err != api.ErrPerm {
+		if v, err := label.Encode(samples.Perm(t, l)); v != nil || err != api.ErrPerm {
 			t.Fatalf("Encode of two edges' darts mixed: %v, %v", v, err)
 		}
 	}
@@ -188,7 +133,7 @@ func TestP20_1EncodeRefuses(t *testing.T) {
 		t.Errorf("Encode(nil): %v, %v", v, err)
 	}
 	for _, l := range [][]int{{0}, {0, 1, 2}, {1, 2, 0}, {0, 1, 3, 2, 4}, {1, 2, 3, 0}, {0, 2, 1, 3}, {0, 3, 2, 1}} {
-		if v, err := label.Encode(of(t, l)); v != nil || err != api.ErrPerm {
+		if v, err := label.Encode(samples.Perm(t, l)); v != nil || err != api.ErrPerm {
 			t.Errorf("Encode(%v): %v, %v", l, v, err)
 		}
 	}
@@ -221,8 +166,8 @@ func TestP20_2DecodeOfAllBits(t *testing.T) {
 		for e := range edges {
 			want *= 2 * (e + 1)
 		}
-		for _, s := range texts(label.Size(edges)) {
-			p, err := label.Decode(vec(s), edges)
+		for _, s := range samples.Texts("01", label.Size(edges)) {
+			p, err := label.Decode(samples.Vec(s), edges)
 			l := decoded(s, edges)
 			if l == nil {
 				if p != nil || err != api.ErrPerm {
@@ -247,14 +192,14 @@ func TestP20_2DecodeOfAllBits(t *testing.T) {
 func TestP20_2DecodeOfOtherSizes(t *testing.T) {
 	for edges := range 12 {
 		for n := range 70 {
-			p, err := label.Decode(vec(strings.Repeat("0", n)), edges)
+			p, err := label.Decode(samples.Vec(strings.Repeat("0", n)), edges)
 			if n != label.Size(edges) && (p != nil || err != api.ErrRange) {
 				t.Fatalf("Decode of %d bits, %d: %v, %v", n, edges, p, err)
 			}
 		}
 	}
 	for _, edges := range []int{-1, math.MinInt, api.MaxEdges + 1, math.MaxInt} {
-		for _, v := range []*bits.Vec{nil, bits.New(), vec("01")} {
+		for _, v := range []*bits.Vec{nil, bits.New(), samples.Vec("01")} {
 			if p, err := label.Decode(v, edges); p != nil || err != api.ErrRange {
 				t.Fatalf("Decode(%d): %v, %v", edges, p, err)
 			}
@@ -266,10 +211,10 @@ func TestP20_2DecodeOfChangedNames(t *testing.T) {
 	r := rand.New(rand.NewPCG(20, 2))
 	for range 3000 {
 		edges := 1 + r.IntN(70)
-		s := []byte(names(shuffled(r, edges)))
+		s := []byte(names(samples.Names(r.IntN, edges)))
 		i := r.IntN(len(s))
 		s[i] ^= 1
-		p, err := label.Decode(vec(string(s)), edges)
+		p, err := label.Decode(samples.Vec(string(s)), edges)
 		turned := i%(width(edges)+1) == width(edges)
 		switch {
 		case turned && (err != api.OK || !slices.Equal(p.List(), decoded(string(s), edges))):
@@ -295,7 +240,7 @@ func TestP20_2NilHasNoBits(t *testing.T) {
 }
 
 func TestP20_2MemoryIsNew(t *testing.T) {
-	v := vec("1001")
+	v := samples.Vec("1001")
 	p, _ := label.Decode(v, 2)
 	v.Add(1)
 	if !slices.Equal(p.List(), []int{2, 3, 1, 0}) {
@@ -309,7 +254,7 @@ func TestP20_2MemoryIsNew(t *testing.T) {
 }
 
 func TestExamples(t *testing.T) {
-	v, err := label.Encode(of(t, []int{2, 3, 1, 0}))
+	v, err := label.Encode(samples.Perm(t, []int{2, 3, 1, 0}))
 	if v.Text() != "1001" || err != api.OK {
 		t.Errorf("Encode(2, 3, 1, 0): %s, %v", v.Text(), err)
 	}

@@ -13,36 +13,19 @@ import (
 	"parquetry/dart"
 	"parquetry/look"
 	"parquetry/mixed"
+	"parquetry/samples"
 	"parquetry/turan"
 	"parquetry/walk"
 )
 
-// parsed answers the word of s.
-func parsed(t *testing.T, s string) *mixed.Word {
-	t.Helper()
-	w, _, e := mixed.Parse(s)
-	if e != api.OK {
-		t.Fatalf("Parse of %s: %v", short(s), e)
-	}
-	return w
-}
-
 // looked answers the questions to the right word of s.
 func looked(t *testing.T, s string) *look.Look {
 	t.Helper()
-	l, e := look.Of(parsed(t, s).Bits())
+	l, e := look.Of(samples.Word(t, s).Bits())
 	if e != api.OK || l == nil {
-		t.Fatalf("Of %s: %v", short(s), e)
+		t.Fatalf("Of %s: %v", samples.Short(s), e)
 	}
 	return l
-}
-
-// short is s, or its beginning.
-func short(s string) string {
-	if len(s) > 40 {
-		return s[:40] + ".."
-	}
-	return s
 }
 
 // rightTexts answers all texts of right words of so many edges.
@@ -101,11 +84,11 @@ type model struct {
 // modelOf answers the model of a right word.
 func modelOf(t *testing.T, s string) model {
 	t.Helper()
-	w := parsed(t, s)
+	w := samples.Word(t, s)
 	m, e := turan.Decode(w)
 	names, f := turan.Names(w)
 	if e != api.OK || f != api.OK {
-		t.Fatalf("of %s: Decode %v, Names %v", short(s), e, f)
+		t.Fatalf("of %s: Decode %v, Names %v", samples.Short(s), e, f)
 	}
 	x := model{m: m, names: names, places: make([]int, len(names)), numbers: make([]int, m.Vertices())}
 	for i, d := range names {
@@ -157,7 +140,7 @@ func checkPlace(t *testing.T, l *look.Look, x model, s string, i int) {
 		{"Vertex", l.Vertex, x.number(i)},
 	} {
 		if got, e := q.ask(i); got != q.want || e != api.OK {
-			t.Fatalf("%s(%d) of %s: %d, %v, want %d", q.name, i, short(s), got, e, q.want)
+			t.Fatalf("%s(%d) of %s: %d, %v, want %d", q.name, i, samples.Short(s), got, e, q.want)
 		}
 	}
 }
@@ -170,7 +153,7 @@ func checkFace(t *testing.T, l *look.Look, x model, s string, i int) {
 		want[k] = x.places[d]
 	}
 	if got, e := l.Face(i); !slices.Equal(got, want) || e != api.OK {
-		t.Fatalf("Face(%d) of %s: %v, %v, want %v", i, short(s), got, e, want)
+		t.Fatalf("Face(%d) of %s: %v, %v, want %v", i, samples.Short(s), got, e, want)
 	}
 }
 
@@ -179,19 +162,19 @@ func checkFace(t *testing.T, l *look.Look, x model, s string, i int) {
 func checkVertex(t *testing.T, l *look.Look, x model, s string, v int, places []int) {
 	t.Helper()
 	if got, e := l.First(v); got != places[0] || e != api.OK {
-		t.Fatalf("First(%d) of %s: %d, %v, want %d", v, short(s), got, e, places[0])
+		t.Fatalf("First(%d) of %s: %d, %v, want %d", v, samples.Short(s), got, e, places[0])
 	}
 	if got, e := l.Degree(v); got != len(places) || e != api.OK {
-		t.Fatalf("Degree(%d) of %s: %d, %v, want %d", v, short(s), got, e, len(places))
+		t.Fatalf("Degree(%d) of %s: %d, %v, want %d", v, samples.Short(s), got, e, len(places))
 	}
 	for k, i := range places {
 		if got, e := l.Nth(v, k); got != x.number(x.mate(i)) || e != api.OK {
-			t.Fatalf("Nth(%d, %d) of %s: %d, %v, want %d", v, k, short(s), got, e, x.number(x.mate(i)))
+			t.Fatalf("Nth(%d, %d) of %s: %d, %v, want %d", v, k, samples.Short(s), got, e, x.number(x.mate(i)))
 		}
 	}
 	for _, k := range none(len(places)) {
 		if got, e := l.Nth(v, k); got != 0 || e != api.ErrRange {
-			t.Fatalf("Nth(%d, %d) of %s: %d, %v", v, k, short(s), got, e)
+			t.Fatalf("Nth(%d, %d) of %s: %d, %v", v, k, samples.Short(s), got, e)
 		}
 	}
 }
@@ -207,11 +190,11 @@ func checkNone(t *testing.T, l *look.Look, s string) {
 			"Mate": l.Mate, "Next": l.Next, "Back": l.Back, "Along": l.Along, "Vertex": l.Vertex,
 		} {
 			if got, e := ask(i); got != 0 || e != api.ErrRange {
-				t.Fatalf("%s(%d) of %s: %d, %v", name, i, short(s), got, e)
+				t.Fatalf("%s(%d) of %s: %d, %v", name, i, samples.Short(s), got, e)
 			}
 		}
 		if got, e := l.Face(i); len(got) != 0 || e != api.ErrRange {
-			t.Fatalf("Face(%d) of %s: %v, %v", i, short(s), got, e)
+			t.Fatalf("Face(%d) of %s: %v, %v", i, samples.Short(s), got, e)
 		}
 	}
 	for _, v := range none(l.Vertices()) {
@@ -221,12 +204,12 @@ func checkNone(t *testing.T, l *look.Look, s string) {
 			"Nth":    func() (int, api.Errno) { return l.Nth(v, 0) },
 		} {
 			if got, e := ask(); got != 0 || e != api.ErrRange {
-				t.Fatalf("%s(%d) of %s: %d, %v", name, v, short(s), got, e)
+				t.Fatalf("%s(%d) of %s: %d, %v", name, v, samples.Short(s), got, e)
 			}
 		}
 		for _, pair := range [][2]int{{0, v}, {v, 0}, {v, v}} {
 			if got, e := l.Adjacent(pair[0], pair[1]); got || e != api.ErrRange {
-				t.Fatalf("Adjacent(%d, %d) of %s: %v, %v", pair[0], pair[1], short(s), got, e)
+				t.Fatalf("Adjacent(%d, %d) of %s: %v, %v", pair[0], pair[1], samples.Short(s), got, e)
 			}
 		}
 	}
@@ -237,7 +220,7 @@ func checkAll(t *testing.T, s string) {
 	t.Helper()
 	l, x := looked(t, s), modelOf(t, s)
 	if l.Edges() != x.m.Edges() || l.Vertices() != x.m.Vertices() {
-		t.Fatalf("of %s: %d edges, %d vertices, want %d, %d", short(s), l.Edges(), l.Vertices(), x.m.Edges(), x.m.Vertices())
+		t.Fatalf("of %s: %d edges, %d vertices, want %d, %d", samples.Short(s), l.Edges(), l.Vertices(), x.m.Edges(), x.m.Vertices())
 	}
 	for i := range x.names {
 		checkPlace(t, l, x, s, i)
@@ -251,7 +234,7 @@ func checkAll(t *testing.T, s string) {
 		}
 		for v, n := range joined {
 			if got, e := l.Adjacent(u, v); got != (n > 0) || e != api.OK {
-				t.Fatalf("Adjacent(%d, %d) of %s: %v, %v, want %d", u, v, short(s), got, e, n)
+				t.Fatalf("Adjacent(%d, %d) of %s: %v, %v, want %d", u, v, samples.Short(s), got, e, n)
 			}
 		}
 	}
@@ -282,8 +265,8 @@ func TestP13_1Errors(t *testing.T) {
 		many("()", 700) + "[" + many("()", 700) + "(])": api.ErrCanon,
 		many("[(])", 700) + ")":                         api.ErrBalance,
 	} {
-		if l, e := look.Of(parsed(t, s).Bits()); l != nil || e != want {
-			t.Errorf("Of %s: %v, want %v", short(s), e, want)
+		if l, e := look.Of(samples.Word(t, s).Bits()); l != nil || e != want {
+			t.Errorf("Of %s: %v, want %v", samples.Short(s), e, want)
 		}
 	}
 }
@@ -300,7 +283,7 @@ func TestP13_1Counts(t *testing.T) {
 }
 
 func TestP13_1AsAtOf(t *testing.T) {
-	w := parsed(t, "(([))]")
+	w := samples.Word(t, "(([))]")
 	v := w.Bits()
 	l, e := look.Of(v)
 	if e != api.OK || !bits.Same(v, w.Bits()) {
@@ -563,11 +546,11 @@ func TestP13_3Size(t *testing.T) {
 			size := l.Size()
 			// There is an entry for each block, at least.
 			if size > 4*edges+4096 || size < 2*edges/api.Block*32 {
-				t.Errorf("Size of %d edges, %s: %d", edges, short(s), size)
+				t.Errorf("Size of %d edges, %s: %d", edges, samples.Short(s), size)
 			}
 			asked(l, 0)
 			if l.Size() != size {
-				t.Errorf("Size of %d edges, %s: %d, then %d", edges, short(s), size, l.Size())
+				t.Errorf("Size of %d edges, %s: %d, then %d", edges, samples.Short(s), size, l.Size())
 			}
 		}
 	}

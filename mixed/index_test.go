@@ -7,30 +7,17 @@ import (
 
 	"parquetry/api"
 	"parquetry/mixed"
+	"parquetry/samples"
 )
 
 // indexed answers the index of the word of s, that is balanced.
 func indexed(t *testing.T, s string) *mixed.Mixed {
 	t.Helper()
-	m, e := mixed.Index(parsed(t, s))
+	m, e := mixed.Index(samples.Word(t, s))
 	if e != api.OK || m == nil {
-		t.Fatalf("Index of %s: %v", short(s), e)
+		t.Fatalf("Index of %s: %v", samples.Short(s), e)
 	}
 	return m
-}
-
-// isBalanced tells whether the letters of one pair's signs are balanced alone.
-func isBalanced(s, pair string) bool {
-	alone := strings.Map(func(sign rune) rune {
-		if strings.ContainsRune(pair, sign) {
-			return sign
-		}
-		return -1
-	}, s)
-	for strings.Contains(alone, pair) {
-		alone = strings.ReplaceAll(alone, pair, "")
-	}
-	return alone == ""
 }
 
 // model is what the letters of a balanced text are, worked out by stacks.
@@ -68,14 +55,14 @@ func modelOf(s string) model {
 func checkIndex(t *testing.T, m *mixed.Mixed, s string) {
 	t.Helper()
 	if m.Len() != len(s) {
-		t.Fatalf("Len of %s: %d", short(s), m.Len())
+		t.Fatalf("Len of %s: %d", samples.Short(s), m.Len())
 	}
 	want, kinds := modelOf(s), kindsOf(s)
 	counts := [len(signs)]int{}
 	for i := range len(s) + 1 {
 		for kind, n := range counts {
 			if k, e := m.Rank(kind, i); k != n || e != api.OK {
-				t.Fatalf("Rank(%d, %d) of %s: %d, %v, want %d", kind, i, short(s), k, e, n)
+				t.Fatalf("Rank(%d, %d) of %s: %d, %v, want %d", kind, i, samples.Short(s), k, e, n)
 			}
 		}
 		if i == len(s) {
@@ -83,16 +70,16 @@ func checkIndex(t *testing.T, m *mixed.Mixed, s string) {
 		}
 		kind := kinds[i]
 		if m.At(i) != kind {
-			t.Fatalf("At(%d) of %s: %d", i, short(s), m.At(i))
+			t.Fatalf("At(%d) of %s: %d", i, samples.Short(s), m.At(i))
 		}
 		if at, e := m.Mate(i); at != want.mate[i] || e != api.OK {
-			t.Fatalf("Mate(%d) of %s: %d, %v, want %d", i, short(s), at, e, want.mate[i])
+			t.Fatalf("Mate(%d) of %s: %d, %v, want %d", i, samples.Short(s), at, e, want.mate[i])
 		}
 		if at, e := m.Owner(i); at != want.owner[i] || e != api.OK {
-			t.Fatalf("Owner(%d) of %s: %d, %v, want %d", i, short(s), at, e, want.owner[i])
+			t.Fatalf("Owner(%d) of %s: %d, %v, want %d", i, samples.Short(s), at, e, want.owner[i])
 		}
 		if at, e := m.Select(kind, counts[kind]); at != i || e != api.OK {
-			t.Fatalf("Select(%d, %d) of %s: %d, %v, want %d", kind, counts[kind], short(s), at, e, i)
+			t.Fatalf("Select(%d, %d) of %s: %d, %v, want %d", kind, counts[kind], samples.Short(s), at, e, i)
 		}
 		counts[kind]++
 	}
@@ -104,33 +91,33 @@ func checkIndexErrors(t *testing.T, m *mixed.Mixed, s string) {
 	t.Helper()
 	for _, i := range none(len(s) - 1) {
 		if m.At(i) != -1 {
-			t.Fatalf("At(%d) of %s: %d", i, short(s), m.At(i))
+			t.Fatalf("At(%d) of %s: %d", i, samples.Short(s), m.At(i))
 		}
 		if at, e := m.Mate(i); at != 0 || e != api.ErrRange {
-			t.Fatalf("Mate(%d) of %s: %d, %v", i, short(s), at, e)
+			t.Fatalf("Mate(%d) of %s: %d, %v", i, samples.Short(s), at, e)
 		}
 		if at, e := m.Owner(i); at != 0 || e != api.ErrRange {
-			t.Fatalf("Owner(%d) of %s: %d, %v", i, short(s), at, e)
+			t.Fatalf("Owner(%d) of %s: %d, %v", i, samples.Short(s), at, e)
 		}
 	}
 	for kind, sign := range signs {
 		for _, i := range none(len(s)) {
 			if k, e := m.Rank(kind, i); k != 0 || e != api.ErrRange {
-				t.Fatalf("Rank(%d, %d) of %s: %d, %v", kind, i, short(s), k, e)
+				t.Fatalf("Rank(%d, %d) of %s: %d, %v", kind, i, samples.Short(s), k, e)
 			}
 		}
 		for _, k := range none(strings.Count(s, string(sign)) - 1) {
 			if at, e := m.Select(kind, k); at != 0 || e != api.ErrRange {
-				t.Fatalf("Select(%d, %d) of %s: %d, %v", kind, k, short(s), at, e)
+				t.Fatalf("Select(%d, %d) of %s: %d, %v", kind, k, samples.Short(s), at, e)
 			}
 		}
 	}
 	for _, kind := range noKinds {
 		if k, e := m.Rank(kind, 0); k != 0 || e != api.ErrRange {
-			t.Fatalf("Rank(%d, 0) of %s: %d, %v", kind, short(s), k, e)
+			t.Fatalf("Rank(%d, 0) of %s: %d, %v", kind, samples.Short(s), k, e)
 		}
 		if at, e := m.Select(kind, 0); at != 0 || e != api.ErrRange {
-			t.Fatalf("Select(%d, 0) of %s: %d, %v", kind, short(s), at, e)
+			t.Fatalf("Select(%d, 0) of %s: %d, %v", kind, samples.Short(s), at, e)
 		}
 	}
 }
@@ -187,12 +174,12 @@ func shaped(r *rand.Rand, n int) []string {
 
 func TestP4_2Short(t *testing.T) {
 	for n := range 7 {
-		for _, s := range allTexts(n) {
-			if isBalanced(s, "()") && isBalanced(s, "[]") {
+		for _, s := range samples.Texts(signs, n) {
+			if samples.IsBalanced(s, "()") && samples.IsBalanced(s, "[]") {
 				checkIndex(t, indexed(t, s), s)
 				continue
 			}
-			if m, e := mixed.Index(parsed(t, s)); m != nil || e != api.ErrBalance {
+			if m, e := mixed.Index(samples.Word(t, s)); m != nil || e != api.ErrBalance {
 				t.Fatalf("Index of %s: %v", s, e)
 			}
 		}
@@ -205,8 +192,8 @@ func TestP4_2NotBalanced(t *testing.T) {
 		"(", ")", "[", "]", ")(", "][", "(]", "[)", "()[", "(][)(", "[](", "())(", "[]][", "([)][",
 		long + "(", long + "]", "[" + long, long + ")(" + long, long + "][" + long, long + "[]](" + long + ")[",
 	} {
-		if m, e := mixed.Index(parsed(t, s)); m != nil || e != api.ErrBalance {
-			t.Errorf("Index of %s: %v", short(s), e)
+		if m, e := mixed.Index(samples.Word(t, s)); m != nil || e != api.ErrBalance {
+			t.Errorf("Index of %s: %v", samples.Short(s), e)
 		}
 	}
 }
@@ -232,7 +219,7 @@ func TestP4_2Large(t *testing.T) {
 }
 
 func TestP4_2AsAtIndex(t *testing.T) {
-	w := parsed(t, "([)]")
+	w := samples.Word(t, "([)]")
 	m, e := mixed.Index(w)
 	if e != api.OK || w.Text() != "([)]" {
 		t.Fatal(e, w.Text())
@@ -265,14 +252,14 @@ func TestP4_2Size(t *testing.T) {
 			// An entry a block of each letter's shape, and of each shape's own
 			// letters, is what there is at least.
 			if size > n+4096 || size < n/api.Block*32+n/api.Block*64 {
-				t.Fatalf("Size of %s: %d", short(s), size)
+				t.Fatalf("Size of %s: %d", samples.Short(s), size)
 			}
 			for i := 0; i < n; i += 97 {
 				m.Mate(i)
 				m.Owner(i)
 			}
 			if m.Size() != size {
-				t.Fatalf("Size of %s: %d, then %d", short(s), size, m.Size())
+				t.Fatalf("Size of %s: %d, then %d", samples.Short(s), size, m.Size())
 			}
 		}
 	}

@@ -1,7 +1,6 @@
 package mixed_test
 
 import (
-	"fmt"
 	"math"
 	"math/rand/v2"
 	"slices"
@@ -11,6 +10,7 @@ import (
 	"parquetry/api"
 	"parquetry/bits"
 	"parquetry/mixed"
+	"parquetry/samples"
 )
 
 // signs are those of the kinds, in their order.
@@ -18,39 +18,6 @@ const signs = "()[]"
 
 // noKinds are numbers of no kind.
 var noKinds = []int{math.MinInt, -4, -1, 4, 5, 40, math.MaxInt}
-
-// parsed answers the word of s, that has no other signs.
-func parsed(t *testing.T, s string) *mixed.Word {
-	t.Helper()
-	w, n, e := mixed.Parse(s)
-	if e != api.OK || w == nil || n != len(s) {
-		t.Fatalf("Parse of %s: %d, %v", short(s), n, e)
-	}
-	return w
-}
-
-// short is s, or its beginning and its length.
-func short(s string) string {
-	if len(s) <= 80 {
-		return s
-	}
-	return fmt.Sprintf("%s.. (%d)", s[:80], len(s))
-}
-
-// allTexts answers all texts of n letters.
-func allTexts(n int) []string {
-	all := []string{""}
-	for range n {
-		var longer []string
-		for _, s := range all {
-			for _, sign := range signs {
-				longer = append(longer, s+string(sign))
-			}
-		}
-		all = longer
-	}
-	return all
-}
 
 // kindsOf answers the kinds of the letters of s.
 func kindsOf(s string) []int {
@@ -65,30 +32,30 @@ func kindsOf(s string) []int {
 func checkWord(t *testing.T, w *mixed.Word, s string) {
 	t.Helper()
 	if w.Text() != s || w.Len() != len(s) {
-		t.Fatalf("of %s: Text %s, Len %d", short(s), short(w.Text()), w.Len())
+		t.Fatalf("of %s: Text %s, Len %d", samples.Short(s), samples.Short(w.Text()), w.Len())
 	}
 	for i, kind := range kindsOf(s) {
 		if w.At(i) != kind {
-			t.Fatalf("of %s: At(%d) %d", short(s), i, w.At(i))
+			t.Fatalf("of %s: At(%d) %d", samples.Short(s), i, w.At(i))
 		}
 	}
 	for _, i := range none(len(s) - 1) {
 		if w.At(i) != -1 {
-			t.Fatalf("of %s: At(%d) %d", short(s), i, w.At(i))
+			t.Fatalf("of %s: At(%d) %d", samples.Short(s), i, w.At(i))
 		}
 	}
 	for kind, sign := range signs {
 		if w.Count(kind) != strings.Count(s, string(sign)) {
-			t.Fatalf("of %s: Count(%d) %d", short(s), kind, w.Count(kind))
+			t.Fatalf("of %s: Count(%d) %d", samples.Short(s), kind, w.Count(kind))
 		}
 	}
 	for _, kind := range noKinds {
 		if w.Count(kind) != 0 {
-			t.Fatalf("of %s: Count(%d) %d", short(s), kind, w.Count(kind))
+			t.Fatalf("of %s: Count(%d) %d", samples.Short(s), kind, w.Count(kind))
 		}
 	}
 	if w.Bits().Text() != bitsText(s) {
-		t.Fatalf("of %s: Bits %s", short(s), short(w.Bits().Text()))
+		t.Fatalf("of %s: Bits %s", samples.Short(s), samples.Short(w.Bits().Text()))
 	}
 }
 
@@ -106,7 +73,7 @@ func none(last int) []int {
 func wordTexts() []string {
 	var all []string
 	for n := range 6 {
-		all = append(all, allTexts(n)...)
+		all = append(all, samples.Texts(signs, n)...)
 	}
 	r := rand.New(rand.NewPCG(21, 22))
 	for _, n := range []int{31, 32, 33, 63, 64, 65, 256, 1000} {
@@ -121,7 +88,7 @@ func wordTexts() []string {
 
 func TestP4_1Parse(t *testing.T) {
 	for _, s := range wordTexts() {
-		checkWord(t, parsed(t, s), s)
+		checkWord(t, samples.Word(t, s), s)
 	}
 }
 
@@ -172,7 +139,7 @@ func checkNothing(t *testing.T, w *mixed.Word) {
 
 func TestP4_1AddNoKind(t *testing.T) {
 	for _, s := range []string{"", "(", "([)]"} {
-		w := parsed(t, s)
+		w := samples.Word(t, s)
 		for _, wrong := range noKinds {
 			for _, kinds := range [][]int{{wrong}, {mixed.Open, wrong}, {wrong, mixed.Right}, {0, 1, 2, 3, wrong}, {wrong, wrong}} {
 				if e := w.Add(kinds...); e != api.ErrRange {
@@ -190,10 +157,10 @@ func TestP4_1AddNoKind(t *testing.T) {
 
 func TestP4_1BitsAndBack(t *testing.T) {
 	for _, s := range wordTexts() {
-		v := parsed(t, s).Bits()
+		v := samples.Word(t, s).Bits()
 		w, e := mixed.Of(v)
 		if e != api.OK || v.Text() != bitsText(s) {
-			t.Fatalf("Of the bits of %s: %v", short(s), e)
+			t.Fatalf("Of the bits of %s: %v", samples.Short(s), e)
 		}
 		checkWord(t, w, s)
 		v.Add(1)
@@ -218,7 +185,7 @@ func TestP4_1OfNoBits(t *testing.T) {
 }
 
 func TestP4_1ItsOwnBits(t *testing.T) {
-	w := parsed(t, "([)]")
+	w := samples.Word(t, "([)]")
 	v := w.Bits()
 	v.Num(math.MaxUint64, 64)
 	checkWord(t, w, "([)]")

@@ -14,29 +14,8 @@ import (
 	"parquetry/bits"
 	"parquetry/coder"
 	"parquetry/pack"
+	"parquetry/samples"
 )
-
-// vec answers the vector whose Text s is.
-func vec(s string) *bits.Vec {
-	v := bits.New()
-	for _, sign := range s {
-		v.Add(int(sign - '0'))
-	}
-	return v
-}
-
-// texts answers all texts of n bits.
-func texts(n int) []string {
-	all := []string{""}
-	for range n {
-		var longer []string
-		for _, s := range all {
-			longer = append(longer, s+"0", s+"1")
-		}
-		all = longer
-	}
-	return all
-}
 
 // skewed answers a text of n bits, of which so many of a hundred are 1, but
 // those behind the same two bits as ahead of them go on alike.
@@ -218,7 +197,7 @@ func ways(t *testing.T, s string) [][]byte {
 	t.Helper()
 	all := [][]byte{append([]byte{0}, octets(s)...)}
 	for k := range coder.MaxOrder + 1 {
-		code, err := coder.Encode(vec(s), k)
+		code, err := coder.Encode(samples.Vec(s), k)
 		if err != api.OK {
 			t.Fatalf("Encode(%s, %d): %v", s, k, err)
 		}
@@ -245,10 +224,10 @@ func checkPack(t *testing.T, s string) int {
 	t.Helper()
 	all := ways(t, s)
 	least := fewest(all)
-	if got := pack.Pack(vec(s), true); !bytes.Equal(got, all[0]) {
+	if got := pack.Pack(samples.Vec(s), true); !bytes.Equal(got, all[0]) {
 		t.Fatalf("Pack(%s), plain: %x, not %x", s, got, all[0])
 	}
-	if got := pack.Pack(vec(s), false); !bytes.Equal(got, all[least]) {
+	if got := pack.Pack(samples.Vec(s), false); !bytes.Equal(got, all[least]) {
 		t.Fatalf("Pack(%s): %x, not %x", s, got, all[least])
 	}
 	for mode, way := range all {
@@ -272,7 +251,7 @@ func read(t *testing.T, p []byte, s string, plain, right bool, refused api.Errno
 
 func TestP19_2PackOfFewBits(t *testing.T) {
 	for n := range 12 {
-		for _, s := range texts(n) {
+		for _, s := range samples.Texts("01", n) {
 			checkPack(t, s)
 		}
 	}
@@ -285,7 +264,7 @@ func TestP19_2PackTakesTheFewestBytes(t *testing.T) {
 	check := func(s string) {
 		mode := checkPack(t, s)
 		met[mode]++
-		if order, _ := coder.Least(vec(s)); mode > 0 && mode != order+1 {
+		if order, _ := coder.Least(samples.Vec(s)); mode > 0 && mode != order+1 {
 			differs++
 		}
 	}
@@ -306,7 +285,7 @@ func TestP19_2LargePacks(t *testing.T) {
 	r := rand.New(rand.NewPCG(19, 22))
 	for _, ones := range []int{0, 3, 50, 100} {
 		s := skewed(r, 1<<18+5, ones)
-		p := pack.Pack(vec(s), false)
+		p := pack.Pack(samples.Vec(s), false)
 		read(t, p, s, false, true, api.OK)
 		if len(p) > 1+(len(s)+7)/8 {
 			t.Fatalf("%d bits take %d bytes", len(s), len(p))
@@ -340,8 +319,8 @@ func outcomes(t *testing.T, n int, plain bool, lists func(packs [][]byte, try fu
 	t.Helper()
 	var packs [][]byte
 	whose := map[string]string{}
-	for _, s := range texts(n) {
-		p := pack.Pack(vec(s), plain)
+	for _, s := range samples.Texts("01", n) {
+		p := pack.Pack(samples.Vec(s), plain)
 		packs = append(packs, p)
 		whose[string(p)] = s
 	}
@@ -416,7 +395,7 @@ func TestP19_2UnpackIsStrict(t *testing.T) {
 func TestP19_2UnpackOfChangedCodes(t *testing.T) {
 	r := rand.New(rand.NewPCG(19, 3))
 	for _, s := range []string{strings.Repeat("0", 300), strings.Repeat("01", 200), skewed(r, 700, 4), skewed(r, 500, 90)} {
-		p := pack.Pack(vec(s), false)
+		p := pack.Pack(samples.Vec(s), false)
 		if p[0] == 0 {
 			t.Fatalf("%s is stored", s)
 		}
@@ -516,11 +495,11 @@ func TestP19_2NilHasNoBits(t *testing.T) {
 
 func TestP19_2MemoryIsNew(t *testing.T) {
 	for _, s := range []string{"10110", strings.Repeat("0", 500)} {
-		v := vec(s)
+		v := samples.Vec(s)
 		p := pack.Pack(v, false)
 		kept := slices.Clone(p)
 		v.Add(1, 1, 1)
-		q := pack.Pack(vec(s), false)
+		q := pack.Pack(samples.Vec(s), false)
 		q[0] = 77
 		if !bytes.Equal(p, kept) {
 			t.Fatal("what Pack told changes with what it was handed")

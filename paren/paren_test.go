@@ -1,7 +1,6 @@
 package paren_test
 
 import (
-	"fmt"
 	"math"
 	"math/rand/v2"
 	"slices"
@@ -12,33 +11,17 @@ import (
 	"parquetry/api"
 	"parquetry/bits"
 	"parquetry/paren"
+	"parquetry/samples"
 )
-
-// vector answers the vector whose Text is s.
-func vector(s string) *bits.Vec {
-	v := bits.New()
-	for _, r := range s {
-		v.Add(int(r - '0'))
-	}
-	return v
-}
 
 // made answers the parentheses of s, that is balanced.
 func made(t *testing.T, s string) *paren.Paren {
 	t.Helper()
-	p, e := paren.New(vector(s))
+	p, e := paren.New(samples.Vec(s))
 	if e != api.OK || p == nil {
-		t.Fatalf("New of %s: %v", short(s), e)
+		t.Fatalf("New of %s: %v", samples.Short(s), e)
 	}
 	return p
-}
-
-// short is s, or its beginning and its length.
-func short(s string) string {
-	if len(s) <= 80 {
-		return s
-	}
-	return fmt.Sprintf("%s.. (%d)", s[:80], len(s))
 }
 
 // model is what the parentheses of a text are, worked out by a stack.
@@ -115,19 +98,6 @@ func texts() []string {
 	return all
 }
 
-// allTexts answers all texts of n noughts and ones.
-func allTexts(n int) []string {
-	var all []string
-	for x := range 1 << n {
-		var b strings.Builder
-		for i := range n {
-			b.WriteByte('0' + byte(x>>i&1))
-		}
-		all = append(all, b.String())
-	}
-	return all
-}
-
 // none are places that there aren't, where last is the last one.
 func none(last int) []int {
 	return []int{math.MinInt, -api.Block, -2, -1, last + 1, last + 2, last + api.Block, math.MaxInt}
@@ -135,12 +105,12 @@ func none(last int) []int {
 
 func TestP3_1Balance(t *testing.T) {
 	for n := range 13 {
-		for _, s := range allTexts(n) {
+		for _, s := range samples.Texts("01", n) {
 			want := api.OK
 			if _, ok := modelOf(s); !ok {
 				want = api.ErrBalance
 			}
-			p, e := paren.New(vector(s))
+			p, e := paren.New(samples.Vec(s))
 			if e != want || (p == nil) != (e != api.OK) {
 				t.Fatalf("New of %s: %v, want %v", s, e, want)
 			}
@@ -157,8 +127,8 @@ func TestP3_1NotBalanced(t *testing.T) {
 		deep + "01", deep + "1", deep + "0", "1" + deep, deep[1:], deep[:len(deep)-1],
 		deep[:600] + "0" + deep[600:] + "1", deep[600:] + deep[:600],
 	} {
-		if p, e := paren.New(vector(s)); p != nil || e != api.ErrBalance {
-			t.Errorf("New of %s: %v", short(s), e)
+		if p, e := paren.New(samples.Vec(s)); p != nil || e != api.ErrBalance {
+			t.Errorf("New of %s: %v", samples.Short(s), e)
 		}
 	}
 }
@@ -167,23 +137,23 @@ func TestP3_1LenAndOpen(t *testing.T) {
 	for _, s := range texts() {
 		p := made(t, s)
 		if p.Len() != len(s) {
-			t.Fatalf("Len of %s: %d", short(s), p.Len())
+			t.Fatalf("Len of %s: %d", samples.Short(s), p.Len())
 		}
 		for i := range s {
 			if p.Open(i) != (s[i] == '1') {
-				t.Fatalf("Open(%d) of %s: %v", i, short(s), p.Open(i))
+				t.Fatalf("Open(%d) of %s: %v", i, samples.Short(s), p.Open(i))
 			}
 		}
 		for _, i := range none(len(s) - 1) {
 			if p.Open(i) {
-				t.Fatalf("Open(%d) of %s", i, short(s))
+				t.Fatalf("Open(%d) of %s", i, samples.Short(s))
 			}
 		}
 	}
 }
 
 func TestP3_1AsAtNew(t *testing.T) {
-	v := vector("110100")
+	v := samples.Vec("110100")
 	p, e := paren.New(v)
 	if e != api.OK || v.Text() != "110100" {
 		t.Fatal(e, v.Text())
@@ -236,15 +206,15 @@ func check(t *testing.T, p *paren.Paren, s string) {
 	m, _ := modelOf(s)
 	for i, want := range m.excess {
 		if x, e := p.Excess(i); x != want || e != api.OK {
-			t.Fatalf("Excess(%d) of %s: %d, %v, want %d", i, short(s), x, e, want)
+			t.Fatalf("Excess(%d) of %s: %d, %v, want %d", i, samples.Short(s), x, e, want)
 		}
 	}
 	for i := range s {
 		if at, e := p.Mate(i); at != m.mate[i] || e != api.OK {
-			t.Fatalf("Mate(%d) of %s: %d, %v, want %d", i, short(s), at, e, m.mate[i])
+			t.Fatalf("Mate(%d) of %s: %d, %v, want %d", i, samples.Short(s), at, e, m.mate[i])
 		}
 		if at, e := p.Round(i); at != m.round[i] || e != api.OK {
-			t.Fatalf("Round(%d) of %s: %d, %v, want %d", i, short(s), at, e, m.round[i])
+			t.Fatalf("Round(%d) of %s: %d, %v, want %d", i, samples.Short(s), at, e, m.round[i])
 		}
 	}
 }
@@ -260,7 +230,7 @@ func checkLow(t *testing.T, p *paren.Paren, excess []int, from, to int) {
 
 func TestP3_2Short(t *testing.T) {
 	for n := 0; n <= 12; n += 2 {
-		for _, s := range allTexts(n) {
+		for _, s := range samples.Texts("01", n) {
 			m, ok := modelOf(s)
 			if !ok {
 				continue
@@ -318,26 +288,26 @@ func TestP3_2Errors(t *testing.T) {
 		n := len(s)
 		for _, i := range none(n) {
 			if x, e := p.Excess(i); x != 0 || e != api.ErrRange {
-				t.Fatalf("Excess(%d) of %s: %d, %v", i, short(s), x, e)
+				t.Fatalf("Excess(%d) of %s: %d, %v", i, samples.Short(s), x, e)
 			}
 			for _, pair := range [][2]int{{i, n}, {0, i}, {i, i}} {
 				if x, e := p.Low(pair[0], pair[1]); x != 0 || e != api.ErrRange {
-					t.Fatalf("Low(%d, %d) of %s: %d, %v", pair[0], pair[1], short(s), x, e)
+					t.Fatalf("Low(%d, %d) of %s: %d, %v", pair[0], pair[1], samples.Short(s), x, e)
 				}
 			}
 		}
 		for _, i := range none(n - 1) {
 			if at, e := p.Mate(i); at != 0 || e != api.ErrRange {
-				t.Fatalf("Mate(%d) of %s: %d, %v", i, short(s), at, e)
+				t.Fatalf("Mate(%d) of %s: %d, %v", i, samples.Short(s), at, e)
 			}
 			if at, e := p.Round(i); at != 0 || e != api.ErrRange {
-				t.Fatalf("Round(%d) of %s: %d, %v", i, short(s), at, e)
+				t.Fatalf("Round(%d) of %s: %d, %v", i, samples.Short(s), at, e)
 			}
 		}
 		if n > 0 {
 			for _, from := range []int{1, n/2 + 1, n} {
 				if x, e := p.Low(from, from-1); x != 0 || e != api.ErrRange {
-					t.Fatalf("Low(%d, %d) of %s: %d, %v", from, from-1, short(s), x, e)
+					t.Fatalf("Low(%d, %d) of %s: %d, %v", from, from-1, samples.Short(s), x, e)
 				}
 			}
 		}
@@ -421,7 +391,7 @@ func TestP3_3BuiltWhenNeeded(t *testing.T) {
 }
 
 func TestP3_3OfItsOwn(t *testing.T) {
-	v := vector("110100")
+	v := samples.Vec("110100")
 	p, _ := paren.New(v)
 	q, _ := paren.New(v)
 	p.Mate(0)

@@ -8,6 +8,7 @@ import (
 
 	"parquetry/api"
 	"parquetry/perm"
+	"parquetry/samples"
 )
 
 // lists answers all lists of n numbers from -1 to n.
@@ -33,30 +34,6 @@ func isPerm(l []int) bool {
 		}
 	}
 	return true
-}
-
-// perms answers all permutations of 0 to n - 1, as lists.
-func perms(n int) [][]int {
-	if n == 0 {
-		return [][]int{{}}
-	}
-	var all [][]int
-	for _, l := range perms(n - 1) {
-		for at := range n {
-			all = append(all, slices.Insert(slices.Clone(l), at, n-1))
-		}
-	}
-	return all
-}
-
-// of answers the permutation l, that is one.
-func of(t *testing.T, l []int) *perm.Perm {
-	t.Helper()
-	p, e := perm.Of(l)
-	if e != api.OK || p == nil {
-		t.Fatalf("Of(%v): %v", l, e)
-	}
-	return p
 }
 
 // check holds all that p tells of single numbers against the list l.
@@ -102,7 +79,7 @@ func TestP5_1Of(t *testing.T) {
 			t.Fatalf("Of(%v): %v", l, e)
 		}
 	}
-	check(t, of(t, nil), nil)
+	check(t, samples.Perm(t, nil), nil)
 }
 
 func TestP5_1One(t *testing.T) {
@@ -127,8 +104,8 @@ func TestP5_1One(t *testing.T) {
 
 func TestP5_1Inverse(t *testing.T) {
 	for n := range 6 {
-		for _, l := range perms(n) {
-			p := of(t, l)
+		for _, l := range samples.Perms(n) {
+			p := samples.Perm(t, l)
 			back := make([]int, n)
 			for i, to := range l {
 				back[to] = i
@@ -142,9 +119,9 @@ func TestP5_1Inverse(t *testing.T) {
 
 func TestP5_1Then(t *testing.T) {
 	for n := range 5 {
-		for _, a := range perms(n) {
-			for _, b := range perms(n) {
-				p, q := of(t, a), of(t, b)
+		for _, a := range samples.Perms(n) {
+			for _, b := range samples.Perms(n) {
+				p, q := samples.Perm(t, a), samples.Perm(t, b)
 				both, e := perm.Then(p, q)
 				if e != api.OK {
 					t.Fatal(e)
@@ -171,7 +148,7 @@ func TestP5_1Then(t *testing.T) {
 
 func TestP5_1NewMemory(t *testing.T) {
 	l := []int{1, 2, 0, 3}
-	p := of(t, l)
+	p := samples.Perm(t, l)
 	l[0], l[1] = 3, 3
 	check(t, p, []int{1, 2, 0, 3})
 	first, second := p.List(), p.List()
@@ -205,8 +182,8 @@ func orbits(p *perm.Perm) (all [][]int, names []int) {
 
 func TestP5_2Orbits(t *testing.T) {
 	for n := range 7 {
-		for _, l := range perms(n) {
-			p := of(t, l)
+		for _, l := range samples.Perms(n) {
+			p := samples.Perm(t, l)
 			all, names := orbits(p)
 			if !slices.EqualFunc(p.Orbits(), all, slices.Equal[[]int]) {
 				t.Fatalf("Orbits of %v: %v, want %v", l, p.Orbits(), all)
@@ -232,7 +209,7 @@ func TestP5_2Orbits(t *testing.T) {
 }
 
 func TestP5_2Example(t *testing.T) {
-	p := of(t, []int{2, 1, 0})
+	p := samples.Perm(t, []int{2, 1, 0})
 	if !slices.EqualFunc(p.Orbits(), [][]int{{0, 2}, {1}}, slices.Equal[[]int]) {
 		t.Fatal(p.Orbits())
 	}
@@ -247,7 +224,7 @@ func TestP5_2Long(t *testing.T) {
 	for i := range l {
 		l[i] = (i + 2) % n
 	}
-	p := of(t, l)
+	p := samples.Perm(t, l)
 	all := p.Orbits()
 	if len(all) != 2 || len(all[0]) != n/2 || all[1][0] != 1 || all[1][1] != 3 {
 		t.Fatal(len(all))
@@ -261,7 +238,7 @@ func TestP5_2Long(t *testing.T) {
 
 func TestP5_2NewMemory(t *testing.T) {
 	l := []int{1, 0, 2, 4, 3}
-	p := of(t, l)
+	p := samples.Perm(t, l)
 	all := p.Orbits()
 	for i := range all {
 		all[i] = append(all[i], 7)
@@ -283,20 +260,20 @@ func TestP5_2NewMemory(t *testing.T) {
 func TestP5_2Same(t *testing.T) {
 	var all [][]int
 	for n := range 5 {
-		all = append(all, perms(n)...)
+		all = append(all, samples.Perms(n)...)
 	}
 	for _, a := range all {
 		for _, b := range all {
-			if got := perm.Same(of(t, a), of(t, b)); got != slices.Equal(a, b) {
+			if got := perm.Same(samples.Perm(t, a), samples.Perm(t, b)); got != slices.Equal(a, b) {
 				t.Fatalf("Same of %v and %v: %v", a, b, got)
 			}
 		}
 		none := len(a) == 0
-		if perm.Same(of(t, a), nil) != none || perm.Same(nil, of(t, a)) != none {
+		if perm.Same(samples.Perm(t, a), nil) != none || perm.Same(nil, samples.Perm(t, a)) != none {
 			t.Fatalf("Same of %v and nil", a)
 		}
 	}
-	if !perm.Same(nil, nil) || !perm.Same(perm.One(3), of(t, []int{0, 1, 2})) {
+	if !perm.Same(nil, nil) || !perm.Same(perm.One(3), samples.Perm(t, []int{0, 1, 2})) {
 		t.Fatal("Same")
 	}
 }
@@ -321,7 +298,7 @@ func TestP5Nil(t *testing.T) {
 // TestP5Several asks one permutation from several goroutines at a time.
 func TestP5Several(t *testing.T) {
 	l := []int{3, 0, 1, 2, 5, 4}
-	p := of(t, l)
+	p := samples.Perm(t, l)
 	var wait sync.WaitGroup
 	right := make([]bool, 8)
 	for i := range right {

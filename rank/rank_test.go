@@ -10,16 +10,8 @@ import (
 	"parquetry/api"
 	"parquetry/bits"
 	"parquetry/rank"
+	"parquetry/samples"
 )
-
-// vector answers the vector whose Text is s.
-func vector(s string) *bits.Vec {
-	v := bits.New()
-	for _, r := range s {
-		v.Add(int(r - '0'))
-	}
-	return v
-}
 
 // texts answers texts of all lengths about the bounds of words and blocks,
 // with many ones, few, none, or all.
@@ -45,7 +37,7 @@ var wrong = []int{math.MinInt, -1, 2, 3, math.MaxInt}
 
 func TestP2_1Vector(t *testing.T) {
 	for _, s := range texts() {
-		x := rank.New(vector(s))
+		x := rank.New(samples.Vec(s))
 		if x.Len() != len(s) || x.Ones() != strings.Count(s, "1") {
 			t.Fatalf("Len %d, Ones %d of %q", x.Len(), x.Ones(), s)
 		}
@@ -64,7 +56,7 @@ func TestP2_1Vector(t *testing.T) {
 
 func TestP2_1Rank(t *testing.T) {
 	for _, s := range texts() {
-		x := rank.New(vector(s))
+		x := rank.New(samples.Vec(s))
 		ahead := [2]int{}
 		for i := range len(s) + 1 {
 			for bit, want := range ahead {
@@ -93,7 +85,7 @@ func TestP2_1Rank(t *testing.T) {
 
 func TestP2_1Select(t *testing.T) {
 	for _, s := range texts() {
-		x := rank.New(vector(s))
+		x := rank.New(samples.Vec(s))
 		ahead := [2]int{}
 		for i := range s {
 			bit := int(s[i] - '0')
@@ -118,7 +110,7 @@ func TestP2_1Select(t *testing.T) {
 }
 
 func TestP2_1AsAtNew(t *testing.T) {
-	v := vector("0110")
+	v := samples.Vec("0110")
 	x := rank.New(v)
 	if k, e := x.Rank(1, 2); k != 1 || e != api.OK {
 		t.Fatal(k, e)
@@ -182,7 +174,7 @@ func TestP2_1NilIndex(t *testing.T) {
 
 func TestP2_2Size(t *testing.T) {
 	for n, want := range map[int]int{0: 32, 1: 64, 64: 64, 511: 64, 512: 64, 513: 96, 1024: 96, 1025: 128, 5120: 352} {
-		x := rank.New(vector(strings.Repeat("1", n)))
+		x := rank.New(samples.Vec(strings.Repeat("1", n)))
 		if x.Size() != want || x.Built() != 0 {
 			t.Fatalf("Size of %d: %d", n, x.Size())
 		}
@@ -208,7 +200,7 @@ func TestP2_2BuiltWhenNeeded(t *testing.T) {
 		{"Select of none", func(x *rank.Index) (int, api.Errno) { return x.Select(1, 2) }, 0},
 	}
 	for _, c := range calls {
-		x := rank.New(vector("0110"))
+		x := rank.New(samples.Vec("0110"))
 		x.At(0)
 		x.Ones()
 		x.Size()
@@ -234,7 +226,7 @@ func TestP2_2BuiltWhenNeeded(t *testing.T) {
 func TestP2_2Several(t *testing.T) {
 	const workers, times = 8, 100
 	s := strings.Repeat("0110", 1000)
-	x := rank.New(vector(s))
+	x := rank.New(samples.Vec(s))
 	wrongs := [workers]int{}
 	var all sync.WaitGroup
 	for w := range workers {
@@ -267,7 +259,7 @@ func TestP2_2Several(t *testing.T) {
 }
 
 func TestP2_2OfItsOwn(t *testing.T) {
-	v := vector("0110")
+	v := samples.Vec("0110")
 	x, y := rank.New(v), rank.New(v)
 	x.Rank(1, 2)
 	if x.Built() != 1 || x.Asked() != 1 || y.Built() != 0 || y.Asked() != 0 {
@@ -276,7 +268,7 @@ func TestP2_2OfItsOwn(t *testing.T) {
 }
 
 func TestExamples(t *testing.T) {
-	x := rank.New(vector("0110"))
+	x := rank.New(samples.Vec("0110"))
 	if k, e := x.Rank(1, 2); k != 1 || e != api.OK {
 		t.Fatal(k, e)
 	}

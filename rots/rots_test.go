@@ -12,48 +12,25 @@ import (
 	"parquetry/api"
 	"parquetry/dart"
 	"parquetry/rots"
+	"parquetry/samples"
 )
-
-// made answers the map of sigma, root and lone, that are right.
-func made(t *testing.T, sigma []int, root, lone int) *dart.Map {
-	t.Helper()
-	m, e := dart.New(sigma, root, lone)
-	if e != api.OK || m == nil {
-		t.Fatalf("New of %d darts, %d, %d: %v", len(sigma), root, lone, e)
-	}
-	return m
-}
-
-// perms answers all permutations of 0 to n - 1, as lists.
-func perms(n int) [][]int {
-	if n == 0 {
-		return [][]int{{}}
-	}
-	var all [][]int
-	for _, l := range perms(n - 1) {
-		for at := range n {
-			all = append(all, slices.Insert(slices.Clone(l), at, n-1))
-		}
-	}
-	return all
-}
 
 // maps answers maps of all turns of up to four darts, and some of more.
 func maps(t *testing.T) []*dart.Map {
 	t.Helper()
 	var all []*dart.Map
 	for _, lone := range []int{0, 1, 12, api.MaxLone} {
-		all = append(all, made(t, nil, -1, lone))
+		all = append(all, samples.Map(t, nil, -1, lone))
 	}
 	r := rand.New(rand.NewPCG(17, 18))
-	sigmas := append(perms(2), perms(4)...)
+	sigmas := append(samples.Perms(2), samples.Perms(4)...)
 	for _, n := range []int{6, 8, 12, 40, 300} {
 		for range 10 {
 			sigmas = append(sigmas, r.Perm(n))
 		}
 	}
 	for i, sigma := range sigmas {
-		all = append(all, made(t, sigma, i%len(sigma), i%4))
+		all = append(all, samples.Map(t, sigma, i%len(sigma), i%4))
 	}
 	return all
 }
@@ -147,16 +124,16 @@ func TestP7_1AnyOrder(t *testing.T) {
 }
 
 func TestP7_1Right(t *testing.T) {
-	edge, loop := made(t, []int{0, 1}, 0, 0), made(t, []int{1, 0}, 1, 0)
+	edge, loop := samples.Map(t, []int{0, 1}, 0, 0), samples.Map(t, []int{1, 0}, 1, 0)
 	checkMap(t, "1 0 0\n0\n1\n", edge)
 	checkMap(t, "1 0 0\n1\n0\n", edge)
 	checkMap(t, "1 1 0\n0 1\n", loop)
 	checkMap(t, "1 1 0\n1 0\n", loop)
-	checkMap(t, "0 -1 0\n", made(t, nil, -1, 0))
-	checkMap(t, "0 -1 65536\n", made(t, nil, -1, api.MaxLone))
-	checkMap(t, "1 1 65536\n0 1\n", made(t, []int{1, 0}, 1, api.MaxLone))
-	checkMap(t, "2 3 0\n0 1 2 3\n", made(t, []int{1, 2, 3, 0}, 3, 0))
-	checkMap(t, "2 3 0\n3 2 1 0\n", made(t, []int{3, 0, 1, 2}, 3, 0))
+	checkMap(t, "0 -1 0\n", samples.Map(t, nil, -1, 0))
+	checkMap(t, "0 -1 65536\n", samples.Map(t, nil, -1, api.MaxLone))
+	checkMap(t, "1 1 65536\n0 1\n", samples.Map(t, []int{1, 0}, 1, api.MaxLone))
+	checkMap(t, "2 3 0\n0 1 2 3\n", samples.Map(t, []int{1, 2, 3, 0}, 3, 0))
+	checkMap(t, "2 3 0\n3 2 1 0\n", samples.Map(t, []int{3, 0, 1, 2}, 3, 0))
 }
 
 func TestP7_2Text(t *testing.T) {
@@ -237,7 +214,7 @@ func loops(edges, root int) string {
 
 func TestP7_2Large(t *testing.T) {
 	const n = 2 * api.MaxEdges
-	m := made(t, rand.New(rand.NewPCG(21, 22)).Perm(n), n-1, api.MaxLone)
+	m := samples.Map(t, rand.New(rand.NewPCG(21, 22)).Perm(n), n-1, api.MaxLone)
 	p, e := rots.Print(m)
 	if e != api.OK || len(p) > api.MaxText {
 		t.Fatal(e, len(p))
@@ -247,7 +224,7 @@ func TestP7_2Large(t *testing.T) {
 	for d := range alone {
 		alone[d] = d
 	}
-	m = made(t, alone, 0, 0)
+	m = samples.Map(t, alone, 0, 0)
 	p, e = rots.Print(m)
 	if e != api.OK || rots.Lines(p) != n+1 {
 		t.Fatal(e, rots.Lines(p))

@@ -1,78 +1,21 @@
 package shell_test
 
 import (
-	"fmt"
 	"math"
 	"math/rand/v2"
 	"slices"
 	"testing"
 
 	"parquetry/api"
-	"parquetry/canon"
 	"parquetry/dart"
-	"parquetry/dual"
-	"parquetry/euler"
-	"parquetry/perm"
+	"parquetry/samples"
 	"parquetry/shell"
 )
-
-// made answers the map of sigma, root and lone, that are right.
-func made(t *testing.T, sigma []int, root, lone int) *dart.Map {
-	t.Helper()
-	m, e := dart.New(sigma, root, lone)
-	if e != api.OK || m == nil {
-		t.Fatalf("New of %d darts, %d, %d: %v", len(sigma), root, lone, e)
-	}
-	return m
-}
-
-// turned answers the map whose vertices' darts are these, counter-clockwise.
-func turned(t *testing.T, root, lone int, vertices ...[]int) *dart.Map {
-	t.Helper()
-	sigma := make([]int, len(slices.Concat(vertices...)))
-	for _, darts := range vertices {
-		for i, d := range darts {
-			sigma[d] = darts[(i+1)%len(darts)]
-		}
-	}
-	return made(t, sigma, root, lone)
-}
-
-// dartsOf answers the darts from vertex to vertex of a simple map whose faces
-// go along these; that from 0 to 1 is the dart 0.
-func dartsOf(faces [][]int) map[[2]int]int {
-	darts := map[[2]int]int{{0, 1}: 0, {1, 0}: 1}
-	for _, face := range faces {
-		for i, u := range face {
-			v := face[(i+1)%len(face)]
-			if _, ok := darts[[2]int{u, v}]; !ok {
-				n := len(darts)
-				darts[[2]int{u, v}], darts[[2]int{v, u}] = n, n+1
-			}
-		}
-	}
-	return darts
-}
-
-// faced answers the simple map whose faces go along these vertices, each the
-// darts from one to the next; its root goes from the vertex 0 to the vertex 1.
-func faced(t *testing.T, faces ...[]int) *dart.Map {
-	t.Helper()
-	darts := dartsOf(faces)
-	sigma := make([]int, len(darts))
-	for _, face := range faces {
-		for i, u := range face {
-			v, w := face[(i+1)%len(face)], face[(i+2)%len(face)]
-			sigma[darts[[2]int{v, u}]] = darts[[2]int{v, w}]
-		}
-	}
-	return made(t, sigma, 0, 0)
-}
 
 // called answers what the map m of these faces calls some of their vertices.
 func called(m *dart.Map, faces [][]int, l ...int) []int {
 	names := map[int]int{}
-	for ends, d := range dartsOf(faces) {
+	for ends, d := range samples.Darts(faces) {
 		names[ends[0]] = m.Vertex(d)
 	}
 	var all []int
@@ -82,114 +25,6 @@ func called(m *dart.Map, faces [][]int, l ...int) []int {
 	return all
 }
 
-// rooted answers m with the root d, that there is.
-func rooted(t *testing.T, m *dart.Map, d int) *dart.Map {
-	t.Helper()
-	m, e := m.Rooted(d)
-	if e != api.OK {
-		t.Fatalf("Rooted of %d: %v", d, e)
-	}
-	return m
-}
-
-// stacked answers triangles in which n vertices were put, one after the
-// other, each within a face that pick tells of so many.
-func stacked(n int, pick func(faces int) int) [][]int {
-	faces := [][]int{{0, 1, 2}, {2, 1, 0}}
-	for v := 3; v < n; v++ {
-		i := pick(len(faces))
-		a, b, c := faces[i][0], faces[i][1], faces[i][2]
-		faces[i] = []int{a, b, v}
-		faces = append(faces, []int{b, c, v}, []int{c, a, v})
-	}
-	return faces
-}
-
-// around answers the darts of each vertex, by the least ones.
-func around(m *dart.Map) [][]int {
-	var all [][]int
-	for d := range m.Darts() {
-		if l := m.Around(d); slices.Min(l) == d {
-			all = append(all, l)
-		}
-	}
-	return all
-}
-
-// flipped answers m with the edge e between the other ends of the triangles
-// beside it.
-func flipped(t *testing.T, m *dart.Map, e int) *dart.Map {
-	t.Helper()
-	moves := map[int]int{}
-	for _, d := range []int{2 * e, 2*e + 1} {
-		moves[m.Phi(m.Phi(d))] = d
-	}
-	var vertices [][]int
-	for _, darts := range around(m) {
-		var l []int
-		for _, d := range darts {
-			if d/2 == e {
-				continue
-			}
-			if put, ok := moves[d]; ok {
-				l = append(l, put)
-			}
-			l = append(l, d)
-		}
-		vertices = append(vertices, l)
-	}
-	return turned(t, m.Root(), 0, vertices...)
-}
-
-// triangulations answers all rooted ones of n vertices, by their canonical
-// names: those that come of one another by flips.
-func triangulations(t *testing.T, n int) []*dart.Map {
-	t.Helper()
-	var all []*dart.Map
-	met := map[string]int{}
-	add := func(m *dart.Map) {
-		named, _, e := canon.Canon(m)
-		if e != api.OK {
-			t.Fatal(e)
-		}
-		key := fmt.Sprint(named.List())
-		if met[key]++; met[key] == 1 {
-			all = append(all, named)
-		}
-	}
-	add(faced(t, stacked(n, func(int) int { return 0 })...))
-	for i := 0; i < len(all); i++ {
-		for d := range all[i].Darts() {
-			add(rooted(t, all[i], d))
-		}
-		for e := range all[i].Edges() {
-			if m := flipped(t, all[i], e); euler.Triangulation(m) {
-				add(m)
-			}
-		}
-	}
-	return all
-}
-
-// renamed answers m with other names of its darts, and the same root.
-func renamed(t *testing.T, r *rand.Rand, m *dart.Map) *dart.Map {
-	t.Helper()
-	l := make([]int, m.Darts())
-	for e, to := range r.Perm(m.Edges()) {
-		turn := r.IntN(2)
-		l[2*e], l[2*e+1] = 2*to+turn, 2*to+1-turn
-	}
-	p, e := perm.Of(l)
-	if e != api.OK {
-		t.Fatal(e)
-	}
-	m, e = dual.Relabel(m, p)
-	if e != api.OK {
-		t.Fatal(e)
-	}
-	return m
-}
-
 // small answers all triangulations of up to n vertices, each also by other
 // names.
 func small(t *testing.T, n int) []*dart.Map {
@@ -197,23 +32,11 @@ func small(t *testing.T, n int) []*dart.Map {
 	r := rand.New(rand.NewPCG(81, 82))
 	var all []*dart.Map
 	for k := 3; k <= n; k++ {
-		for _, m := range triangulations(t, k) {
-			all = append(all, m, renamed(t, r, m))
+		for _, m := range samples.Triangulations(t, k) {
+			all = append(all, m, samples.Renamed(t, r.IntN, m))
 		}
 	}
 	return all
-}
-
-// random answers some triangulations of n vertices, far from stacked ones.
-func random(t *testing.T, r *rand.Rand, n int) *dart.Map {
-	t.Helper()
-	m := faced(t, stacked(n, r.IntN)...)
-	for range n {
-		if other := flipped(t, m, r.IntN(m.Edges())); euler.Triangulation(other) {
-			m = other
-		}
-	}
-	return rooted(t, renamed(t, r, m), r.IntN(m.Darts()))
 }
 
 // next answers the vertices around v, by Sigma, from the vertex from on.
@@ -328,20 +151,6 @@ func inOneRun(ring []int, n int, ahead func(u int) bool) bool {
 	return false
 }
 
-// perms answers all permutations of 0 to n - 1, as lists.
-func perms(n int) [][]int {
-	if n == 0 {
-		return [][]int{{}}
-	}
-	var all [][]int
-	for _, l := range perms(n - 1) {
-		for at := range n {
-			all = append(all, slices.Insert(slices.Clone(l), at, n-1))
-		}
-	}
-	return all
-}
-
 // check holds Corners, Order and Right of the triangulation m against their
 // models.
 func check(t *testing.T, m *dart.Map) {
@@ -364,7 +173,7 @@ func check(t *testing.T, m *dart.Map) {
 // how many rooted triangulations there are.
 func TestTriangulations(t *testing.T) {
 	for i, want := range []int{1, 1, 3, 13, 68} {
-		if n := len(triangulations(t, i+3)); n != want {
+		if n := len(samples.Triangulations(t, i+3)); n != want {
 			t.Errorf("%d triangulations of %d vertices, want %d", n, i+3, want)
 		}
 	}
@@ -380,7 +189,7 @@ func TestP14_Random(t *testing.T) {
 	r := rand.New(rand.NewPCG(83, 84))
 	for _, n := range []int{9, 12, 20, 40} {
 		for range 10 {
-			check(t, random(t, r, n))
+			check(t, samples.Triangulation(t, r.IntN, n))
 		}
 	}
 }
@@ -389,7 +198,7 @@ func TestP14_Random(t *testing.T) {
 func TestP14_3All(t *testing.T) {
 	for _, m := range small(t, 6) {
 		rights := 0
-		for _, l := range perms(m.Vertices()) {
+		for _, l := range samples.Perms(m.Vertices()) {
 			want := rightModel(m, l)
 			if shell.Right(m, l) != want {
 				t.Fatalf("Right of %v, %d, %v: %v", m.List(), m.Root(), l, !want)
@@ -411,7 +220,7 @@ func TestP14_3Others(t *testing.T) {
 	others := 0
 	for _, n := range []int{7, 10, 15, 25} {
 		for range 10 {
-			m := random(t, r, n)
+			m := samples.Triangulation(t, r.IntN, n)
 			l := peeled(m, func(free []int) int { return free[r.IntN(len(free))] })
 			if !shell.Right(m, l) {
 				t.Fatalf("of %v, %d: %v isn't right", m.List(), m.Root(), l)
@@ -434,17 +243,6 @@ func TestP14_3Others(t *testing.T) {
 	}
 }
 
-// octahedron answers the faces of the triangulation whose vertices have four
-// neighbours: 0 to 3 are a round, 4 is on its right, 5 on its left.
-func octahedron() [][]int {
-	var faces [][]int
-	for i := range 4 {
-		j := (i + 1) % 4
-		faces = append(faces, []int{i, j, 4}, []int{j, i, 5})
-	}
-	return faces
-}
-
 // vertices answers what a map calls the vertices at which these darts are.
 func vertices(m *dart.Map, darts ...int) []int {
 	var l []int
@@ -456,13 +254,13 @@ func vertices(m *dart.Map, darts ...int) []int {
 
 // TestP14_Known names corners and orders that were gone through by hand.
 func TestP14_Known(t *testing.T) {
-	triangle := turned(t, 0, 0, []int{0, 5}, []int{1, 2}, []int{3, 4})
+	triangle := samples.Turned(t, 0, 0, []int{0, 5}, []int{1, 2}, []int{3, 4})
 	// Within the triangle of 0, 2 and 4 the edges from 6, 8 and 10 on come
 	// together.
-	four := turned(t, 0, 0, []int{0, 6, 5}, []int{2, 8, 1}, []int{4, 10, 3}, []int{7, 9, 11})
+	four := samples.Turned(t, 0, 0, []int{0, 6, 5}, []int{2, 8, 1}, []int{4, 10, 3}, []int{7, 9, 11})
 	// The same, with the edges 6 to 8 in the one of its triangles that 0 is of.
-	five := turned(t, 0, 0, []int{0, 12, 6, 5}, []int{2, 8, 14, 1}, []int{4, 10, 3}, []int{7, 16, 9, 11}, []int{13, 15, 17})
-	eight := faced(t, octahedron()...)
+	five := samples.Turned(t, 0, 0, []int{0, 12, 6, 5}, []int{2, 8, 14, 1}, []int{4, 10, 3}, []int{7, 16, 9, 11}, []int{13, 15, 17})
+	eight := samples.Faced(t, samples.Wheel(6)...)
 	for _, x := range []struct {
 		name    string
 		m       *dart.Map
@@ -470,13 +268,13 @@ func TestP14_Known(t *testing.T) {
 		order   []int
 	}{
 		{"a triangle", triangle, []int{0, 1, 2}, []int{0, 1, 2}},
-		{"a triangle, from outside", rooted(t, triangle, 3), []int{2, 1, 0}, []int{2, 1, 0}},
+		{"a triangle, from outside", samples.Rooted(t, triangle, 3), []int{2, 1, 0}, []int{2, 1, 0}},
 		{"a tetrahedron", four, vertices(four, 0, 1, 4), vertices(four, 0, 1, 7, 4)},
-		{"a tetrahedron, from within", rooted(t, four, 7), vertices(four, 7, 6, 4), vertices(four, 7, 6, 2, 4)},
+		{"a tetrahedron, from within", samples.Rooted(t, four, 7), vertices(four, 7, 6, 4), vertices(four, 7, 6, 2, 4)},
 		{"five vertices", five, vertices(five, 0, 1, 4), vertices(five, 0, 1, 13, 7, 4)},
 		// Behind 4 two may go, 3 and 2, in this order on the border; then 5
 		// may not, for its edge with 1.
-		{"an octahedron", eight, called(eight, octahedron(), 0, 1, 4), called(eight, octahedron(), 0, 1, 5, 2, 3, 4)},
+		{"an octahedron", eight, called(eight, samples.Wheel(6), 0, 1, 4), called(eight, samples.Wheel(6), 0, 1, 5, 2, 3, 4)},
 	} {
 		if got, e := shell.Corners(x.m); e != api.OK || !slices.Equal(got, x.corners) {
 			t.Errorf("%s: Corners %v, %v, want %v", x.name, got, e, x.corners)
@@ -487,32 +285,8 @@ func TestP14_Known(t *testing.T) {
 	}
 }
 
-// wrong are maps that are no triangulations.
-func wrong(t *testing.T) map[string]*dart.Map {
-	var seven [][]int
-	for i := range 7 {
-		seven = append(seven, []int{i, (i + 1) % 7, (i + 3) % 7}, []int{i, (i + 3) % 7, (i + 2) % 7})
-	}
-	return map[string]*dart.Map{
-		"nothing":                        made(t, nil, -1, 0),
-		"a lone vertex":                  made(t, nil, -1, 1),
-		"three lone vertices":            made(t, nil, -1, 3),
-		"an edge":                        turned(t, 0, 0, []int{0}, []int{1}),
-		"a loop":                         turned(t, 0, 0, []int{0, 1}),
-		"a path":                         turned(t, 0, 0, []int{0}, []int{1, 2}, []int{3}),
-		"a square":                       faced(t, []int{0, 1, 2, 3}, []int{3, 2, 1, 0}),
-		"a square with a chord":          faced(t, []int{0, 1, 2}, []int{0, 2, 3}, []int{3, 2, 1, 0}),
-		"a triangle and a lone vertex":   turned(t, 0, 1, []int{0, 5}, []int{1, 2}, []int{3, 4}),
-		"two triangles":                  turned(t, 0, 0, []int{0, 5}, []int{1, 2}, []int{3, 4}, []int{6, 11}, []int{7, 8}, []int{9, 10}),
-		"triangles, one edge doubled":    turned(t, 0, 0, []int{0, 4, 2, 8}, []int{1, 10, 3, 6}, []int{5, 7}, []int{9, 11}),
-		"triangles with a loop between":  turned(t, 0, 0, []int{0, 2, 1, 4}, []int{3}, []int{5}),
-		"triangles on a torus":           faced(t, seven...),
-		"triangles of a torus's one end": turned(t, 0, 0, []int{0, 2, 4, 1, 3, 5}),
-	}
-}
-
 func TestP14_Wrong(t *testing.T) {
-	for name, m := range wrong(t) {
+	for name, m := range samples.NoTriangulations(t) {
 		if l, e := shell.Corners(m); len(l) != 0 || e != api.ErrDomain {
 			t.Errorf("%s: Corners %v, %v", name, l, e)
 		}
@@ -538,7 +312,7 @@ func TestP14_Wrong(t *testing.T) {
 
 // TestP14_3Lists asks for lists that are not each vertex once.
 func TestP14_3Lists(t *testing.T) {
-	for _, m := range []*dart.Map{faced(t, stacked(3, nil)...), faced(t, octahedron()...)} {
+	for _, m := range []*dart.Map{samples.Triangle(t), samples.Faced(t, samples.Wheel(6)...)} {
 		right, e := shell.Order(m)
 		if e != api.OK || !shell.Right(m, right) {
 			t.Fatal(right, e)
@@ -582,17 +356,17 @@ func TestP14_3Broken(t *testing.T) {
 		l     []int
 		want  bool
 	}{
-		{"right", octahedron(), []int{0, 1, 5, 3, 2, 4}, true},
-		{"right, the other way around", octahedron(), []int{0, 1, 5, 2, 3, 4}, true},
-		{"the first two turned", octahedron(), []int{1, 0, 5, 3, 2, 4}, false},
-		{"the last is not the third corner", octahedron(), []int{0, 1, 5, 3, 4, 2}, false},
-		{"the second is another", octahedron(), []int{0, 5, 1, 3, 2, 4}, false},
-		{"one has but one ahead of it", octahedron(), []int{0, 1, 2, 5, 3, 4}, false},
+		{"right", samples.Wheel(6), []int{0, 1, 5, 3, 2, 4}, true},
+		{"right, the other way around", samples.Wheel(6), []int{0, 1, 5, 2, 3, 4}, true},
+		{"the first two turned", samples.Wheel(6), []int{1, 0, 5, 3, 2, 4}, false},
+		{"the last is not the third corner", samples.Wheel(6), []int{0, 1, 5, 3, 4, 2}, false},
+		{"the second is another", samples.Wheel(6), []int{0, 5, 1, 3, 2, 4}, false},
+		{"one has but one ahead of it", samples.Wheel(6), []int{0, 1, 2, 5, 3, 4}, false},
 		{"one has none ahead of it", nested(), []int{0, 1, 6, 2, 3, 4, 5, 7}, false},
 		{"right, with a round", nested(), []int{0, 1, 2, 3, 4, 5, 6, 7}, true},
 		{"one has those ahead of it in two runs, and one has none behind it", nested(), []int{0, 1, 2, 3, 4, 6, 5, 7}, false},
 	} {
-		m := faced(t, x.faces...)
+		m := samples.Faced(t, x.faces...)
 		l := called(m, x.faces, x.l...)
 		if shell.Right(m, l) != x.want || rightModel(m, l) != x.want {
 			t.Errorf("%s: %v: %v, by the model %v", x.name, x.l, shell.Right(m, l), rightModel(m, l))
@@ -601,7 +375,7 @@ func TestP14_3Broken(t *testing.T) {
 }
 
 func TestP14_NewMemory(t *testing.T) {
-	m := faced(t, octahedron()...)
+	m := samples.Faced(t, samples.Wheel(6)...)
 	want := peeled(m, first)
 	for range 2 {
 		corners, _ := shell.Corners(m)
@@ -623,18 +397,13 @@ func TestP14_NewMemory(t *testing.T) {
 func TestP14_Large(t *testing.T) {
 	n := (api.MaxEdges + 6) / 3
 	r := rand.New(rand.NewPCG(87, 88))
-	var wheel [][]int
-	for i := range n - 2 {
-		j := (i + 1) % (n - 2)
-		wheel = append(wheel, []int{i, j, n - 2}, []int{j, i, n - 1})
-	}
 	for i, faces := range [][][]int{
-		wheel, stacked(n, r.IntN),
-		stacked(n, func(int) int { return 0 }), stacked(n, func(k int) int { return k - 1 }), stacked(n, func(k int) int { return k - 2 }),
+		samples.Wheel(n), samples.Stacked(n, r.IntN),
+		samples.Stacked(n, func(int) int { return 0 }), samples.Stacked(n, func(k int) int { return k - 1 }), samples.Stacked(n, func(k int) int { return k - 2 }),
 	} {
-		m := faced(t, faces...)
+		m := samples.Faced(t, faces...)
 		for _, d := range []int{0, 1, 2, m.Darts() - 1, m.Darts() / 2} {
-			m := rooted(t, m, d)
+			m := samples.Rooted(t, m, d)
 			l, e := shell.Order(m)
 			if e != api.OK || !shell.Right(m, l) {
 				t.Fatal(i, d, len(l), e)
@@ -649,9 +418,9 @@ func TestP14_Large(t *testing.T) {
 }
 
 func TestExamples(t *testing.T) {
-	m := turned(t, 0, 0, []int{0, 5}, []int{1, 2}, []int{3, 4})
+	m := samples.Turned(t, 0, 0, []int{0, 5}, []int{1, 2}, []int{3, 4})
 	for d := range m.Darts() {
-		m := rooted(t, m, d)
+		m := samples.Rooted(t, m, d)
 		order, e := shell.Order(m)
 		if corners, fault := shell.Corners(m); e != api.OK || fault != api.OK || !slices.Equal(order, corners) || order[0] != m.Vertex(d) || order[1] != m.Vertex(m.Mate(d)) {
 			t.Fatal(corners, order)

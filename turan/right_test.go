@@ -12,6 +12,7 @@ import (
 	"parquetry/dart"
 	"parquetry/euler"
 	"parquetry/mixed"
+	"parquetry/samples"
 	"parquetry/turan"
 	"parquetry/walk"
 )
@@ -95,7 +96,7 @@ func modelVertices(s string) [][]int {
 // modelCheck is why a text is no right word, by taking out pairs, and by when
 // each vertex was met.
 func modelCheck(s string) api.Errno {
-	if !isBalanced(s, "()") || !isBalanced(s, "[]") {
+	if !samples.IsBalanced(s, "()") || !samples.IsBalanced(s, "[]") {
 		return api.ErrBalance
 	}
 	met := []int{-1}
@@ -118,39 +119,11 @@ func modelCheck(s string) api.Errno {
 	return api.OK
 }
 
-// isBalanced tells whether the letters of one pair's signs are balanced alone.
-func isBalanced(s, pair string) bool {
-	alone := strings.Map(func(sign rune) rune {
-		if strings.ContainsRune(pair, sign) {
-			return sign
-		}
-		return -1
-	}, s)
-	for strings.Contains(alone, pair) {
-		alone = strings.ReplaceAll(alone, pair, "")
-	}
-	return alone == ""
-}
-
-// allTexts answers all texts of n letters.
-func allTexts(n int) []string {
-	if n == 0 {
-		return []string{""}
-	}
-	var all []string
-	for _, s := range allTexts(n - 1) {
-		for _, sign := range "()[]" {
-			all = append(all, s+string(sign))
-		}
-	}
-	return all
-}
-
 // checkWord holds all that is told of a text's word against the models; it
 // answers whether that is right.
 func checkWord(t *testing.T, s string) bool {
 	t.Helper()
-	w, want := parsed(t, s), modelCheck(s)
+	w, want := samples.Word(t, s), modelCheck(s)
 	m, e := turan.Decode(w)
 	l, f := turan.Names(w)
 	if g := turan.Check(w); e != want || f != want || g != want {
@@ -180,7 +153,7 @@ func checkMap(t *testing.T, s string, m *dart.Map, names []int) {
 	if s == "" {
 		root, lone = -1, 1
 	}
-	sigma := sigmaOf(modelVertices(s))
+	sigma := samples.Sigma(modelVertices(s)...)
 	if m.Root() != root || m.Lone() != lone || !slices.Equal(m.List(), sigma) {
 		t.Fatalf("Decode of %s: %v, %d, %d, want %v", s, m.List(), m.Root(), m.Lone(), sigma)
 	}
@@ -200,7 +173,7 @@ func checkMap(t *testing.T, s string, m *dart.Map, names []int) {
 
 func TestP12_2AllTexts(t *testing.T) {
 	for n := range 9 {
-		for _, s := range allTexts(n) {
+		for _, s := range samples.Texts("()[]", n) {
 			checkWord(t, s)
 		}
 	}
@@ -265,8 +238,8 @@ func TestP12_2Counts(t *testing.T) {
 func TestP12_2JustWords(t *testing.T) {
 	for edges := 1; edges <= 4; edges++ {
 		written := map[string]int{}
-		for _, sigma := range perms(2 * edges) {
-			w, e := turan.Encode(made(t, sigma, 0, 0))
+		for _, sigma := range samples.Perms(2 * edges) {
+			w, e := turan.Encode(samples.Map(t, sigma, 0, 0))
 			if e == api.OK {
 				written[w.Text()]++
 			}
@@ -275,8 +248,8 @@ func TestP12_2JustWords(t *testing.T) {
 			t.Errorf("of %d edges: %d words", edges, len(written))
 		}
 		allBalanced(edges, func(s string) {
-			if (turan.Check(parsed(t, s)) == api.OK) != (written[s] > 0) {
-				t.Fatalf("Check of %s: %v, but of %d maps", s, turan.Check(parsed(t, s)), written[s])
+			if (turan.Check(samples.Word(t, s)) == api.OK) != (written[s] > 0) {
+				t.Fatalf("Check of %s: %v, but of %d maps", s, turan.Check(samples.Word(t, s)), written[s])
 			}
 		})
 	}
@@ -298,7 +271,7 @@ func checkCanon(t *testing.T, m *dart.Map) {
 
 func TestP12_2Canon(t *testing.T) {
 	r := rand.New(rand.NewPCG(85, 86))
-	checkCanon(t, made(t, nil, -1, 1))
+	checkCanon(t, samples.Map(t, nil, -1, 1))
 	for _, edges := range []int{1, 2, 3, 4, 5, 9, 40, 300} {
 		for range 40 {
 			m := anyPlanar(t, r, edges)
@@ -366,14 +339,14 @@ func TestP12_2Errors(t *testing.T) {
 		{many("[", 700) + many("(", 700) + many("]", 700) + many(")", 700), api.ErrCanon},
 		{many("[", 700) + many("(", 700) + many("]", 700) + many(")", 701), api.ErrBalance},
 	} {
-		w := parsed(t, x.s)
+		w := samples.Word(t, x.s)
 		m, e := turan.Decode(w)
 		l, f := turan.Names(w)
 		if g := turan.Check(w); e != x.want || f != x.want || g != x.want {
-			t.Errorf("of %s: Decode %v, Names %v, Check %v, want %v", short(x.s), e, f, g, x.want)
+			t.Errorf("of %s: Decode %v, Names %v, Check %v, want %v", samples.Short(x.s), e, f, g, x.want)
 		}
 		if (m != nil) != (e == api.OK) || e != api.OK && len(l) != 0 {
-			t.Errorf("of %s: %v, but %v, %v", short(x.s), e, m, l)
+			t.Errorf("of %s: %v, but %v, %v", samples.Short(x.s), e, m, l)
 		}
 	}
 }
@@ -381,7 +354,7 @@ func TestP12_2Errors(t *testing.T) {
 // TestP12_2TooLarge asks for what is right, but of more edges than a map has.
 func TestP12_2TooLarge(t *testing.T) {
 	for _, pair := range []string{"()", "[]"} {
-		w := parsed(t, strings.Repeat(pair, api.MaxEdges+1))
+		w := samples.Word(t, strings.Repeat(pair, api.MaxEdges+1))
 		if e := turan.Check(w); e != api.OK {
 			t.Errorf("Check of too many %s: %v", pair, e)
 		}
@@ -403,7 +376,7 @@ func TestP12_2Empty(t *testing.T) {
 		if e := turan.Check(w); e != api.OK {
 			t.Error(e)
 		}
-		if m, e := turan.Decode(w); e != api.OK || !dart.Same(m, made(t, nil, -1, 1)) {
+		if m, e := turan.Decode(w); e != api.OK || !dart.Same(m, samples.Map(t, nil, -1, 1)) {
 			t.Error(m, e)
 		}
 		if l, e := turan.Names(w); e != api.OK || len(l) != 0 {
@@ -413,7 +386,7 @@ func TestP12_2Empty(t *testing.T) {
 }
 
 func TestP12_2NewMemory(t *testing.T) {
-	w := parsed(t, "(([))]")
+	w := samples.Word(t, "(([))]")
 	m, e := turan.Decode(w)
 	if e != api.OK {
 		t.Fatal(e)

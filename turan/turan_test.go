@@ -11,45 +11,9 @@ import (
 	"parquetry/dual"
 	"parquetry/euler"
 	"parquetry/mixed"
+	"parquetry/samples"
 	"parquetry/turan"
 )
-
-// made answers the map of sigma, root and lone, that are right.
-func made(t *testing.T, sigma []int, root, lone int) *dart.Map {
-	t.Helper()
-	m, e := dart.New(sigma, root, lone)
-	if e != api.OK || m == nil {
-		t.Fatalf("New of %d darts, %d, %d: %v", len(sigma), root, lone, e)
-	}
-	return m
-}
-
-// turned answers the map whose vertices' darts are these, counter-clockwise.
-func turned(t *testing.T, root, lone int, vertices ...[]int) *dart.Map {
-	t.Helper()
-	return made(t, sigmaOf(vertices), root, lone)
-}
-
-// sigmaOf answers Sigma of these vertices.
-func sigmaOf(vertices [][]int) []int {
-	sigma := make([]int, len(slices.Concat(vertices...)))
-	for _, darts := range vertices {
-		for i, d := range darts {
-			sigma[d] = darts[(i+1)%len(darts)]
-		}
-	}
-	return sigma
-}
-
-// parsed answers the word of s.
-func parsed(t *testing.T, s string) *mixed.Word {
-	t.Helper()
-	w, _, e := mixed.Parse(s)
-	if e != api.OK {
-		t.Fatalf("Parse of %s: %v", short(s), e)
-	}
-	return w
-}
 
 // encoded answers the word of m, that has one, as text.
 func encoded(t *testing.T, m *dart.Map) string {
@@ -59,28 +23,6 @@ func encoded(t *testing.T, m *dart.Map) string {
 		t.Fatalf("Encode of %d darts, %d: %v", m.Darts(), m.Root(), e)
 	}
 	return w.Text()
-}
-
-// short is s, or its beginning.
-func short(s string) string {
-	if len(s) > 40 {
-		return s[:40] + ".."
-	}
-	return s
-}
-
-// perms answers all permutations of 0 to n - 1, as lists.
-func perms(n int) [][]int {
-	if n == 0 {
-		return [][]int{{}}
-	}
-	var all [][]int
-	for _, l := range perms(n - 1) {
-		for at := range n {
-			all = append(all, slices.Insert(slices.Clone(l), at, n-1))
-		}
-	}
-	return all
 }
 
 // orbits is how many orbits of n darts there are by these steps.
@@ -158,7 +100,7 @@ func modelWord(sigma []int, root int) string {
 // checkEncode holds Encode and Bits of a map against the model.
 func checkEncode(t *testing.T, sigma []int, root, lone int) {
 	t.Helper()
-	m := made(t, sigma, root, lone)
+	m := samples.Map(t, sigma, root, lone)
 	w, e := turan.Encode(m)
 	n, f := turan.Bits(m)
 	want := modelError(sigma, lone)
@@ -184,7 +126,7 @@ func checkEncode(t *testing.T, sigma []int, root, lone int) {
 
 func TestP12_1AllSmall(t *testing.T) {
 	for n := 2; n <= 6; n += 2 {
-		for _, sigma := range perms(n) {
+		for _, sigma := range samples.Perms(n) {
 			for root := range n {
 				checkEncode(t, sigma, root, 0)
 			}
@@ -214,27 +156,27 @@ func TestP12_1Random(t *testing.T) {
 // TestP12_1Known asks for words that were gone through by hand.
 func TestP12_1Known(t *testing.T) {
 	square := func(root int) *dart.Map {
-		return turned(t, root, 0, []int{0, 8, 7}, []int{1, 2}, []int{3, 4, 9}, []int{5, 6})
+		return samples.Turned(t, root, 0, []int{0, 8, 7}, []int{1, 2}, []int{3, 4, 9}, []int{5, 6})
 	}
 	for _, x := range []struct {
 		name string
 		m    *dart.Map
 		want string
 	}{
-		{"a lone vertex", made(t, nil, -1, 1), ""},
-		{"an edge", turned(t, 0, 0, []int{0}, []int{1}), "()"},
-		{"an edge, from its odd dart", turned(t, 1, 0, []int{0}, []int{1}), "()"},
-		{"a loop", turned(t, 1, 0, []int{0, 1}), "[]"},
-		{"two loops", turned(t, 0, 0, []int{0, 1, 2, 3}), "[][]"},
-		{"two loops, the one within the other", turned(t, 0, 0, []int{0, 2, 3, 1}), "[[]]"},
-		{"two edges side by side", turned(t, 0, 0, []int{0, 2}, []int{3, 1}), "([)]"},
-		{"a path from its end", turned(t, 0, 0, []int{0}, []int{1, 2}, []int{3}), "(())"},
-		{"a path from its middle", turned(t, 2, 0, []int{0}, []int{1, 2}, []int{3}), "()()"},
-		{"a triangle", turned(t, 0, 0, []int{0, 5}, []int{1, 2}, []int{3, 4}), "(([))]"},
+		{"a lone vertex", samples.Map(t, nil, -1, 1), ""},
+		{"an edge", samples.Turned(t, 0, 0, []int{0}, []int{1}), "()"},
+		{"an edge, from its odd dart", samples.Turned(t, 1, 0, []int{0}, []int{1}), "()"},
+		{"a loop", samples.Turned(t, 1, 0, []int{0, 1}), "[]"},
+		{"two loops", samples.Turned(t, 0, 0, []int{0, 1, 2, 3}), "[][]"},
+		{"two loops, the one within the other", samples.Turned(t, 0, 0, []int{0, 2, 3, 1}), "[[]]"},
+		{"two edges side by side", samples.Turned(t, 0, 0, []int{0, 2}, []int{3, 1}), "([)]"},
+		{"a path from its end", samples.Turned(t, 0, 0, []int{0}, []int{1, 2}, []int{3}), "(())"},
+		{"a path from its middle", samples.Turned(t, 2, 0, []int{0}, []int{1, 2}, []int{3}), "()()"},
+		{"a triangle", samples.Turned(t, 0, 0, []int{0, 5}, []int{1, 2}, []int{3, 4}), "(([))]"},
 		{"a square with a chord, from its side", square(7), "(([([)))]]"},
 		{"a square with a chord, from the chord", square(8), "(([)([))]]"},
-		{"a loop at an edge's end", turned(t, 0, 0, []int{0}, []int{1, 2, 3}), "([])"},
-		{"an edge in a loop", turned(t, 1, 0, []int{1, 2, 0}, []int{3}), "[()]"},
+		{"a loop at an edge's end", samples.Turned(t, 0, 0, []int{0}, []int{1, 2, 3}), "([])"},
+		{"an edge in a loop", samples.Turned(t, 1, 0, []int{1, 2, 0}, []int{3}), "[()]"},
 	} {
 		if got := encoded(t, x.m); got != x.want {
 			t.Errorf("Encode of %s: %s, want %s", x.name, got, x.want)
@@ -253,16 +195,16 @@ func TestP12_1Errors(t *testing.T) {
 		want api.Errno
 	}{
 		{"nil", nil, api.ErrNone},
-		{"nothing", made(t, nil, -1, 0), api.ErrDomain},
-		{"two lone vertices", made(t, nil, -1, 2), api.ErrDomain},
-		{"as many lone vertices as can be", made(t, nil, -1, api.MaxLone), api.ErrDomain},
-		{"an edge and a lone vertex", turned(t, 0, 1, []int{0}, []int{1}), api.ErrDomain},
-		{"two edges apart", turned(t, 0, 0, []int{0}, []int{1}, []int{2}, []int{3}), api.ErrDomain},
-		{"a loop and a loop, apart", turned(t, 2, 0, []int{0, 1}, []int{2, 3}), api.ErrDomain},
-		{"two crossed loops", turned(t, 0, 0, torus), api.ErrPlanar},
-		{"two crossed loops and a lone vertex", turned(t, 0, 1, torus), api.ErrDomain},
-		{"two crossed loops and an edge", turned(t, 0, 0, torus, []int{4}, []int{5}), api.ErrDomain},
-		{"two crossed loops at an edge's end", turned(t, 4, 0, append(torus, 5), []int{4}), api.ErrPlanar},
+		{"nothing", samples.Map(t, nil, -1, 0), api.ErrDomain},
+		{"two lone vertices", samples.Map(t, nil, -1, 2), api.ErrDomain},
+		{"as many lone vertices as can be", samples.Map(t, nil, -1, api.MaxLone), api.ErrDomain},
+		{"an edge and a lone vertex", samples.Turned(t, 0, 1, []int{0}, []int{1}), api.ErrDomain},
+		{"two edges apart", samples.Turned(t, 0, 0, []int{0}, []int{1}, []int{2}, []int{3}), api.ErrDomain},
+		{"a loop and a loop, apart", samples.Turned(t, 2, 0, []int{0, 1}, []int{2, 3}), api.ErrDomain},
+		{"two crossed loops", samples.Turned(t, 0, 0, torus), api.ErrPlanar},
+		{"two crossed loops and a lone vertex", samples.Turned(t, 0, 1, torus), api.ErrDomain},
+		{"two crossed loops and an edge", samples.Turned(t, 0, 0, torus, []int{4}, []int{5}), api.ErrDomain},
+		{"two crossed loops at an edge's end", samples.Turned(t, 4, 0, append(torus, 5), []int{4}), api.ErrPlanar},
 	} {
 		if w, e := turan.Encode(x.m); w != nil || e != x.want {
 			t.Errorf("Encode of %s: %v, want %v", x.name, e, x.want)
@@ -274,7 +216,7 @@ func TestP12_1Errors(t *testing.T) {
 }
 
 func TestP12_1NewMemory(t *testing.T) {
-	m := turned(t, 0, 0, []int{0, 5}, []int{1, 2}, []int{3, 4})
+	m := samples.Turned(t, 0, 0, []int{0, 5}, []int{1, 2}, []int{3, 4})
 	for range 2 {
 		w, e := turan.Encode(m)
 		if e != api.OK || w.Text() != "(([))]" {
@@ -298,13 +240,13 @@ func anyRenaming(r *rand.Rand, edges int) []int {
 // names and from some root.
 func anyPlanar(t *testing.T, r *rand.Rand, edges int) *dart.Map {
 	t.Helper()
-	sigma := sigmaOf(modelVertices(anyRight(r, edges, 1+r.IntN(9), 1+r.IntN(9))))
+	sigma := samples.Sigma(modelVertices(anyRight(r, edges, 1+r.IntN(9), 1+r.IntN(9)))...)
 	names := anyRenaming(r, edges)
 	named := make([]int, len(sigma))
 	for d, next := range sigma {
 		named[names[d]] = names[next]
 	}
-	m := made(t, named, r.IntN(2*edges), 0)
+	m := samples.Map(t, named, r.IntN(2*edges), 0)
 	if !euler.Connected(m) || !euler.Planar(m) {
 		t.Fatalf("%v isn't a planar map of one part", named)
 	}
@@ -337,13 +279,13 @@ func large(r *rand.Rand) map[string]string {
 func TestP12_Large(t *testing.T) {
 	r := rand.New(rand.NewPCG(83, 84))
 	for name, s := range large(r) {
-		w := parsed(t, s)
+		w := samples.Word(t, s)
 		m, e := turan.Decode(w)
-		if e != api.OK || m.Edges() != api.MaxEdges || !slices.Equal(m.List(), sigmaOf(modelVertices(s))) {
+		if e != api.OK || m.Edges() != api.MaxEdges || !slices.Equal(m.List(), samples.Sigma(modelVertices(s)...)) {
 			t.Fatalf("Decode of %s: %v", name, e)
 		}
 		if got := encoded(t, m); got != s {
-			t.Fatalf("Encode of %s: %s, want %s", name, short(got), short(s))
+			t.Fatalf("Encode of %s: %s, want %s", name, samples.Short(got), samples.Short(s))
 		}
 		if n, e := turan.Bits(m); n != 4*api.MaxEdges || e != api.OK {
 			t.Fatalf("Bits of %s: %d, %v", name, n, e)
@@ -356,10 +298,10 @@ func TestP12_Large(t *testing.T) {
 }
 
 func TestExamples(t *testing.T) {
-	if s := encoded(t, turned(t, 0, 0, []int{0, 5}, []int{1, 2}, []int{3, 4})); s != "(([))]" {
+	if s := encoded(t, samples.Turned(t, 0, 0, []int{0, 5}, []int{1, 2}, []int{3, 4})); s != "(([))]" {
 		t.Error(s)
 	}
-	if e := turan.Check(parsed(t, "[(])")); e != api.ErrCanon {
+	if e := turan.Check(samples.Word(t, "[(])")); e != api.ErrCanon {
 		t.Error(e)
 	}
 }

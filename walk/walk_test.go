@@ -9,33 +9,18 @@ import (
 	"parquetry/api"
 	"parquetry/dart"
 	"parquetry/mixed"
+	"parquetry/samples"
 	"parquetry/walk"
 )
-
-// made answers the map of sigma, root and lone, that are right.
-func made(t *testing.T, sigma []int, root, lone int) *dart.Map {
-	t.Helper()
-	m, e := dart.New(sigma, root, lone)
-	if e != api.OK || m == nil {
-		t.Fatalf("New of %d darts, %d, %d: %v", len(sigma), root, lone, e)
-	}
-	return m
-}
 
 // turned answers the map whose vertices' darts are these, counter-clockwise.
 func turned(t *testing.T, lone int, vertices ...[]int) *dart.Map {
 	t.Helper()
-	sigma := make([]int, len(slices.Concat(vertices...)))
-	for _, darts := range vertices {
-		for i, d := range darts {
-			sigma[d] = darts[(i+1)%len(darts)]
-		}
-	}
 	root := 0
-	if len(sigma) == 0 {
+	if len(vertices) == 0 {
 		root = -1
 	}
-	return made(t, sigma, root, lone)
+	return samples.Turned(t, root, lone, vertices...)
 }
 
 // walked answers the walk of m from root, that there is.
@@ -60,20 +45,6 @@ func steps(t *testing.T, text string, darts ...int) []walk.Step {
 		l = append(l, walk.Step{Dart: d, Kind: w.At(i)})
 	}
 	return l
-}
-
-// perms answers all permutations of 0 to n - 1, as lists.
-func perms(n int) [][]int {
-	if n == 0 {
-		return [][]int{{}}
-	}
-	var all [][]int
-	for _, l := range perms(n - 1) {
-		for at := range n {
-			all = append(all, slices.Insert(slices.Clone(l), at, n-1))
-		}
-	}
-	return all
 }
 
 // model answers the walk of m from root, told from the steps so far alone.
@@ -192,8 +163,8 @@ func checkTree(t *testing.T, m *dart.Map, l []walk.Step, vertices []int) {
 
 func TestP9_AllSmall(t *testing.T) {
 	for n := 2; n <= 6; n += 2 {
-		for _, sigma := range perms(n) {
-			m := made(t, sigma, n-1, n%3)
+		for _, sigma := range samples.Perms(n) {
+			m := samples.Map(t, sigma, n-1, n%3)
 			for root := range n {
 				check(t, m, root)
 			}
@@ -214,7 +185,7 @@ func TestP9_Random(t *testing.T) {
 				split[i], split[j] = split[j], split[i]
 			}
 			for _, sigma := range [][]int{whole, split} {
-				m := made(t, sigma, r.IntN(n), r.IntN(3))
+				m := samples.Map(t, sigma, r.IntN(n), r.IntN(3))
 				check(t, m, r.IntN(n))
 				check(t, m, m.Root())
 			}
@@ -282,25 +253,12 @@ func TestP9_1Errors(t *testing.T) {
 	}
 }
 
-// along is Sigma of a path of n darts: of each vertex but the first and the
-// last one the darts are an odd one and the next one.
-func along(d, n int) int {
-	switch {
-	case d == 0 || d == n-1:
-		return d
-	case d%2 == 1:
-		return d + 1
-	}
-	return d - 1
-}
-
 // TestP9_1Large walks what is as large as can be: a path, whose walk is as
 // deep as can be, a star, a fan of loops, and random turns.
 func TestP9_1Large(t *testing.T) {
 	n := 2 * api.MaxEdges
-	path, star, loops := make([]int, n), make([]int, n), make([]int, n)
+	star, loops := make([]int, n), make([]int, n)
 	for d := range n {
-		path[d] = along(d, n)
 		star[d] = d
 		if d%2 == 0 {
 			star[d] = (d + 2) % n
@@ -308,8 +266,8 @@ func TestP9_1Large(t *testing.T) {
 		loops[d] = (d + 1) % n
 	}
 	r := rand.New(rand.NewPCG(43, 44))
-	for i, sigma := range [][]int{path, star, loops, r.Perm(n)} {
-		m := made(t, sigma, n/2, i)
+	for i, sigma := range [][]int{samples.Path(n), star, loops, r.Perm(n)} {
+		m := samples.Map(t, sigma, n/2, i)
 		l := walked(t, m, m.Root())
 		met := make([]int, n)
 		for _, s := range l {

@@ -10,6 +10,7 @@ import (
 
 	"parquetry/api"
 	"parquetry/dart"
+	"parquetry/samples"
 	"parquetry/shell"
 	"parquetry/wood"
 )
@@ -253,7 +254,7 @@ func checkNone(t *testing.T, w *wood.Wood, m *dart.Map) {
 func TestP15_1All(t *testing.T) {
 	for i, want := range []int{1, 1, 3, 14} {
 		woods := 0
-		for _, m := range triangulations(t, i+3) {
+		for _, m := range samples.Triangulations(t, i+3) {
 			drafts(m, func(out []int) {
 				right := modelIsWood(m, out)
 				w, e := wood.Make(m, out)
@@ -298,7 +299,7 @@ func colorings(m *dart.Map, e int, out []int, use func()) {
 func TestP15_1Colorings(t *testing.T) {
 	for i, want := range []int{1, 1, 3} {
 		woods := 0
-		for _, m := range triangulations(t, i+3) {
+		for _, m := range samples.Triangulations(t, i+3) {
 			out := uncolored(m)
 			colorings(m, 0, out, func() {
 				w, e := wood.Make(m, out)
@@ -341,7 +342,7 @@ func TestP15_1Changed(t *testing.T) {
 	r := rand.New(rand.NewPCG(101, 102))
 	for _, n := range []int{4, 5, 6, 7, 9, 14, 30} {
 		for range 20 {
-			m := random(t, r, n)
+			m := samples.Triangulation(t, r.IntN, n)
 			out := modelOut(m)
 			for range 60 {
 				other := change(r, m, out)
@@ -361,7 +362,8 @@ func TestP15_1Changed(t *testing.T) {
 // TestP15_1Known names what breaks the wood of a triangle with one vertex in
 // it, 3, and with another one, 4, within the triangle of 0, 1 and 3.
 func TestP15_1Known(t *testing.T) {
-	m, darts := faced(t, []int{0, 1, 2}, []int{1, 0, 4}, []int{4, 0, 3}, []int{1, 4, 3}, []int{0, 2, 3}, []int{2, 1, 3})
+	faces := [][]int{{0, 1, 2}, {1, 0, 4}, {4, 0, 3}, {1, 4, 3}, {0, 2, 3}, {2, 1, 3}}
+	m, darts := samples.Faced(t, faces...), samples.Darts(faces)
 	// By the corners 0, 1 and 2: 3 goes to all of them, 4 to 0, 1 and 3.
 	right := map[[2]int]int{{3, 2}: 0, {3, 0}: 1, {3, 1}: 2, {4, 3}: 0, {4, 0}: 1, {4, 1}: 2}
 	outOf := func(changes map[[2]int]int) []int {
@@ -413,13 +415,13 @@ func checkOf(t *testing.T, m *dart.Map) {
 func TestP15_2AllSmall(t *testing.T) {
 	r := rand.New(rand.NewPCG(103, 104))
 	for i, want := range []int{1, 1, 3, 13, 68} {
-		all := triangulations(t, i+3)
+		all := samples.Triangulations(t, i+3)
 		if len(all) != want {
 			t.Errorf("%d triangulations of %d vertices, want %d", len(all), i+3, want)
 		}
 		for _, m := range all {
 			checkOf(t, m)
-			checkOf(t, renamed(t, r, m))
+			checkOf(t, samples.Renamed(t, r.IntN, m))
 		}
 	}
 }
@@ -428,7 +430,7 @@ func TestP15_2Random(t *testing.T) {
 	r := rand.New(rand.NewPCG(105, 106))
 	for _, n := range []int{8, 10, 15, 25, 40} {
 		for range 8 {
-			checkOf(t, random(t, r, n))
+			checkOf(t, samples.Triangulation(t, r.IntN, n))
 		}
 	}
 }
@@ -436,7 +438,7 @@ func TestP15_2Random(t *testing.T) {
 // TestP15_2Known names the wood of an octahedron, gone through by hand, whose
 // corners are 0, 1 and 4.
 func TestP15_2Known(t *testing.T) {
-	m, darts := faced(t, wheel(6)...)
+	m, darts := samples.Faced(t, samples.Wheel(6)...), samples.Darts(samples.Wheel(6))
 	w, e := wood.Of(m)
 	if e != api.OK {
 		t.Fatal(e)
@@ -453,7 +455,7 @@ func TestP15_2Known(t *testing.T) {
 }
 
 func TestP15_2Errors(t *testing.T) {
-	for name, m := range wrong(t) {
+	for name, m := range samples.NoTriangulations(t) {
 		if w, e := wood.Of(m); w != nil || e != api.ErrDomain {
 			t.Errorf("Of %s: %v", name, e)
 		}
@@ -474,7 +476,7 @@ func TestP15_2Errors(t *testing.T) {
 }
 
 func TestP15_2Range(t *testing.T) {
-	for _, m := range []*dart.Map{mapOf(t, stacked(3, nil)...), mapOf(t, wheel(6)...)} {
+	for _, m := range []*dart.Map{samples.Triangle(t), samples.Faced(t, samples.Wheel(6)...)} {
 		right := modelOut(m)
 		wooded(t, m, right)
 		for i := range right {
@@ -497,7 +499,7 @@ func TestP15_2Range(t *testing.T) {
 
 // TestP15_NewMemory writes over what was handed in, and what was answered.
 func TestP15_NewMemory(t *testing.T) {
-	m := mapOf(t, wheel(6)...)
+	m := samples.Faced(t, samples.Wheel(6)...)
 	want := modelOut(m)
 	out := slices.Clone(want)
 	w := wooded(t, m, out)
@@ -519,7 +521,7 @@ func TestP15_NewMemory(t *testing.T) {
 
 // TestP15_3AtOnce lets several goroutines ask.
 func TestP15_3AtOnce(t *testing.T) {
-	m := random(t, rand.New(rand.NewPCG(107, 108)), 60)
+	m := samples.Triangulation(t, rand.New(rand.NewPCG(107, 108)).IntN, 60)
 	w, e := wood.Of(m)
 	if e != api.OK {
 		t.Fatal(e)
@@ -597,19 +599,19 @@ func TestP15_Large(t *testing.T) {
 	n := (api.MaxEdges + 6) / 3
 	r := rand.New(rand.NewPCG(109, 110))
 	for _, faces := range [][][]int{
-		wheel(n), stacked(n, r.IntN),
-		stacked(n, func(int) int { return 0 }), stacked(n, func(k int) int { return k - 1 }),
+		samples.Wheel(n), samples.Stacked(n, r.IntN),
+		samples.Stacked(n, func(int) int { return 0 }), samples.Stacked(n, func(k int) int { return k - 1 }),
 	} {
-		m := mapOf(t, faces...)
+		m := samples.Faced(t, faces...)
 		checkShallow(t, m)
-		checkShallow(t, rooted(t, m, m.Darts()-1))
+		checkShallow(t, samples.Rooted(t, m, m.Darts()-1))
 	}
 }
 
 func TestExamples(t *testing.T) {
-	m := mapOf(t, stacked(3, nil)...)
+	m := samples.Triangle(t)
 	for d := range m.Darts() {
-		m := rooted(t, m, d)
+		m := samples.Rooted(t, m, d)
 		w, e := wood.Of(m)
 		if e != api.OK {
 			t.Fatal(e)

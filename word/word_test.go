@@ -14,18 +14,10 @@ import (
 	"parquetry/canon"
 	"parquetry/dart"
 	"parquetry/euler"
+	"parquetry/samples"
 	"parquetry/wood"
 	"parquetry/word"
 )
-
-// vec answers the bits of a text of 0 and 1.
-func vec(s string) *bits.Vec {
-	v := bits.New()
-	for _, sign := range s {
-		v.Add(int(sign - '0'))
-	}
-	return v
-}
 
 // encoded answers the code of m, that is a triangulation, as a text.
 func encoded(t *testing.T, m *dart.Map) string {
@@ -35,14 +27,6 @@ func encoded(t *testing.T, m *dart.Map) string {
 		t.Fatalf("Encode of %v, %d: %v", m.List(), m.Root(), e)
 	}
 	return v.Text()
-}
-
-// short answers a text, or the beginning of a long one.
-func short(s string) string {
-	if len(s) > 100 {
-		return fmt.Sprintf("%s.. (%d)", s[:100], len(s))
-	}
-	return s
 }
 
 // goingAround is what a model of a code knows of a triangulation.
@@ -98,28 +82,28 @@ func checkCode(t *testing.T, m *dart.Map) {
 	t.Helper()
 	s := encoded(t, m)
 	if want := modelCode(t, m); s != want {
-		t.Fatalf("Encode of %v, %d: %s, want %s", m.List(), m.Root(), short(s), short(want))
+		t.Fatalf("Encode of %v, %d: %s, want %s", m.List(), m.Root(), samples.Short(s), samples.Short(want))
 	}
 	n := m.Vertices()
-	if len(s) != 4*n-5 || word.Size(n) != len(s) || word.Vertices(vec(s)) != n {
-		t.Fatalf("of %d vertices: %d bits, Size %d, Vertices %d", n, len(s), word.Size(n), word.Vertices(vec(s)))
+	if len(s) != 4*n-5 || word.Size(n) != len(s) || word.Vertices(samples.Vec(s)) != n {
+		t.Fatalf("of %d vertices: %d bits, Size %d, Vertices %d", n, len(s), word.Size(n), word.Vertices(samples.Vec(s)))
 	}
-	got, e := word.Decode(vec(s))
+	got, e := word.Decode(samples.Vec(s))
 	want, _, _ := canon.Canon(m)
 	if e != api.OK || !dart.Same(got, want) {
-		t.Fatalf("Decode of %s: %v, %v, want %v", short(s), e, got.List(), want.List())
+		t.Fatalf("Decode of %s: %v, %v, want %v", samples.Short(s), e, got.List(), want.List())
 	}
 	if again := encoded(t, got); again != s {
-		t.Fatalf("Encode of Decode of %s: %s", short(s), short(again))
+		t.Fatalf("Encode of Decode of %s: %s", samples.Short(s), samples.Short(again))
 	}
 }
 
 func TestP16_AllSmall(t *testing.T) {
 	r := rand.New(rand.NewPCG(121, 122))
 	for n := 3; n <= 7; n++ {
-		for _, m := range triangulations(t, n) {
+		for _, m := range samples.Triangulations(t, n) {
 			checkCode(t, m)
-			checkCode(t, renamed(t, r, m))
+			checkCode(t, samples.Renamed(t, r.IntN, m))
 		}
 	}
 }
@@ -128,9 +112,9 @@ func TestP16_Random(t *testing.T) {
 	r := rand.New(rand.NewPCG(123, 124))
 	for _, n := range []int{8, 9, 12, 20, 40, 131, 200} {
 		for range 4 {
-			m := random(t, r, n)
+			m := samples.Triangulation(t, r.IntN, n)
 			for range 4 {
-				checkCode(t, rooted(t, m, r.IntN(m.Darts())))
+				checkCode(t, samples.Rooted(t, m, r.IntN(m.Darts())))
 			}
 		}
 	}
@@ -139,10 +123,10 @@ func TestP16_Random(t *testing.T) {
 // TestP16_1Known holds codes against those that are gone around by hand: of
 // five vertices, one of the root's three corners may have three darts alone.
 func TestP16_1Known(t *testing.T) {
-	if s := encoded(t, triangle(t)); s != "1010"+"100" {
+	if s := encoded(t, samples.Triangle(t)); s != "1010"+"100" {
 		t.Errorf("of a triangle: %s", s)
 	}
-	for _, m := range triangulations(t, 4) {
+	for _, m := range samples.Triangulations(t, 4) {
 		if s := encoded(t, m); s != "101010"+"11000" {
 			t.Errorf("of four vertices: %s", s)
 		}
@@ -152,7 +136,7 @@ func TestP16_1Known(t *testing.T) {
 		"434": "10101010" + "1110000",
 		"443": "10110010" + "1110000",
 	}
-	for _, m := range triangulations(t, 5) {
+	for _, m := range samples.Triangulations(t, 5) {
 		degrees := ""
 		for _, d := range m.Border(m.Root()) {
 			degrees += fmt.Sprint(m.Degree(m.Vertex(d)))
@@ -168,12 +152,12 @@ func TestP16_1Known(t *testing.T) {
 func TestP16_1Names(t *testing.T) {
 	r := rand.New(rand.NewPCG(125, 126))
 	for _, n := range []int{4, 5, 8, 30} {
-		m := random(t, r, n)
+		m := samples.Triangulation(t, r.IntN, n)
 		codes := map[string]int{}
 		for d := range m.Darts() {
-			from := rooted(t, m, d)
+			from := samples.Rooted(t, m, d)
 			codes[encoded(t, from)]++
-			if s := encoded(t, renamed(t, r, from)); s != encoded(t, from) {
+			if s := encoded(t, samples.Renamed(t, r.IntN, from)); s != encoded(t, from) {
 				t.Fatalf("by other names: %s, want %s", s, encoded(t, from))
 			}
 		}
@@ -187,7 +171,7 @@ func TestP16_1Errors(t *testing.T) {
 	if v, e := word.Encode(nil); v != nil || e != api.ErrNone {
 		t.Errorf("Encode of nil: %v", e)
 	}
-	for name, m := range wrong(t) {
+	for name, m := range samples.NoTriangulations(t) {
 		if v, e := word.Encode(m); v != nil || e != api.ErrDomain {
 			t.Errorf("Encode of %s: %v", name, e)
 		}
@@ -221,21 +205,13 @@ func TestP16_2Vertices(t *testing.T) {
 	}
 }
 
-// isBalanced tells whether ones and noughts are balanced.
-func isBalanced(s string) bool {
-	for strings.Contains(s, "10") {
-		s = strings.ReplaceAll(s, "10", "")
-	}
-	return s == ""
-}
-
 // modelFault is why bits aren't one of the codes that there are.
 func modelFault(s string, codes map[string]int) api.Errno {
 	n := (len(s) + 5) / 4
 	switch {
 	case len(s) < 7 || 4*n-5 != len(s):
 		return api.ErrForm
-	case !isBalanced(s[:2*n-2]):
+	case !samples.IsBalanced(s[:2*n-2], "10"):
 		return api.ErrBalance
 	case codes[s] == 0:
 		return api.ErrCanon
@@ -247,15 +223,15 @@ func modelFault(s string, codes map[string]int) api.Errno {
 // whether they are a code.
 func checkBits(t *testing.T, s string, want api.Errno) bool {
 	t.Helper()
-	m, e := word.Decode(vec(s))
+	m, e := word.Decode(samples.Vec(s))
 	if e != want || (m != nil) != (e == api.OK) {
-		t.Fatalf("Decode of %s: %v, %v, want %v", short(s), m.List(), e, want)
+		t.Fatalf("Decode of %s: %v, %v, want %v", samples.Short(s), m.List(), e, want)
 	}
 	if e != api.OK {
 		return false
 	}
 	if !canon.Is(m) || !euler.Triangulation(m) || encoded(t, m) != s {
-		t.Fatalf("Decode of %s: %v", short(s), m.List())
+		t.Fatalf("Decode of %s: %v", samples.Short(s), m.List())
 	}
 	return true
 }
@@ -264,7 +240,7 @@ func checkBits(t *testing.T, s string, want api.Errno) bool {
 func codesOf(t *testing.T, n int) map[string]int {
 	t.Helper()
 	codes := map[string]int{}
-	for _, m := range triangulations(t, n) {
+	for _, m := range samples.Triangulations(t, n) {
 		codes[encoded(t, m)]++
 	}
 	return codes
@@ -399,14 +375,14 @@ func TestP16_2Changed(t *testing.T) {
 	met := map[api.Errno]int{}
 	for _, n := range []int{5, 6, 8, 13, 60} {
 		for range 40 {
-			b := []byte(encoded(t, random(t, r, n)))
+			b := []byte(encoded(t, samples.Triangulation(t, r.IntN, n)))
 			for range 10 {
 				i, j := r.IntN(len(b)), r.IntN(len(b))
 				changed := slices.Clone(b)
 				changed[i], changed[j] = b[j], b[i]
-				_, e := word.Decode(vec(string(changed)))
+				_, e := word.Decode(samples.Vec(string(changed)))
 				met[e]++
-				if isBalanced(string(changed[:2*n-2])) != (e != api.ErrBalance) || e == api.ErrForm {
+				if samples.IsBalanced(string(changed[:2*n-2]), "10") != (e != api.ErrBalance) || e == api.ErrForm {
 					t.Fatalf("Decode of %s: %v", changed, e)
 				}
 				checkBits(t, string(changed), e)
@@ -435,19 +411,19 @@ func TestP16_Large(t *testing.T) {
 	r := rand.New(rand.NewPCG(129, 130))
 	n := 21847
 	many := strings.Repeat
-	wide, _ := word.Decode(vec(many("10", n-1) + many("1", n-2) + many("0", n-1)))
-	deep, _ := word.Decode(vec("10" + many("1", n-3) + many("0", n-3) + "10" + many("1", n-2) + many("0", n-1)))
+	wide, _ := word.Decode(samples.Vec(many("10", n-1) + many("1", n-2) + many("0", n-1)))
+	deep, _ := word.Decode(samples.Vec("10" + many("1", n-3) + many("0", n-3) + "10" + many("1", n-2) + many("0", n-1)))
 	for name, m := range map[string]*dart.Map{
 		"all beside c":                wide,
 		"each below the other":        deep,
-		"each in the one ahead of it": faced(t, nested(n, func(faces int) int { return faces - 1 })...),
-		"any in one another":          faced(t, nested(n, r.IntN)...),
+		"each in the one ahead of it": samples.Faced(t, samples.Stacked(n, func(faces int) int { return faces - 1 })...),
+		"any in one another":          samples.Faced(t, samples.Stacked(n, r.IntN)...),
 	} {
 		if m.Vertices() != n || m.Edges() != 3*n-6 {
 			t.Fatalf("%s: %d edges", name, m.Edges())
 		}
 		for _, d := range []int{0, 1, m.Darts() / 2, m.Darts() - 1} {
-			from := rooted(t, m, d)
+			from := samples.Rooted(t, m, d)
 			v, e := word.Encode(from)
 			if e != api.OK || v.Len() != 4*n-5 {
 				t.Fatalf("Encode of %s, %d: %v", name, d, e)
@@ -463,7 +439,7 @@ func TestP16_Large(t *testing.T) {
 
 // TestP16_Memory changes what was handed in, and what was answered.
 func TestP16_Memory(t *testing.T) {
-	m := triangle(t)
+	m := samples.Triangle(t)
 	for range 2 {
 		v, _ := word.Encode(m)
 		if v.Text() != "1010100" {
@@ -481,7 +457,7 @@ func TestP16_Memory(t *testing.T) {
 }
 
 func TestExamples(t *testing.T) {
-	v, e := word.Encode(triangle(t))
+	v, e := word.Encode(samples.Triangle(t))
 	if e != api.OK || v.Text() != "1010"+"100" {
 		t.Error(v.Text(), e)
 	}
