@@ -26,16 +26,6 @@ func rootOf(sigma []int) int {
 	return len(sigma) / 2
 }
 
-// beside answers both maps' parts in one, a's darts ahead.
-func beside(t *testing.T, a, b *dart.Map) *dart.Map {
-	t.Helper()
-	sigma := a.List()
-	for _, d := range b.List() {
-		sigma = append(sigma, d+a.Darts())
-	}
-	return samples.Map(t, sigma, rootOf(sigma), a.Lone()+b.Lone())
-}
-
 // orbits answers of each number the least one of its orbit.
 func orbits(to func(d int) int, n int) []int {
 	least := make([]int, n)
@@ -207,7 +197,7 @@ func plain(t *testing.T) []thing {
 		{name: "an octahedron", m: samples.Faced(t, samples.Wheel(6)...), parts: 1, isTriangulation: true},
 		{name: "a triangle and a lone vertex", m: turned(t, 1, []int{0, 5}, []int{1, 2}, []int{3, 4}), parts: 2},
 		{name: "two triangles", m: turned(t, 0, []int{0, 5}, []int{1, 2}, []int{3, 4}, []int{6, 11}, []int{7, 8}, []int{9, 10}), parts: 2},
-		{name: "two tetrahedra, one of them alone", m: beside(t, tetrahedron(t), tetrahedron(t)), parts: 2},
+		{name: "two tetrahedra, one of them alone", m: samples.Beside(t, tetrahedron(t), tetrahedron(t)), parts: 2},
 	}
 }
 
@@ -218,7 +208,7 @@ func other(t *testing.T) []thing {
 		{name: "a loop within a loop", m: turned(t, 0, []int{0, 1, 2, 3}), parts: 1, loops: 2},
 		{name: "two loops crossed", m: turned(t, 0, []int{0, 2, 1, 3}), parts: 1, genus: 1, loops: 2},
 		{name: "two times two loops crossed", m: turned(t, 2, []int{0, 2, 1, 3}, []int{4, 6, 5, 7}), parts: 4, genus: 2, loops: 4},
-		{name: "two loops crossed, and a triangle", m: beside(t, turned(t, 0, []int{0, 2, 1, 3}), samples.Faced(t, []int{0, 1, 2}, []int{0, 2, 1})), parts: 2, genus: 1, loops: 2},
+		{name: "two loops crossed, and a triangle", m: samples.Beside(t, turned(t, 0, []int{0, 2, 1, 3}), samples.Faced(t, []int{0, 1, 2}, []int{0, 2, 1})), parts: 2, genus: 1, loops: 2},
 		{name: "two edges side by side", m: turned(t, 0, []int{0, 2}, []int{1, 3}), parts: 1, doubles: 1},
 		{name: "two edges side by side, one turned", m: turned(t, 0, []int{0, 3}, []int{1, 2}), parts: 1, doubles: 1},
 		{name: "three edges side by side", m: turned(t, 0, []int{0, 2, 4}, []int{5, 3, 1}), parts: 1, doubles: 2},
@@ -263,7 +253,7 @@ func TestP8_Known(t *testing.T) {
 // triangulations: it is not their borders that keep them from it.
 func TestP8_2TrianglesAlone(t *testing.T) {
 	for _, m := range []*dart.Map{
-		beside(t, tetrahedron(t), tetrahedron(t)), samples.Faced(t, samples.Torus()...), doubled(t),
+		samples.Beside(t, tetrahedron(t), tetrahedron(t)), samples.Faced(t, samples.Torus()...), doubled(t),
 		turned(t, 0, []int{0, 2, 1, 4}, []int{3}, []int{5}), turned(t, 0, []int{0, 2, 4, 1, 3, 5}),
 	} {
 		if !modelOf(m).triangles || euler.Triangulation(m) {

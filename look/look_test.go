@@ -47,32 +47,6 @@ func rightTexts(edges int) []string {
 	return all
 }
 
-// anyText answers the text of some right word of so many edges: of ten pairs
-// so many are round, and of ten letters so many open.
-func anyText(r *rand.Rand, edges, rounds, opens int) string {
-	s := make([]byte, 0, 2*edges)
-	var within []int // of each round pair that is open, how many square ones are within it alone
-	squares := 0     // how many are, of what is around them all
-	for opened := 0; len(s) < 2*edges; {
-		switch {
-		case opened < edges && (squares+len(within) == 0 || r.IntN(10) < opens):
-			opened++
-			if r.IntN(10) < rounds {
-				s, within, squares = append(s, '('), append(within, squares), 0
-			} else {
-				s, squares = append(s, '['), squares+1
-			}
-		case squares > 0 && (len(within) == 0 || r.IntN(10) >= rounds):
-			s, squares = append(s, ']'), squares-1
-		default:
-			// The square pairs that are open yet are within what is around, too.
-			last := len(within) - 1
-			s, squares, within = append(s, ')'), squares+within[last], within[:last]
-		}
-	}
-	return string(s)
-}
-
 // model is the map of a word, by the places of its letters.
 type model struct {
 	m       *dart.Map
@@ -342,7 +316,7 @@ func TestP13_2Random(t *testing.T) {
 	r := rand.New(rand.NewPCG(91, 92))
 	for _, edges := range []int{5, 8, 20, 127, 128, 129, 260} {
 		for range 10 {
-			checkAll(t, anyText(r, edges, 1+r.IntN(9), 1+r.IntN(9)))
+			checkAll(t, samples.RightText(r.IntN, edges, 1+r.IntN(9), 1+r.IntN(9)))
 		}
 	}
 }
@@ -402,9 +376,9 @@ func large(r *rand.Rand) map[string]string {
 		"loops along a path":    many("([", n/2) + many("])", n/2),
 		"edges side by side":    "(" + many("[", n-1) + ")" + many("]", n-1),
 		"loops around a star":   many("[", n/2) + many("()", n/2) + many("]", n/2),
-		"any":                   anyText(r, n, 5, 6),
-		"any, of few vertices":  anyText(r, n, 1, 5),
-		"any, of many vertices": anyText(r, n, 9, 5),
+		"any":                   samples.RightText(r.IntN, n, 5, 6),
+		"any, of few vertices":  samples.RightText(r.IntN, n, 1, 5),
+		"any, of many vertices": samples.RightText(r.IntN, n, 9, 5),
 	}
 }
 
@@ -513,7 +487,7 @@ func TestP13_3Asked(t *testing.T) {
 
 // TestP13_3AtOnce lets several goroutines ask, the first questions too.
 func TestP13_3AtOnce(t *testing.T) {
-	s := anyText(rand.New(rand.NewPCG(95, 96)), 700, 6, 6)
+	s := samples.RightText(rand.New(rand.NewPCG(95, 96)).IntN, 700, 6, 6)
 	l, x := looked(t, s), modelOf(t, s)
 	var all sync.WaitGroup
 	wrong := make([]int, 8)
@@ -540,7 +514,7 @@ func TestP13_3Size(t *testing.T) {
 	r := rand.New(rand.NewPCG(97, 98))
 	for _, edges := range []int{1, 2, 127, 128, 129, 255, 256, 257, 512, 513, 1024, 1025, 3000, 1<<14 - 1, 1 << 14, 1<<14 + 1, api.MaxEdges - 1, api.MaxEdges} {
 		for _, s := range []string{
-			strings.Repeat("()", edges), strings.Repeat("[]", edges), anyText(r, edges, 5, 5),
+			strings.Repeat("()", edges), strings.Repeat("[]", edges), samples.RightText(r.IntN, edges, 5, 5),
 		} {
 			l := looked(t, s)
 			size := l.Size()

@@ -123,3 +123,29 @@ func Names(pick func(n int) int, edges int) []int {
 	}
 	return l
 }
+
+// RightText answers the text of some word of so many edges that some planar
+// map has: of ten pairs so many are round, and of ten letters so many open.
+func RightText(pick func(n int) int, edges, rounds, opens int) string {
+	s := make([]byte, 0, 2*edges)
+	var within []int // of each round pair that is open, how many square ones are within it alone
+	squares := 0     // how many are, of what is around them all
+	for opened := 0; len(s) < 2*edges; {
+		switch {
+		case opened < edges && (squares+len(within) == 0 || pick(10) < opens):
+			opened++
+			if pick(10) < rounds {
+				s, within, squares = append(s, '('), append(within, squares), 0
+			} else {
+				s, squares = append(s, '['), squares+1
+			}
+		case squares > 0 && (len(within) == 0 || pick(10) >= rounds):
+			s, squares = append(s, ']'), squares-1
+		default:
+			// The square pairs that are open yet are within what is around, too.
+			last := len(within) - 1
+			s, squares, within = append(s, ')'), squares+within[last], within[:last]
+		}
+	}
+	return string(s)
+}

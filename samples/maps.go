@@ -8,6 +8,7 @@ import (
 	"parquetry/dual"
 	"parquetry/mixed"
 	"parquetry/perm"
+	"parquetry/turan"
 )
 
 // Test is what of a test is called here: it is failed, and ended, where what
@@ -120,4 +121,42 @@ func Word(t Test, s string) *mixed.Word {
 		t.Fatalf("Parse of %s: %d, %v", Short(s), n, err)
 	}
 	return w
+}
+
+// Drawn answers the canonical map whose word s tells, that is right.
+func Drawn(t Test, s string) *dart.Map {
+	t.Helper()
+	m, err := turan.Decode(Word(t, s))
+	if err != api.OK {
+		t.Fatalf("Decode of %s: %v", Short(s), err)
+	}
+	return m
+}
+
+// Planar answers some planar map of one part, of so many edges, 1 at least, by
+// some names and from some root.
+func Planar(t Test, pick func(n int) int, edges int) *dart.Map {
+	t.Helper()
+	m := Renamed(t, pick, Drawn(t, RightText(pick, edges, 1+pick(9), 1+pick(9))))
+	return Rooted(t, m, pick(m.Darts()))
+}
+
+// Beside answers the parts of these maps in one, those ahead of others with
+// the lower darts, from the least dart on.
+func Beside(t Test, maps ...*dart.Map) *dart.Map {
+	t.Helper()
+	var sigma []int
+	lone := 0
+	for _, m := range maps {
+		first := len(sigma)
+		for _, d := range m.List() {
+			sigma = append(sigma, first+d)
+		}
+		lone += m.Lone()
+	}
+	root := 0
+	if len(sigma) == 0 {
+		root = -1
+	}
+	return Map(t, sigma, root, lone)
 }

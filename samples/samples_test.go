@@ -5,10 +5,12 @@ import (
 	"slices"
 	"testing"
 
+	"parquetry/api"
 	"parquetry/canon"
 	"parquetry/dart"
 	"parquetry/euler"
 	"parquetry/samples"
+	"parquetry/turan"
 )
 
 // different is how many of these there are that are not the same.
@@ -41,6 +43,9 @@ func TestLists(t *testing.T) {
 	}
 	r := rand.New(rand.NewPCG(1, 2))
 	for n := range 40 {
+		if s := samples.RightText(r.IntN, n, 1+r.IntN(9), 1+r.IntN(9)); len(s) != 2*n || turan.Check(samples.Word(t, s)) != api.OK {
+			t.Errorf("RightText: %s", s)
+		}
 		for _, l := range [][]int{samples.Shuffled(r.IntN, n), samples.Names(r.IntN, n), samples.Split(r.IntN, n), samples.Path(2*n + 2)} {
 			samples.Perm(t, l)
 		}
@@ -63,6 +68,19 @@ func TestMaps(t *testing.T) {
 		if m.Vertices() != n || !euler.Triangulation(m) || !canon.Iso(m, samples.Renamed(t, r.IntN, m)) {
 			t.Errorf("Triangulation of %d", n)
 		}
+	}
+	for edges := 1; edges < 30; edges++ {
+		m := samples.Planar(t, r.IntN, edges)
+		if m.Edges() != edges || !euler.Connected(m) || !euler.Planar(m) {
+			t.Errorf("Planar of %d", edges)
+		}
+		both := samples.Beside(t, m, samples.Map(t, nil, -1, 2), samples.Triangle(t))
+		if both.Edges() != edges+3 || both.Lone() != 2 || len(euler.Parts(both)) != 4 || both.Sigma(2*edges) < 2*edges {
+			t.Errorf("Beside of %d", edges)
+		}
+	}
+	if m := samples.Beside(t); m.Root() != -1 || m.Lone() != 0 {
+		t.Error("Beside of none")
 	}
 	for name, m := range samples.NoTriangulations(t) {
 		if euler.Triangulation(m) {

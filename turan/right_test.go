@@ -17,39 +17,6 @@ import (
 	"parquetry/walk"
 )
 
-// anyRight answers some right word of so many edges: of ten letters that may
-// be either, so many are round, and so many open.
-func anyRight(r *rand.Rand, edges, rounds, opens int) string {
-	s := make([]byte, 0, 2*edges)
-	var round, square []int
-	for left := edges; len(s) < 2*edges; {
-		isRound := r.IntN(10) < rounds
-		if left > 0 && (len(round)+len(square) == 0 || r.IntN(10) < opens) {
-			left--
-			if isRound {
-				round = append(round, len(s))
-				s = append(s, '(')
-			} else {
-				square = append(square, len(s))
-				s = append(s, '[')
-			}
-			continue
-		}
-		// A Right leads to the vertex that opened last: its Left must be
-		// behind that.
-		may := len(square) > 0 && (len(round) == 0 || square[len(square)-1] > round[len(round)-1])
-		switch {
-		case may && (!isRound || len(round) == 0):
-			square = square[:len(square)-1]
-			s = append(s, ']')
-		case len(round) > 0:
-			round = round[:len(round)-1]
-			s = append(s, ')')
-		}
-	}
-	return string(s)
-}
-
 // modelNames answers of each place of a balanced text its dart, by stacks.
 func modelNames(s string) []int {
 	var names []int
@@ -290,7 +257,7 @@ func TestP12_2Random(t *testing.T) {
 	r := rand.New(rand.NewPCG(87, 88))
 	for _, edges := range []int{7, 8, 20, 127, 128, 129, 600} {
 		for range 20 {
-			s := anyRight(r, edges, 1+r.IntN(9), 1+r.IntN(9))
+			s := samples.RightText(r.IntN, edges, 1+r.IntN(9), 1+r.IntN(9))
 			if !checkWord(t, s) {
 				t.Fatalf("%s is refused", s)
 			}

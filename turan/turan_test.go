@@ -226,22 +226,12 @@ func TestP12_1NewMemory(t *testing.T) {
 	}
 }
 
-// anyRenaming answers some permutation that takes mates to mates.
-func anyRenaming(r *rand.Rand, edges int) []int {
-	l := make([]int, 2*edges)
-	for e, to := range r.Perm(edges) {
-		turn := r.IntN(2)
-		l[2*e], l[2*e+1] = 2*to+turn, 2*to+1-turn
-	}
-	return l
-}
-
 // anyPlanar answers some planar map of one part, of so many edges, by some
 // names and from some root.
 func anyPlanar(t *testing.T, r *rand.Rand, edges int) *dart.Map {
 	t.Helper()
-	sigma := samples.Sigma(modelVertices(anyRight(r, edges, 1+r.IntN(9), 1+r.IntN(9)))...)
-	names := anyRenaming(r, edges)
+	sigma := samples.Sigma(modelVertices(samples.RightText(r.IntN, edges, 1+r.IntN(9), 1+r.IntN(9)))...)
+	names := samples.Names(r.IntN, edges)
 	named := make([]int, len(sigma))
 	for d, next := range sigma {
 		named[names[d]] = names[next]
@@ -268,10 +258,10 @@ func large(r *rand.Rand) map[string]string {
 		"edges side by side":      "(" + many("[", n-1) + ")" + many("]", n-1),
 		"a fan":                   "(" + many("([", n/2-1) + "[" + many(")", n/2) + many("]", n/2),
 		"loops around a star":     many("[", n/2) + many("()", n/2) + many("]", n/2),
-		"any":                     anyRight(r, n, 5, 5),
-		"any, deep":               anyRight(r, n, 9, 9),
-		"any, of few vertices":    anyRight(r, n, 1, 5),
-		"any, of many short ones": anyRight(r, n, 5, 2),
+		"any":                     samples.RightText(r.IntN, n, 5, 5),
+		"any, deep":               samples.RightText(r.IntN, n, 9, 9),
+		"any, of few vertices":    samples.RightText(r.IntN, n, 1, 5),
+		"any, of many short ones": samples.RightText(r.IntN, n, 5, 2),
 	}
 }
 
