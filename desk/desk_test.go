@@ -274,22 +274,24 @@ func TestP25_2Run(t *testing.T) {
 		text string
 		want []string
 	}{
-		{"", nil},
-		{"word\n", []string{"word ()"}},
+		{"", []string{"error 13"}},
 		{"word", []string{"word ()"}},
-		{"leaf 0\nword\n", []string{"ok", "word ()()"}},
+		{"word\n", []string{"word ()", "error 13"}},
 		{"leaf 0\nword", []string{"ok", "word ()()"}},
-		{"\n", []string{"error 13"}},
-		{"\n\n", []string{"error 13", "error 13"}},
-		{"\nword\n", []string{"error 13", "word ()"}},
-		{"leaf 0\n\nword\n", []string{"ok", "error 13", "word ()()"}},
-		{"leaf 0\n\n", []string{"ok", "error 13"}},
+		{"leaf 0\nword\n", []string{"ok", "word ()()", "error 13"}},
+		{"\n", []string{"error 13", "error 13"}},
+		{"\n\n", []string{"error 13", "error 13", "error 13"}},
+		{"\nword", []string{"error 13", "word ()"}},
+		{"\nword\n", []string{"error 13", "word ()", "error 13"}},
+		{"leaf 0\n\nword", []string{"ok", "error 13", "word ()()"}},
+		{"leaf 0\n\n", []string{"ok", "error 13", "error 13"}},
 		{"leaf 0\n ", []string{"ok", "error 13"}},
-		{"leaf 0\r\nword\n", []string{"error 13", "word ()"}},
-		{"leaf 0\rword\n", []string{"error 13"}},
-		{"leaf 0;word\n", []string{"error 13"}},
-		{"load 2 0 0;0 1;2 3;\nprint\nleaf 9\nprint\nseed\ncounts\n", []string{"ok", "print 2 0 0;0 1;2 3;", "error 1", "print 2 0 0;0 1;2 3;", "ok", "counts 2 1 1 1 0"}},
-		{"load 1 0 0\n0\n1\n", []string{"error 13", "error 13", "error 13"}},
+		{"leaf 0\r\nword", []string{"error 13", "word ()"}},
+		{"leaf 0\n\rword", []string{"ok", "error 13"}},
+		{"leaf 0\rword", []string{"error 13"}},
+		{"leaf 0;word", []string{"error 13"}},
+		{"load 2 0 0;0 1;2 3;\nprint\nleaf 9\nprint\nseed\ncounts", []string{"ok", "print 2 0 0;0 1;2 3;", "error 1", "print 2 0 0;0 1;2 3;", "ok", "counts 2 1 1 1 0"}},
+		{"load 1 0 0\n0\n1\n", []string{"error 13", "error 13", "error 13", "error 13"}},
 	} {
 		for range 2 { // each time on a new desk
 			if got := desk.Run(x.text); !slices.Equal(got, x.want) {
@@ -297,8 +299,47 @@ func TestP25_2Run(t *testing.T) {
 			}
 		}
 	}
-	if got := desk.Run(strings.Repeat("leaf 0\n", 500) + "degree 0\n"); len(got) != 501 || got[500] != "degree 501" {
+	if got := desk.Run(strings.Repeat("leaf 0\n", 500) + "degree 0"); len(got) != 501 || got[500] != "degree 501" {
 		t.Error(len(got), got[len(got)-1])
+	}
+	if got := desk.Run(strings.Repeat("\n", 1<<16)); len(got) != 1<<16+1 || slices.ContainsFunc(got, func(s string) bool { return s != "error 13" }) {
+		t.Error(len(got))
+	}
+}
+
+// linesOf goes through text byte by byte: each 0a ends a line, and what is
+// behind the last one is a line, too, whatever it is.
+func linesOf(text string) []string {
+	lines := []string{""}
+	for i := range len(text) {
+		if text[i] == '\n' {
+			lines = append(lines, "")
+		} else {
+			lines[len(lines)-1] += text[i : i+1]
+		}
+	}
+	return lines
+}
+
+// TestP25_2RunLines runs all short texts of 0a, right lines, and wrong ones: as
+// many lines are answered as there are 0a, and one more, each as a desk answers
+// them one behind the other.
+func TestP25_2RunLines(t *testing.T) {
+	parts := strings.NewReplacer("n", "\n", "l", "leaf 0", "w", "word", "b", " ")
+	for n := range 7 {
+		for _, s := range samples.Texts("nlwb", n) {
+			text := parts.Replace(s)
+			lines, got := linesOf(text), desk.Run(text)
+			if want := strings.Count(text, "\n") + 1; len(lines) != want || len(got) != want {
+				t.Fatalf("%q: %q, %d lines, want %d", text, got, len(lines), want)
+			}
+			d := desk.New()
+			for i, line := range lines {
+				if want := d.Do(line); got[i] != want {
+					t.Fatalf("%q: %q, want %q of line %d", text, got, want, i)
+				}
+			}
+		}
 	}
 }
 
@@ -314,7 +355,7 @@ func TestP25_2Nil(t *testing.T) {
 }
 
 func TestExamples(t *testing.T) {
-	if got := desk.Run("leaf 0\nword\n"); !slices.Equal(got, []string{"ok", "word ()()"}) {
+	if got := desk.Run("leaf 0\nword"); !slices.Equal(got, []string{"ok", "word ()()"}) {
 		t.Error(got)
 	}
 	checkSaid(t, desk.New(), said{"counts", "counts 2 1 1 1 0"})
